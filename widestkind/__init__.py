@@ -1,0 +1,1 @@
+"""Widestkind: the one widest kind of every text, or all least lots of places that cannot stand together."""

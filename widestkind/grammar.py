@@ -1,0 +1,148 @@
+"""The grammar of texts, as rows of symbols for each form and the token at which it goes on.
+
+Forms are written in capitals. The other symbols are:
+- `#`: a part begins here; `!fn` and the like: a part of a tree is made; `?num` and the like: one of a kind.
+- `word`, `plain`, `number`, `power`, `tag`, `'` and `sign`: a token of this sort, which is kept.
+- anything else: just this token, which is not kept.
+
+A form has one row for each sort of token with which it can begin, and perhaps one for all others, at `""`.
+"""
+from widestkind.words import OWN_WORDS
+
+KEPT = ("word", "plain", "number", "power", "tag", "'", "sign")
+
+ROWS = {
+    ("TREE", "fn"): "# fn word -> TREE !fn",
+    ("TREE", "let"): "# let word = TREE in TREE !let",
+    ("TREE", "rec"): "# rec word word = TREE in TREE !rec",
+    ("TREE", ""): "SUM COMPARED",
+    ("COMPARED", "<"): "sign SUM !op",
+    ("COMPARED", ""): "",
+    ("SUM", ""): "PRODUCT SUMS",
+    ("SUMS", "+"): "sign PRODUCT !op SUMS",
+    ("SUMS", "-"): "sign PRODUCT !op SUMS",
+    ("SUMS", ""): "",
+    ("PRODUCT", ""): "CALLED PRODUCTS",
+    ("PRODUCTS", "*"): "sign CALLED !op PRODUCTS",
+    ("PRODUCTS", "/"): "sign CALLED !op PRODUCTS",
+    ("PRODUCTS", ""): "",
+    ("CALLED", ""): "SMALL CALLS",
+    ("CALLS", "("): "( TREE ) !call CALLS",
+    ("CALLS", "."): ". word !field CALLS",
+    ("CALLS", ""): "",
+    ("SMALL", "word"): "# word !name",
+    ("SMALL", "number"): "# number UNIT !number",
+    ("UNIT", "["): "[ MEASURE ]",
+    ("UNIT", ""): "",
+    ("SMALL", "("): "# ( TREE INNER",
+    ("INNER", ":"): ": KIND ) !told",
+    ("INNER", ""): ") !inner",
+    ("SMALL", "{"): "# { FIELDS",
+    ("FIELDS", "}"): "} !record",
+    ("FIELDS", "label"): "ENTRY ENTRIES } !record",
+    ("FIELDS", ""): "TREE with word = TREE } !with",
+    ("ENTRY", ""): "word = TREE",
+    ("ENTRIES", ","): ", ENTRY ENTRIES",
+    ("ENTRIES", ""): "",
+    ("SMALL", "tag"): "# tag CONTENT !tag",
+    ("CONTENT", "("): "( TREE )",
+    ("CONTENT", ""): "",
+    ("SMALL", "match"): "# match TREE { ROW OTHERS } !match",
+    ("ROW", ""): "# PATTERN -> TREE !row",
+    ("OTHERS", ";"): "; ROW OTHERS",
+    ("OTHERS", ""): "",
+    ("SMALL", "fail"): "# fail word !fail",
+    ("SMALL", "@"): "# @ plain ( GIVEN ) !macro",
+    ("GIVEN", ")"): "",
+    ("GIVEN", ""): "TREE FURTHER",
+    ("FURTHER", ","): ", TREE FURTHER",
+    ("FURTHER", ""): "",
+    ("PATTERN", "_"): "# _ !any",
+    ("PATTERN", "word"): "# word !bind",
+    ("PATTERN", "tag"): "# tag HELD !tag",
+    ("HELD", "("): "( PATTERN )",
+    ("HELD", ""): "",
+    ("PATTERN", "{"): "# { SLOTS",
+    ("SLOTS", "}"): "} !record",
+    ("SLOTS", ""): "SLOT FURTHER_SLOTS } !record",
+    ("SLOT", ""): "word = PATTERN",
+    ("FURTHER_SLOTS", ","): ", SLOT FURTHER_SLOTS",
+    ("FURTHER_SLOTS", ""): "",
+    ("MEASURE", ""): "# word POWER FACTORS ?measure",
+    ("FACTORS", "word"): "word POWER FACTORS",
+    ("FACTORS", ""): "",
+    ("POWER", "^"): "^ SIGNED",
+    ("POWER", ""): "",
+    ("SIGNED", "-"): "sign power",
+    ("SIGNED", ""): "power",
+    ("KIND", ""): "KINDS ARROW",
+    ("ARROW", "->"): "-> KIND ?fn",
+    ("ARROW", ""): "",
+    ("KINDS", "num"): "# num SCALED ?num",
+    ("SCALED", "["): "[ SCALE ]",
+    ("SCALED", ""): "",
+    ("SCALE", "word"): "# word POWER SCALES ?measure",
+    ("SCALE", "'"): "# ' POWER SCALES ?measure",
+    ("SCALES", "word"): "word POWER SCALES",
+    ("SCALES", "'"): "' POWER SCALES",
+    ("SCALES", ""): "",
+    ("KINDS", "'"): "# ' ?name",
+    ("KINDS", "word"): "# plain OWNED ?own",
+    ("OWNED", "("): "( KIND SECOND )",
+    ("OWNED", ""): "",
+    ("SECOND", ","): ", KIND THIRD",
+    ("SECOND", ""): "",
+    ("THIRD", ","): ", KIND",
+    ("THIRD", ""): "",
+    ("KINDS", "("): "( KIND )",
+    ("KINDS", "{"): "# { LABELS",
+    ("LABELS", "}"): "} ?record",
+    ("LABELS", "|"): "| ' } ?record",
+    ("LABELS", ""): "word : KIND FURTHER_LABELS REST } ?record",
+    ("FURTHER_LABELS", ","): ", word : KIND FURTHER_LABELS",
+    ("FURTHER_LABELS", ""): "",
+    ("REST", "|"): "| '",
+    ("REST", ""): "",
+    ("KINDS", "<"): "# < TAGS",
+    ("TAGS", ">"): "> ?variant",
+    ("TAGS", "|"): "| ' > ?variant",
+    ("TAGS", ""): "tag : KIND FURTHER_TAGS REST > ?variant",
+    ("FURTHER_TAGS", ","): ", tag : KIND FURTHER_TAGS",
+    ("FURTHER_TAGS", ""): "",
+}
+
+
+def sort_of(token):
+    """The sort of a token, by which a row is chosen: `word`, `number`, `tag`, `'`, `$`, or the token itself."""
+    if token in OWN_WORDS or token == "":
+        return token
+    if "a" <= token[0] <= "z":
+        return "word"
+    if "A" <= token[0] <= "Z":
+        return "tag"
+    if "0" <= token[0] <= "9":
+        return "number"
+    if token[0] in ("'", "$"):
+        return token[0]
+    return token
+
+
+def row_of(form, sort):
+    """The row with which a form goes on at a token of a sort, or None."""
+    if (form, sort) in ROWS:
+        return ROWS[(form, sort)].split()
+    if (form, "") in ROWS:
+        return ROWS[(form, "")].split()
+    return None
+
+
+def takes(symbol, token):
+    """Whether a symbol that is no form takes a token."""
+    sort = sort_of(token)
+    if symbol == "plain":
+        return sort == "word" and "a" <= token[-1] <= "z"
+    if symbol == "power":
+        return sort == "number" and token != "0"
+    if symbol in KEPT:
+        return symbol == sort or symbol == "sign" and sort in ("+", "-", "*", "/", "<")
+    return symbol == token

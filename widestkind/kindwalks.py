@@ -1,0 +1,74 @@
+"""Ways through kinds that may be deep, with lists of what is still to come in the place of deep recursion."""
+from widestkind.powers import is_name
+
+
+def kinds_in(kind):
+    """The kinds directly within a kind, from left to right."""
+    if kind[0] == "fn":
+        return [kind[1], kind[2]]
+    if kind[0] in ("record", "variant"):
+        return [inner for label, inner in kind[1]]
+    if kind[0] == "own":
+        return list(kind[2])
+    return []
+
+
+def folded(kind, combine):
+    """What `combine` makes of a kind and of the list of what it has made of the kinds directly within it."""
+    done = []
+    waiting = [(kind, False)]
+    while waiting:
+        part, ready = waiting.pop()
+        inner = kinds_in(part)
+        if inner and not ready:
+            waiting.append((part, True))
+            waiting.extend([(one, False) for one in inner[::-1]])
+        else:
+            first = len(done) - len(inner)
+            made = combine(part, done[first:])
+            del done[first:]
+            done.append(made)
+    return done[0]
+
+
+def rebuilt(kind, inner):
+    """The kind with other kinds in the place of those directly within it."""
+    if kind[0] == "fn":
+        return ("fn", inner[0], inner[1])
+    if kind[0] in ("record", "variant"):
+        entries = [(entry[0], made) for entry, made in zip(kind[1], inner)]
+        return (kind[0], tuple(entries), kind[2])
+    if kind[0] == "own":
+        return ("own", kind[1], tuple(inner))
+    return kind
+
+
+def uses_in(kind):
+    """The list of the tuples of a kind name and its use, in the order of the text of the kind.
+
+    A use is a tuple of `"kind"`, `"record"`, `"variant"` or `"measure"`, and of the labels or tags beside a row name.
+    """
+    found = []
+    waiting = [(kind, None)]
+    while waiting:
+        part, name = waiting.pop()
+        if name is not None:
+            found.append((name, (part[0], tuple([entry[0] for entry in part[1]]))))
+        elif part[0] == "name":
+            found.append((part[1], ("kind", ())))
+        elif part[0] == "num":
+            found.extend([(factor, ("measure", ())) for factor, _ in part[1] if is_name(factor)])
+        elif part[0] in ("record", "variant") and part[2] is not None:
+            waiting.append((part, part[2]))
+        if name is None:
+            waiting.extend([(inner, None) for inner in kinds_in(part)[::-1]])
+    return found
+
+
+def first_uses(kinds):
+    """The dict from the kind names of a list of kinds that are told together to their uses, in their order."""
+    found = {}
+    for kind in kinds:
+        for name, use in uses_in(kind):
+            found[name] = use
+    return found

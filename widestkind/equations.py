@@ -188,9 +188,8 @@ def paper_of(weights, deeds, many):
     return [Ratio(found[index].top % found[index].bottom, found[index].bottom) for index in range(many)]
 
 
-def fresh_names(many, fixed):
-    """So many measure names that are not fixed."""
-    known = {name: True for name in fixed}
+def fresh_names(many, known):
+    """So many measure names that are not known."""
     found = []
     index = 0
     while len(found) < many:
@@ -203,11 +202,11 @@ def fresh_names(many, fixed):
     return found
 
 
-def free_values(lattice, names, begin, fixed):
-    """What names have of fresh names, by the columns of the lattice that begin behind all equations."""
+def free_values(lattice, names, begin, known):
+    """What names have of names that are not known, by the columns of the lattice that begin behind all equations."""
     values = {name: {} for name in names}
     rows = sorted([row for row in lattice.basis if row >= begin])
-    for fresh, row in zip(fresh_names(len(rows), fixed), rows):
+    for fresh, row in zip(fresh_names(len(rows), known), rows):
         for at, number in lattice.basis[row].items():
             values[names[at - begin]][fresh] = number
     return values
@@ -221,12 +220,15 @@ def value_of(powers, rest, values):
     return total
 
 
-def left_values(system, names, fixed):
-    """The values of the names that a system has left, or None and the weights that show that there are none."""
+def left_values(system, names, known):
+    """The values of the names that a system has left, in which no known name stands.
+
+    Or None, and the weights that show that there are none.
+    """
     indexes = sorted(system.rows)
     left = [system.rows[index] for index in indexes]
     lattice = lattice_of(left, names)
-    values = free_values(lattice, names, len(left), fixed)
+    values = free_values(lattice, names, len(left), known)
     bases = {base: True for row in left for base in row.rest}
     for base in bases:
         column = {at: -row.rest[base] for at, row in enumerate(left) if base in row.rest}
@@ -249,7 +251,8 @@ def worked_out(equations, fixed):
     values, weights = None, system.weights
     if weights is None:
         told = {name: True for name, powers, _ in system.told if name not in powers}
-        values, weights = left_values(system, [name for name in names if name not in told], fixed)
+        known.update({name: True for name in fixed})
+        values, weights = left_values(system, [name for name in names if name not in told], known)
     if weights is not None:
         return None, paper_of(weights, system.deeds, len(equations))
     for name, powers, rest in system.told[::-1]:

@@ -6,7 +6,7 @@ import unittest
 
 PACKAGE = os.path.join(os.path.dirname(os.path.dirname(os.path.abspath(__file__))), "widestkind")
 
-LIBRARY = {"math": {"gcd", "lcm", "isqrt", "comb"}}
+LIBRARY = {"math": {"gcd", "lcm"}, "heapq": {"heapify", "heappop", "heappush"}}
 BUILTINS = set("""len range enumerate zip min max sum abs sorted reversed int str bool list tuple dict set isinstance
 ord repr any all property divmod ValueError TypeError KeyError IndexError LookupError True False None""".split())
 METHODS = set("""append clear copy count endswith extend find get index insert isalnum isalpha isdigit islower isspace

@@ -3,6 +3,7 @@
 Equations with few open names are put out first: each tells one name, which is put out of all other equations.
 What is left is a question about columns of integers.
 """
+from heapq import heappop, heappush
 from math import gcd
 from widestkind.lattices import Lattice
 from widestkind.powers import add_times, measure_of, names_of
@@ -46,10 +47,6 @@ class Row:
         self.powers = {name: number // divisor for name, number in self.powers.items()}
         self.rest = {base: number // divisor for base, number in self.rest.items()}
 
-    def least(self):
-        """The open name whose power is next to 0."""
-        return min([(abs(number), name) for name, number in self.powers.items()])[1]
-
 
 class System:
     """Equations, of which those with few open names are put out one by one.
@@ -69,12 +66,15 @@ class System:
         self.told = []
         self.deeds = []
         self.weights = None
+        self.queue = []
         for index in range(len(rows)):
-            self._divide(index)
+            self._changed(index)
 
-    def _divide(self, index):
-        """Divides an equation, and notes if it has no solution."""
+    def _changed(self, index):
+        """Divides an equation that is new or has changed, and notes if it has no solution."""
         row = self.rows[index]
+        if row.powers:
+            heappush(self.queue, (len(row.powers), index))
         divisor = row.divisor()
         weight = row.weight_against(divisor)
         if weight is not None:
@@ -94,18 +94,24 @@ class System:
 
     def shortest(self):
         """The index of an equation with the fewest open names, or None if none has any."""
-        best = None
-        for index, row in self.rows.items():
-            if row.powers and (best is None or len(row.powers) < len(self.rows[best].powers)):
-                best = index
-        return best
+        while self.queue:
+            many, index = self.queue[0]
+            if index in self.rows and len(self.rows[index].powers) == many:
+                return index
+            heappop(self.queue)
+        return None
+
+    def _least(self, index):
+        """The open name whose power in an equation is next to 0, of several the one in the fewest equations."""
+        powers = self.rows[index].powers
+        return min([(abs(number), len(self.holders[name]), name) for name, number in powers.items()])[2]
 
     def put_out(self, index):
         """Lets an equation tell one of its names, and puts this name out of all others."""
-        name = self.rows[index].least()
+        name = self._least(index)
         while abs(self.rows[index].powers[name]) != 1:
             self._exchange(index, name)
-            name = self.rows[index].least()
+            name = self._least(index)
         row = self.rows.pop(index)
         for other in row.powers:
             del self.holders[other][index]
@@ -115,7 +121,7 @@ class System:
             self.rows[holder].take_in(row, count)
             self.deeds.append((holder, index, count))
             self._note(row.powers, holder)
-            self._divide(holder)
+            self._changed(holder)
         powers = {other: -sign * number for other, number in row.powers.items() if other != name}
         self.told.append((name, powers, {base: -sign * number for base, number in row.rest.items()}))
 
@@ -131,6 +137,8 @@ class System:
             row = self.rows[holder]
             add_times(row.powers, counts, row.powers[name])
             self._note(counts, holder)
+            if holder != index:
+                heappush(self.queue, (len(row.powers), holder))
         self.told.append((name, {name: 1, **counts}, {}))
 
 

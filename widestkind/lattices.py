@@ -2,6 +2,7 @@
 
 A column is a dict from row numbers to integers other than 0.
 """
+from heapq import heapify, heappop, heappush
 from widestkind.powers import add_times
 from widestkind.ratios import Ratio
 
@@ -22,17 +23,27 @@ class Lattice:
 
     def put_columns(self, given):
         """Puts in columns: row by row as long as few of them have something at a row, then the smallest first."""
-        left = [dict(column) for column in given if column]
-        for row in sorted({row for column in left for row in column}):
-            there = [column for column in left if row in column]
-            if len(there) > FEW:
-                break
-            if there:
-                left = [column for column in left if row not in column]
-                left.extend(self._put_row(there, row))
-        greatest = [max([abs(number) for number in column.values()]) for column in left]
-        for _, _, index in sorted([(len(column), greatest[at], at) for at, column in enumerate(left)]):
-            self.put_column(left[index])
+        begun = {}
+        for column in given:
+            if column:
+                begun.setdefault(min(column), []).append(dict(column))
+        rows = list(begun)
+        heapify(rows)
+        while rows and len(begun[rows[0]]) <= FEW:
+            row = heappop(rows)
+            for column in self._put_row(begun.pop(row), row):
+                first = min(column)
+                if first not in begun:
+                    begun[first] = []
+                    heappush(rows, first)
+                begun[first].append(column)
+        self._put_smallest([column for row in sorted(begun) for column in begun[row]])
+
+    def _put_smallest(self, columns):
+        """Puts in columns one by one, the smallest first."""
+        greatest = [max([abs(number) for number in column.values()]) for column in columns]
+        for _, _, index in sorted([(len(column), greatest[at], at) for at, column in enumerate(columns)]):
+            self.put_column(columns[index])
 
     def _put_row(self, columns, row):
         """Puts in what begins at a row; returns the columns that are left behind it."""
@@ -103,22 +114,28 @@ class Lattice:
 
         Small numbers stay, also those below 0, so that columns with few numbers keep few.
         """
-        for row in sorted([row for row in self.basis if row >= begin]):
-            pivot = self.basis[row]
-            number = column.get(row, 0)
-            if abs(number) > pivot[row] * SLACK:
-                add_times(column, pivot, -nearest(number, pivot[row]))
+        rows = [row for row in column if row >= begin]
+        heapify(rows)
+        while rows:
+            row = heappop(rows)
+            if row in self.basis and abs(column.get(row, 0)) > self.basis[row][row] * SLACK:
+                pivot = self.basis[row]
+                add_times(column, pivot, -nearest(column[row], pivot[row]))
+                push_behind(rows, pivot, row)
 
     def bring_down(self, column, begin):
         """Takes multiples of the basis away until each number at its rows from `begin` on is right.
 
         That is, from 0 to less than the number with which the column of the basis begins there.
         """
-        for row in sorted([row for row in self.basis if row >= begin]):
-            pivot = self.basis[row]
-            count = column.get(row, 0) // pivot[row]
-            if count != 0:
-                add_times(column, pivot, -count)
+        rows = [row for row in column if row >= begin]
+        heapify(rows)
+        while rows:
+            row = heappop(rows)
+            if row in self.basis and not 0 <= column.get(row, 0) < self.basis[row][row]:
+                pivot = self.basis[row]
+                add_times(column, pivot, -(column[row] // pivot[row]))
+                push_behind(rows, pivot, row)
 
     def settle(self):
         """Brings all columns of the basis down, by which it becomes the only one of this sort."""
@@ -157,6 +174,13 @@ class Lattice:
             if total != 0:
                 found[begin] = total.over(-pivot[begin])
         return found
+
+
+def push_behind(rows, column, row):
+    """Puts into a heap of rows those behind a row at which a column has something."""
+    for further in column:
+        if further > row:
+            heappush(rows, further)
 
 
 def nearest(one, other):

@@ -1,0 +1,96 @@
+"""The names, arguments and places of what the interface lists, and how arguments and results are treated."""
+import copy
+import importlib
+import inspect
+import unittest
+
+from widestkind.kinds import read_kind
+from widestkind.reading import read
+
+INTERFACE = {
+    "ratios": {"Ratio": "(top, bottom=1)"},
+    "measures": {
+        "is_measure": "(value)", "times": "(one, other)", "power": "(measure, n)", "read_measure": "(text)",
+        "fill_measure": "(measure, table)", "measure_text": "(measure)", "solve_measures": "(equations, *, fixed=())",
+        "is_solution": "(equations, value, *, fixed=())", "measure_paper": "(equations, *, fixed=())",
+        "is_measure_paper": "(equations, value, *, fixed=())"},
+    "kinds": {
+        "is_kind": "(value)", "are_kinds": "(value)", "kind_text": "(kind)", "read_kind": "(text)",
+        "names_in": "(kinds)", "fill": "(kind, table)", "closed": "(kind)"},
+    "fillings": {
+        "told": "(kind)", "told_all": "(kinds)", "is_filling": "(kind, other)", "filling": "(kind, other)",
+        "common": "(one, other)", "common_all": "(lists)"},
+    "trees": {"is_tree": "(value)", "is_pattern": "(value)", "parts": "(tree)", "show": "(tree)"},
+    "reading": {"tokens": "(text)", "is_built": "(text)", "read": "(text)", "spans": "(text)"},
+    "names": {"binders": "(tree)", "free": "(tree)", "alike": "(one, other)", "plain_names": "(tree)"},
+}
+
+NUM = ("num", (("'a", 2), ("m", 1)))
+EQUATIONS = [(("'a", 2), ("'b", 1)), (("'b", 1), ("m", 2))]
+TREE = read("fn x -> match x {T(y) -> y; _ -> z}")
+ROW = read_kind("{a : num['m] | 'r} -> 'x")
+
+CALLS = [
+    ("measures", "times", [(("m", 1),), (("s", 1),)]), ("measures", "fill_measure", [NUM[1], {"'a": (("s", 1),)}]),
+    ("measures", "solve_measures", [EQUATIONS]), ("measures", "measure_paper", [[(("'a", 2), ("m", 1))]]),
+    ("measures", "is_solution", [EQUATIONS, {"'a": (), "'b": ()}]), ("measures", "is_measure_paper", [EQUATIONS, [1, 2]]),
+    ("kinds", "are_kinds", [[NUM, ROW]]), ("kinds", "names_in", [[NUM, ROW]]), ("kinds", "closed", [ROW]),
+    ("kinds", "fill", [ROW, {"'x": NUM, "'r": ((("b", NUM),), None), "'m": ()}]), ("fillings", "told_all", [[NUM, ROW]]),
+    ("fillings", "filling", [ROW, ROW]), ("fillings", "common", [[NUM, ROW], [NUM, ROW]]),
+    ("fillings", "common_all", [[[NUM, ROW], [NUM, ROW], [("name", "'a"), ROW]]]), ("trees", "parts", [TREE]),
+    ("reading", "tokens", ["f(x) -> 'a"]), ("reading", "spans", ["f(x + 1)"]), ("names", "binders", [TREE]),
+    ("names", "free", [TREE]), ("names", "plain_names", [TREE]),
+]
+
+
+def as_tuples(value):
+    return tuple(as_tuples(item) for item in value) if isinstance(value, list) else value
+
+
+def spoil(value):
+    """Changes all lists and dicts in a result."""
+    if isinstance(value, (list, tuple)):
+        for item in value:
+            spoil(item)
+    if isinstance(value, list):
+        value.append("spoiled")
+    if isinstance(value, dict):
+        for item in value.values():
+            spoil(item)
+        value["spoiled"] = True
+
+
+class Interface(unittest.TestCase):
+    def test_names_arguments_and_places(self):
+        for module, listed in INTERFACE.items():
+            found = importlib.import_module("widestkind." + module)
+            for name, arguments in listed.items():
+                one = getattr(found, name)
+                self.assertEqual(one.__module__, "widestkind." + module)
+                self.assertEqual(str(inspect.signature(one)), arguments, name)
+        ratio = importlib.import_module("widestkind.ratios").Ratio
+        for name in ["top", "bottom", "over", "below", "written", "__add__", "__sub__", "__mul__", "__eq__"]:
+            self.assertIn(name, vars(ratio))
+
+    def test_arguments_stay_and_results_are_new(self):
+        for module, name, given in CALLS:
+            function = getattr(importlib.import_module("widestkind." + module), name)
+            before = copy.deepcopy(given)
+            first = function(*given)
+            self.assertEqual(given, before, name)
+            kept = copy.deepcopy(first)
+            spoil(first)
+            self.assertEqual(function(*given), kept, name)
+            self.assertEqual(function(*as_tuples(given)), kept, name)
+            self.assertEqual(given, before, name)
+
+    def test_what_stands_behind_the_star_is_told_by_name(self):
+        found = importlib.import_module("widestkind.measures")
+        for name, given in [("solve_measures", [EQUATIONS]), ("measure_paper", [EQUATIONS]),
+                            ("is_solution", [EQUATIONS, {}]), ("is_measure_paper", [EQUATIONS, []])]:
+            with self.assertRaises(TypeError):
+                getattr(found, name)(*given, ())
+
+
+if __name__ == "__main__":
+    unittest.main()

@@ -1,0 +1,16 @@
+import doctest
+import os
+import unittest
+
+README = os.path.join(os.path.dirname(os.path.dirname(os.path.abspath(__file__))), "README.md")
+
+
+class Readme(unittest.TestCase):
+    def test_examples(self):
+        found = doctest.testfile(README, module_relative=False)
+        self.assertEqual(found.failed, 0)
+        self.assertGreater(found.attempted, 4)
+
+
+if __name__ == "__main__":
+    unittest.main()

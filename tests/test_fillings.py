@@ -1,6 +1,8 @@
 import random
 import unittest
+from unittest import mock
 
+from widestkind import lattices
 from widestkind.fillings import common, common_all, filling, is_filling, told, told_all
 from widestkind.kinds import are_kinds, fill, is_kind, kind_text, names_in, read_kind
 
@@ -99,6 +101,19 @@ class Told(unittest.TestCase):
             self.assertEqual(told_all(found), found)
             self.assertEqual(told_all(self.turned(kinds, source)), found)
             self.check_columns(measures(found))
+            with mock.patch.object(lattices, "FEW", 0):
+                self.assertEqual(told_all(self.turned(kinds, source)), found)
+
+    def test_many_names(self):
+        source = random.Random(8)
+        names = ["'a%d" % n for n in range(1, 41)]
+        rows = [{name: source.randint(-9, 9) for name in names + ["m", "s"]} for _ in range(40)]
+        kinds = [("num", tuple(sorted((name, number) for name, number in row.items() if number))) for row in rows]
+        found = told_all(kinds)
+        self.check_columns(measures(found))
+        self.assertEqual(told_all(found), found)
+        self.assertEqual(told_all(self.turned(kinds, source)), found)
+        self.assertEqual(common(kinds, found), found)
 
     def check_columns(self, rows):
         names = sorted({name for row in rows for name in row if name[0] == "'"}, key=lambda name: int(name[2:]))

@@ -1,6 +1,9 @@
 import random
 import unittest
+from unittest import mock
 
+from widestkind import equations as equations_module
+from widestkind import lattices
 from widestkind.errors import BadText
 from widestkind.measures import (fill_measure, is_measure, is_measure_paper, is_solution, measure_paper, measure_text,
                                  power, read_measure, solve_measures, times)
@@ -119,8 +122,36 @@ class Equations(unittest.TestCase):
         self.assertIs(is_solution(given, {"'a": (("'b", -2),), "'b": (("'b", 1),)}, fixed=("'b",)), False)
 
     def test_all_solutions_come_of_the_one(self):
-        random_source = random.Random(11)
-        for _ in range(300):
+        self.check_at_random(11, 300)
+
+    def test_the_same_without_putting_out_equations_first(self):
+        for few in (0, 2):
+            with mock.patch.object(equations_module, "FEW", few), mock.patch.object(lattices, "FEW", 0):
+                self.check_at_random(12 + few, 200)
+
+    def test_dense_equations(self):
+        random_source = random.Random(5)
+        names = ["'a%d" % n for n in range(1, 41)]
+        rows = [{name: random_source.randint(-9, 9) for name in names} for _ in range(39)]
+        planted = {name: random_source.randint(-5, 5) for name in names}
+        right = [made({**row, "m": -sum(row[name] * planted[name] for name in names)}) for row in rows]
+        self.assertIsNotNone(self.check(right))
+        total = {name: rows[0][name] + rows[1][name] for name in names}
+        sums = times(right[0], right[1])
+        self.assertEqual({name: number for name, number in sums if name != "m"},
+                         {name: number for name, number in total.items() if number})
+        self.assertIsNotNone(self.check(right + [sums]))
+        self.assertIsNone(self.check(right + [times(sums, (("m", 1),))]))
+        self.assertIsNone(self.check(right[:38] + [times(power(right[38], 6), times(right[0], (("m", 1),)))] * 2
+                                     + [times(right[0], (("s", 1),))] + [right[0]]))
+        even = [made({**{name: 2 * number for name, number in row.items()}, "m": 1}) for row in rows]
+        self.assertIsNone(self.check(even))
+        mixed = right[:30] + [times(power(right[30], 4), times(power(right[31], 6), (("m", 1),)))]
+        self.assertIsNone(self.check(mixed + [power(right[31], 2), times(power(right[30], 2), power(right[2], 2))]))
+
+    def check_at_random(self, seed, many):
+        random_source = random.Random(seed)
+        for _ in range(many):
             names = ["'a", "'b", "'c", "'m1"][:random_source.randint(1, 4)]
             fixed = ["'f"][:random_source.randint(0, 1)]
             equations = []

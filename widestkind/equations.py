@@ -63,6 +63,7 @@ class System:
         for index, row in self.rows.items():
             for name in row.powers:
                 self.holders.setdefault(name, {})[index] = True
+        self.spread = {name: len(found) for name, found in self.holders.items()}
         self.told = []
         self.deeds = []
         self.weights = None
@@ -102,9 +103,14 @@ class System:
         return None
 
     def _least(self, index):
-        """The open name whose power in an equation is next to 0, of several the one in the fewest equations."""
-        powers = self.rows[index].powers
-        return min([(abs(number), len(self.holders[name]), name) for name, number in powers.items()])[2]
+        """The open name whose power in an equation is next to 0, of several the one in the fewest equations.
+
+        That is, of those that are left, and then of those that were given: so that few names come of many others.
+        """
+        ranks = []
+        for name, number in self.rows[index].powers.items():
+            ranks.append((abs(number), len(self.holders[name]), self.spread[name], name))
+        return min(ranks)[3]
 
     def put_out(self, index):
         """Lets an equation tell one of its names, and puts this name out of all others."""

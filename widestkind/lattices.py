@@ -109,33 +109,44 @@ class Lattice:
                 if begin < row and abs(self.basis[begin].get(row, 0)) > bound * SLACK:
                     self.bring_near(self.basis[begin], row)
 
+    def _rows_of(self, column, begin):
+        """A heap of the rows of the basis, from `begin` on, at which a column has something; and a dict of them."""
+        rows = [row for row in column if row >= begin and row in self.basis]
+        heapify(rows)
+        return rows, {row: True for row in rows}
+
+    def _note_behind(self, begin, rows, noted):
+        """Puts the rows of the basis at which the column of a row has something into a heap and a dict of rows."""
+        for row in self.basis[begin]:
+            if row > begin and row not in noted and row in self.basis:
+                noted[row] = True
+                heappush(rows, row)
+
     def bring_near(self, column, begin):
         """Takes multiples of the basis away where the column has great numbers at its rows from `begin` on.
 
         Small numbers stay, also those below 0, so that columns with few numbers keep few.
         """
-        rows = [row for row in column if row >= begin]
-        heapify(rows)
+        rows, noted = self._rows_of(column, begin)
         while rows:
             row = heappop(rows)
-            if row in self.basis and abs(column.get(row, 0)) > self.basis[row][row] * SLACK:
-                pivot = self.basis[row]
+            pivot = self.basis[row]
+            if abs(column.get(row, 0)) > pivot[row] * SLACK:
                 add_times(column, pivot, -nearest(column[row], pivot[row]))
-                push_behind(rows, pivot, row)
+                self._note_behind(row, rows, noted)
 
     def bring_down(self, column, begin):
         """Takes multiples of the basis away until each number at its rows from `begin` on is right.
 
         That is, from 0 to less than the number with which the column of the basis begins there.
         """
-        rows = [row for row in column if row >= begin]
-        heapify(rows)
+        rows, noted = self._rows_of(column, begin)
         while rows:
             row = heappop(rows)
-            if row in self.basis and not 0 <= column.get(row, 0) < self.basis[row][row]:
-                pivot = self.basis[row]
+            pivot = self.basis[row]
+            if not 0 <= column.get(row, 0) < pivot[row]:
                 add_times(column, pivot, -(column[row] // pivot[row]))
-                push_behind(rows, pivot, row)
+                self._note_behind(row, rows, noted)
 
     def settle(self):
         """Brings all columns of the basis down, by which it becomes the only one of this sort."""
@@ -174,13 +185,6 @@ class Lattice:
             if total != 0:
                 found[begin] = total.over(-pivot[begin])
         return found
-
-
-def push_behind(rows, column, row):
-    """Puts into a heap of rows those behind a row at which a column has something."""
-    for further in column:
-        if further > row:
-            heappush(rows, further)
 
 
 def nearest(one, other):

@@ -4,8 +4,11 @@ import importlib
 import inspect
 import unittest
 
+from widestkind.books import Book
 from widestkind.kinds import read_kind
 from widestkind.reading import read
+from widestkind.solving import solution
+from widestkind.wholes import Whole
 
 INTERFACE = {
     "ratios": {"Ratio": "(top, bottom=1)"},
@@ -23,12 +26,30 @@ INTERFACE = {
     "trees": {"is_tree": "(value)", "is_pattern": "(value)", "parts": "(tree)", "show": "(tree)"},
     "reading": {"tokens": "(text)", "is_built": "(text)", "read": "(text)", "spans": "(text)"},
     "names": {"binders": "(tree)", "free": "(tree)", "alike": "(one, other)", "plain_names": "(tree)"},
+    "books": {"Book": "(text='')", "is_empty": "(book, kind)"},
+    "expanding": {"expanded": "(book, tree, *, owner='')"},
+    "wholes": {"Whole": "(book, text)"},
+    "facts": {"facts": "(whole, knot)"},
+    "solving": {"fits": "(whole, places=None)", "solution": "(whole)", "judge_solution": "(whole, value)"},
+}
+
+METHODS = {
+    ("ratios", "Ratio"): {"over": "(self, number)", "below": "(self, number)", "written": "(self)",
+                          "__add__": "(self, other)", "__sub__": "(self, other)", "__mul__": "(self, other)",
+                          "__eq__": "(self, other)"},
+    ("books", "Book"): {"kinds": "(self)", "macros": "(self)", "definitions": "(self)", "constructors": "(self, name)",
+                        "parameters": "(self, name)", "kind_of": "(self, tag)", "template_of": "(self, name)",
+                        "tree_of": "(self, name)", "uses": "(self, name)", "groups": "(self)", "__str__": "(self)",
+                        "__eq__": "(self, other)"},
+    ("wholes", "Whole"): {"tree": "(self)", "knots": "(self)", "places": "(self)", "where": "(self, place)"},
 }
 
 NUM = ("num", (("'a", 2), ("m", 1)))
 EQUATIONS = [(("'a", 2), ("'b", 1)), (("'b", 1), ("m", 2))]
 TREE = read("fn x -> match x {T(y) -> y; _ -> z}")
 ROW = read_kind("{a : num['m] | 'r} -> 'x")
+BOOK = Book("kind tree 'a = Leaf | Node({left : tree('a)})\nmacro both(e) = {a = e, b = e}\ndef one = 1\ndef two = one")
+WHOLE = Whole(BOOK, "fn x -> @both(x + two)")
 
 CALLS = [
     ("measures", "times", [(("m", 1),), (("s", 1),)]), ("measures", "fill_measure", [NUM[1], {"'a": (("s", 1),)}]),
@@ -40,11 +61,25 @@ CALLS = [
     ("fillings", "common_all", [[[NUM, ROW], [NUM, ROW], [("name", "'a"), ROW]]]), ("trees", "parts", [TREE]),
     ("reading", "tokens", ["f(x) -> 'a"]), ("reading", "spans", ["f(x + 1)"]), ("names", "binders", [TREE]),
     ("names", "free", [TREE]), ("names", "plain_names", [TREE]),
+    ("books", "is_empty", [BOOK, read_kind("tree(num)")]), ("facts", "facts", [WHOLE, 0]),
+    ("solving", "fits", [WHOLE, [("", 0), ("@both", 0)]]), ("solving", "solution", [WHOLE]),
+    ("solving", "judge_solution", [WHOLE, solution(WHOLE)]), ("expanding", "expanded", [BOOK, read("@both(x)")]),
 ]
 
 
 def as_tuples(value):
     return tuple(as_tuples(item) for item in value) if isinstance(value, list) else value
+
+
+def seen(value):
+    """A copy of a value, in which wholes are compared by all that they hold."""
+    if isinstance(value, Whole):
+        return {key: seen(one) for key, one in vars(value).items()}
+    if isinstance(value, dict):
+        return {key: seen(one) for key, one in value.items()}
+    if isinstance(value, (list, tuple)):
+        return type(value)(seen(one) for one in value)
+    return copy.deepcopy(value)
 
 
 def spoil(value):
@@ -68,21 +103,44 @@ class Interface(unittest.TestCase):
                 one = getattr(found, name)
                 self.assertEqual(one.__module__, "widestkind." + module)
                 self.assertEqual(str(inspect.signature(one)), arguments, name)
+        for (module, name), methods in METHODS.items():
+            body = vars(getattr(importlib.import_module("widestkind." + module), name))
+            for method, arguments in methods.items():
+                self.assertEqual(str(inspect.signature(body[method])), arguments, method)
         ratio = importlib.import_module("widestkind.ratios").Ratio
-        for name in ["top", "bottom", "over", "below", "written", "__add__", "__sub__", "__mul__", "__eq__"]:
-            self.assertIn(name, vars(ratio))
+        for name in ["top", "bottom"]:
+            self.assertIsInstance(vars(ratio)[name], property)
 
     def test_arguments_stay_and_results_are_new(self):
         for module, name, given in CALLS:
             function = getattr(importlib.import_module("widestkind." + module), name)
-            before = copy.deepcopy(given)
+            before = seen(given)
             first = function(*given)
-            self.assertEqual(given, before, name)
+            self.assertEqual(seen(given), before, name)
             kept = copy.deepcopy(first)
             spoil(first)
             self.assertEqual(function(*given), kept, name)
             self.assertEqual(function(*as_tuples(given)), kept, name)
-            self.assertEqual(given, before, name)
+            self.assertEqual(seen(given), before, name)
+            words = list(inspect.signature(function).parameters)
+            named = [(word, value) for word, value in zip(words, given)]
+            self.assertEqual(function(**dict(named[::-1])), kept, name)
+
+    def test_books_and_wholes_stay(self):
+        def everything():
+            names = BOOK.definitions()
+            return [str(BOOK), BOOK.kinds(), BOOK.macros(), names, BOOK.constructors("tree"), BOOK.parameters("tree"),
+                    BOOK.kind_of("Node"), BOOK.template_of("both"), [BOOK.tree_of(name) for name in names],
+                    [BOOK.uses(name) for name in names], BOOK.groups(), WHOLE.text, WHOLE.tree(), WHOLE.knots(),
+                    WHOLE.places(), [WHOLE.where(place) for place in WHOLE.places()], str(WHOLE.book)]
+
+        first = everything()
+        kept = copy.deepcopy(first)
+        spoil(first)
+        self.assertEqual(everything(), kept)
+        state = seen([vars(BOOK), WHOLE])
+        everything()
+        self.assertEqual(seen([vars(BOOK), WHOLE]), state)
 
     def test_what_stands_behind_the_star_is_told_by_name(self):
         found = importlib.import_module("widestkind.measures")

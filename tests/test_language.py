@@ -15,7 +15,7 @@ setdefault split splitlines startswith strip update upper values zfill add disca
 BARRED = set("_record _outside _cold register mro elements open input law version_info with_traceback add_note".split())
 WORDS = set("""type typing enum Enum Generic Protocol ABC namedtuple NamedTuple dataclass overload
 contextmanager""".split())
-DUNDERS = {"__init__", "__eq__", "__add__", "__sub__", "__mul__"}
+DUNDERS = {"__init__", "__eq__", "__str__", "__add__", "__sub__", "__mul__"}
 STATEMENTS = (ast.FunctionDef, ast.ClassDef, ast.Return, ast.Assign, ast.AugAssign, ast.For, ast.While, ast.If,
               ast.Raise, ast.Try, ast.Expr, ast.Pass, ast.Break, ast.Continue, ast.Delete, ast.ImportFrom)
 
@@ -178,6 +178,17 @@ class Language(unittest.TestCase):
             for node in ast.walk(tree):
                 if isinstance(node, ast.Attribute) and isinstance(node.ctx, ast.Store):
                     self.assertNotIn(node.attr, taken, f"{name}:{node.lineno}")
+
+    def test_no_name_is_method_and_attribute(self):
+        own = set()
+        stored = set()
+        for _, tree in trees():
+            for node in ast.walk(tree):
+                if isinstance(node, ast.ClassDef):
+                    own |= {item.name for item in node.body if isinstance(item, ast.FunctionDef)}
+                if isinstance(node, ast.Attribute) and isinstance(node.ctx, ast.Store):
+                    stored.add(node.attr)
+        self.assertEqual(own & stored, set())
 
     def test_loops_and_sets(self):
         views = {"zip", "enumerate", "reversed", "range"}

@@ -2,19 +2,34 @@
 
 Forms are written in capitals. The other symbols are:
 - `#`: a part begins here; `!fn` and the like: a part of a tree is made; `?num` and the like: one of a kind.
-- `word`, `plain`, `number`, `power`, `tag`, `'` and `sign`: a token of this sort, which is kept.
+- `word`, `plain`, `number`, `power`, `tag`, `'` and `sign`: a token of this sort, which is kept; `name` likewise: a
+  word that is bound or names a variable, in whose place the line of a macro may have `$` and a word.
 - anything else: just this token, which is not kept.
 
 A form has one row for each sort of token with which it can begin, and perhaps one for all others, at `""`.
 """
 from widestkind.words import OWN_WORDS
 
-KEPT = ("word", "plain", "number", "power", "tag", "'", "sign")
+KEPT = ("word", "plain", "name", "number", "power", "tag", "'", "sign")
 
 ROWS = {
-    ("TREE", "fn"): "# fn word -> TREE !fn",
-    ("TREE", "let"): "# let word = TREE in TREE !let",
-    ("TREE", "rec"): "# rec word word = TREE in TREE !rec",
+    ("OWNKIND", ""): "kind # plain NAMES ?owner = CONSTRUCTOR CONSTRUCTORS",
+    ("NAMES", "'"): "' NAMES",
+    ("NAMES", ""): "",
+    ("CONSTRUCTOR", ""): "# tag CONTAINED ?constructor",
+    ("CONTAINED", "("): "( KIND )",
+    ("CONTAINED", ""): "",
+    ("CONSTRUCTORS", "|"): "| CONSTRUCTOR CONSTRUCTORS",
+    ("CONSTRUCTORS", ""): "",
+    ("MACRO", ""): "macro # plain ( PARAMETERS ) ?owner = TREE",
+    ("PARAMETERS", ")"): "",
+    ("PARAMETERS", ""): "name FURTHER_PARAMETERS",
+    ("FURTHER_PARAMETERS", ","): ", name FURTHER_PARAMETERS",
+    ("FURTHER_PARAMETERS", ""): "",
+    ("DEFINITION", ""): "def # plain ?owner = TREE",
+    ("TREE", "fn"): "# fn name -> TREE !fn",
+    ("TREE", "let"): "# let name = TREE in TREE !let",
+    ("TREE", "rec"): "# rec name name = TREE in TREE !rec",
     ("TREE", ""): "SUM COMPARED",
     ("COMPARED", "<"): "sign SUM !op",
     ("COMPARED", ""): "",
@@ -30,7 +45,8 @@ ROWS = {
     ("CALLS", "("): "( TREE ) !call CALLS",
     ("CALLS", "."): ". word !field CALLS",
     ("CALLS", ""): "",
-    ("SMALL", "word"): "# word !name",
+    ("SMALL", "word"): "# name !name",
+    ("SMALL", "$"): "# name !name",
     ("SMALL", "number"): "# number UNIT !number",
     ("UNIT", "["): "[ MEASURE ]",
     ("UNIT", ""): "",
@@ -58,7 +74,8 @@ ROWS = {
     ("FURTHER", ","): ", TREE FURTHER",
     ("FURTHER", ""): "",
     ("PATTERN", "_"): "# _ !any",
-    ("PATTERN", "word"): "# word !bind",
+    ("PATTERN", "word"): "# name !bind",
+    ("PATTERN", "$"): "# name !bind",
     ("PATTERN", "tag"): "# tag HELD !tag",
     ("HELD", "("): "( PATTERN )",
     ("HELD", ""): "",
@@ -136,9 +153,11 @@ def row_of(form, sort):
     return None
 
 
-def takes(symbol, token):
-    """Whether a symbol that is no form takes a token."""
+def takes(symbol, token, template):
+    """Whether a symbol that is no form takes a token, in the template of a macro or elsewhere."""
     sort = sort_of(token)
+    if symbol == "name":
+        return sort == "word" or template and sort == "$"
     if symbol == "plain":
         return sort == "word" and "a" <= token[-1] <= "z"
     if symbol == "power":

@@ -62,7 +62,21 @@ def make_variant(items, begin, end, notes):
     return make_row("variant", items, begin, end, notes)
 
 
+def make_owner(items, begin, end, notes):
+    """The name of a line of a book and its parameters."""
+    return Piece((items[0].part, tuple([item.part for item in items[1:]])), begin, end)
+
+
+def make_constructor(items, begin, end, notes):
+    """A tag and its content, which is a kind by itself; a tag that stands alone has the content `{}`."""
+    notes.end_kind()
+    kind = items[1].part if len(items) > 1 else ("record", (), None)
+    return Piece((items[0].part, kind), begin, end)
+
+
 MAKERS = {
+    "owner": make_owner,
+    "constructor": make_constructor,
     "measure": make_measure,
     "num": make_num,
     "name": make_name,

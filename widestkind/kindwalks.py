@@ -72,3 +72,19 @@ def first_uses(kinds):
         for name, use in uses_in(kind):
             found[name] = use
     return found
+
+
+def kinds_of(kind):
+    """A kind and all kinds within it, a kind ahead of those in it, these from left to right."""
+    found = []
+    waiting = [kind]
+    while waiting:
+        part = waiting.pop()
+        found.append(part)
+        waiting.extend(kinds_in(part)[::-1])
+    return found
+
+
+def own_kinds_in(kind):
+    """The list of the tuples of the name and the kinds of each own kind in a kind, in order."""
+    return [(part[1], part[2]) for part in kinds_of(kind) if part[0] == "own"]

@@ -22,25 +22,28 @@ def bound_words(part):
 
 
 def scoped_parts(part, number, scope):
-    """The list of the parts directly in a part, each with a dict from the words that are bound there to binders."""
+    """The list of the parts directly in a part, each with a dict from the words that are bound there to marks.
+
+    A mark is a tuple of the number of the part that binds the word, and of the word's index among those it binds.
+    """
     if is_row(part):
         within = dict(scope)
         for offset, inner in enumerate(parts_of(part[0])):
             for word in bound_words(inner):
-                within[word] = number + 1 + offset
+                within[word] = (number + 1 + offset, 0)
         return [(part[0], scope), (part[1], within)]
     if part[0] == "fn":
-        return [(part[2], {**scope, part[1]: number})]
+        return [(part[2], {**scope, part[1]: (number, 0)})]
     if part[0] == "let":
-        return [(part[2], scope), (part[3], {**scope, part[1]: number})]
+        return [(part[2], scope), (part[3], {**scope, part[1]: (number, 0)})]
     if part[0] == "rec":
-        within = {**scope, part[1]: number}
-        return [(part[3], {**within, part[2]: number}), (part[4], within)]
+        within = {**scope, part[1]: (number, 0)}
+        return [(part[3], {**within, part[2]: (number, 1)}), (part[4], within)]
     return [(inner, scope) for inner in parts_in(part)]
 
 
-def binder_numbers(tree):
-    """What `binders` tells of a tree."""
+def binder_marks(tree):
+    """A list with an item for each part of a tree: the mark of what binds a name, or None."""
     found = []
     waiting = [(tree, {})]
     while waiting:
@@ -49,6 +52,27 @@ def binder_numbers(tree):
         found.append(scope.get(part[1]) if part[0] == "name" else None)
         waiting.extend(inner[::-1])
     return found
+
+
+def binder_numbers(tree):
+    """What `binders` tells of a tree."""
+    return [None if mark is None else mark[0] for mark in binder_marks(tree)]
+
+
+def with_words(tree, words):
+    """The tree in which what binds words, by its number, binds those of a list, and the names are these words."""
+    marks = binder_marks(tree)
+
+    def renamed(part, number, inner):
+        made = rebuilt(part, inner)
+        if marks[number] is not None:
+            binder, index = marks[number]
+            return ("name", words[binder][index])
+        if not bound_words(part):
+            return made
+        return (made[0], *words[number], *made[1 + len(words[number]):])
+
+    return folded(tree, renamed)
 
 
 def binders(tree):
@@ -75,34 +99,23 @@ def alike(one, other):
 
 
 def new_words(tree):
-    """The dict from the numbers of the parts of a tree that bind words to dicts from these words to new ones."""
+    """The dict from the numbers of the parts of a tree that bind words to the lists of their new words."""
     taken = {word: True for word in free(tree)}
     found = {}
     count = 0
     for number, part in enumerate(parts_of(tree)):
-        words = {}
-        for word in bound_words(part):
+        words = []
+        for _ in bound_words(part):
             count += 1
             while "x" + str(count) in taken:
                 count += 1
-            words[word] = "x" + str(count)
-        found[number] = words
+            words.append("x" + str(count))
+        if words:
+            found[number] = words
     return found
 
 
 def plain_names(tree):
     """The alike tree in which the names that are bound are `x1`, `x2` and so on."""
     check_tree(tree)
-    words = new_words(tree)
-    numbers = binder_numbers(tree)
-
-    def renamed(part, number, inner):
-        made = rebuilt(part, inner)
-        if part[0] == "name" and numbers[number] is not None:
-            return ("name", words[numbers[number]][part[1]])
-        bound = bound_words(part)
-        if not bound:
-            return made
-        return (made[0], *[words[number][word] for word in bound], *made[1 + len(bound):])
-
-    return folded(tree, renamed)
+    return with_words(tree, new_words(tree))

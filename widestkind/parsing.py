@@ -11,9 +11,10 @@ TAKEN = {"!op": 3, "!call": 2, "!field": 2, "?fn": 2}
 
 
 class Reader:
-    """Goes through the tokens of a text and keeps the pieces that are made of them."""
+    """Goes through the tokens of a text, or of the line of a macro, and keeps the pieces that are made of them."""
 
-    def __init__(self, text):
+    def __init__(self, text, template):
+        self.template = template
         self.tokens, wrong = cut(text)
         if wrong is None:
             self.tokens.append(("", len(text)))
@@ -51,7 +52,7 @@ class Reader:
     def _take(self, symbol):
         """Goes behind the next token, which a symbol must take."""
         token, begin = self.tokens[self.at]
-        if not takes(symbol, token):
+        if not takes(symbol, token, self.template):
             raise BadText(begin)
         self.at += 1
         self.end = begin + len(token)
@@ -79,11 +80,11 @@ class Reader:
             raise BadName(self.notes.strays[0])
 
 
-def parsed(text, form):
+def parsed(text, form, template=False):
     """The Reader that has read a text of a form."""
     if not isinstance(text, str):
         raise BadText(0)
-    reader = Reader(text)
+    reader = Reader(text, template)
     waiting = [form]
     while waiting:
         symbols = reader.step(waiting.pop())

@@ -64,6 +64,29 @@ def parts_of(part):
     return found
 
 
+def sizes_of(parts):
+    """The list of the numbers of the parts within each part of a tree, itself included, for the list of its parts."""
+    sizes = []
+    done = []
+    for part in parts[::-1]:
+        size = 1
+        for _ in parts_in(part):
+            size += done.pop()
+        done.append(size)
+        sizes.append(size)
+    return sizes[::-1]
+
+
+def numbers_within(number, many, sizes):
+    """The numbers of so many parts directly within the part with a number."""
+    found = []
+    inner = number + 1
+    for _ in range(many):
+        found.append(inner)
+        inner += sizes[inner]
+    return found
+
+
 def rebuilt(part, inner):
     """The part with other parts in the place of those directly within it."""
     if is_row(part):

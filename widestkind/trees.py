@@ -208,8 +208,13 @@ def part_text(part, number, texts):
     return short_text(part)
 
 
+def text_of(part):
+    """The text of a tree, of a row, of a pattern or of a template."""
+    return folded(part, part_text)
+
+
 def show(tree):
     """A text whose tree is the one that is given."""
     if not is_tree(tree):
         raise BadTree(tree)
-    return folded(tree, part_text)
+    return text_of(tree)

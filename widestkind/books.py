@@ -1,0 +1,173 @@
+"""Books of own kinds, macros and definitions."""
+from widestkind.errors import BadMacro, NoSuch, Unknown
+from widestkind.expanding import expand
+from widestkind.kindwalks import folded, own_kinds_in
+from widestkind.lines import check_contents, check_template, check_unlike, read_line
+from widestkind.names import free
+from widestkind.groups import grouped
+
+
+class Book:
+    """The book with the lines of a text. It never changes."""
+
+    def __init__(self, text=""):
+        self._kinds = {}
+        self._macros = {}
+        self._definitions = {}
+        self._tags = {}
+        self._expansions = {}
+        given = text.split("\n") if text != "" else []
+        lines = []
+        for index, line in enumerate(given):
+            lines.append(self._take(read_line(line, index + 1)))
+        self._text = "\n".join(lines)
+        for name, tree in self._definitions.items():
+            self._expand(name, tree)
+
+    def _take(self, line):
+        """Takes in a line behind all others; returns its text."""
+        if line.head == "kind":
+            check_unlike(line, self._kinds, self._tags)
+            check_contents(line, {name: words for name, (words, _) in self._kinds.items()})
+            self._kinds[line.name] = (line.words, line.made)
+            for tag, kind in line.made:
+                self._tags[tag] = (line.name, line.words, kind)
+        elif line.head == "macro":
+            check_unlike(line, self._macros, {})
+            check_template(line, self._macros)
+            self._macros[line.name] = (line.words, line.made)
+        else:
+            check_unlike(line, self._definitions, {})
+            self._definitions[line.name] = line.made
+        return line.written()
+
+    def _expand(self, name, tree):
+        """Keeps the expansion of a definition, with the macro that refuses it, if one does."""
+        try:
+            made, origins = expand(self._macros, tree, name)
+        except BadMacro as wrong:
+            self._expansions[name] = (None, (), wrong.name, ())
+            return
+        uses = sorted([word for word in free(made) if word in self._definitions])
+        self._expansions[name] = (made, tuple(origins), None, tuple(uses))
+
+    def __eq__(self, other):
+        return isinstance(other, Book) and self._text == other._text
+
+    def __str__(self):
+        return str(self._text)
+
+    def kinds(self):
+        """The list of the names of the own kinds."""
+        return list(self._kinds)
+
+    def macros(self):
+        """The list of the names of the macros."""
+        return list(self._macros)
+
+    def definitions(self):
+        """The list of the names of the definitions."""
+        return list(self._definitions)
+
+    def kind_of(self, tag):
+        """The name and the parameters of the own kind of a constructor, and its content; or None."""
+        return self._tags.get(tag)
+
+    def constructors(self, name):
+        """The list of the constructors of an own kind."""
+        if name not in self._kinds:
+            raise NoSuch(name)
+        return [tag for tag, _ in self._kinds[name][1]]
+
+    def parameters(self, name):
+        """The list of the parameters of an own kind."""
+        if name not in self._kinds:
+            raise NoSuch(name)
+        return list(self._kinds[name][0])
+
+    def template_of(self, name):
+        """The tuple of the parameters and the template of a macro."""
+        if name not in self._macros:
+            raise NoSuch(name)
+        return self._macros[name]
+
+    def tree_of(self, name):
+        """The tree of a definition."""
+        if name not in self._definitions:
+            raise NoSuch(name)
+        return self._definitions[name]
+
+    def expansion_of(self, name):
+        """The expansion of a definition: the tree and the list of origins."""
+        if name not in self._definitions:
+            raise NoSuch(name)
+        tree, origins, wrong, _ = self._expansions[name]
+        if wrong is not None:
+            raise BadMacro(wrong)
+        return tree, list(origins)
+
+    def uses(self, name):
+        """The ascending list of the definitions that a definition uses."""
+        self.expansion_of(name)
+        return list(self._expansions[name][3])
+
+    def groups(self):
+        """The list of the groups of definitions, in ascending order."""
+        return grouped({name: list(self._expansions[name][3]) for name in self._definitions})
+
+
+def first_unknown(book, kind):
+    """The name of the first own kind in a kind that a book does not have with so many kinds, or None."""
+    many = {name: len(book.parameters(name)) for name in book.kinds()}
+    for name, kinds in own_kinds_in(kind):
+        if many.get(name) != len(kinds):
+            return name
+    return None
+
+
+def lacks_values(book, kind, names, known):
+    """Whether a kind is empty, where some names are known to be so, and own kinds with some empty kinds."""
+    def is_empty_part(part, inner):
+        if part[0] == "name":
+            return part[1] in names
+        if part[0] == "record":
+            return any(inner)
+        if part[0] == "variant" and part[2] is None:
+            ours = [book.kind_of(entry[0]) is not None for entry in part[1]]
+            return all([mine or empty for mine, empty in zip(ours, inner)])
+        return part[0] == "own" and known[(part[1], tuple(inner))]
+
+    return folded(kind, is_empty_part)
+
+
+def choices(many):
+    """All tuples of so many truth values."""
+    found = [()]
+    for _ in range(many):
+        found = [(*row, truth) for row in found for truth in (False, True)]
+    return found
+
+
+def empty_table(book):
+    """The dict from own kinds, with the truths which of their kinds are empty, to whether they are empty.
+
+    An own kind is first taken to be empty: it speaks only of itself with the same kinds, so that one way through its
+    constructors tells whether a value can be built.
+    """
+    known = {}
+    for name in book.kinds():
+        words = book.parameters(name)
+        for row in choices(len(words)):
+            names = {word: True for word, truth in zip(words, row) if truth}
+            known[(name, row)] = True
+            contents = [book.kind_of(tag)[2] for tag in book.constructors(name)]
+            known[(name, row)] = all([lacks_values(book, kind, names, known) for kind in contents])
+    return known
+
+
+def is_empty(book, kind):
+    """Whether a kind has no values."""
+    name = first_unknown(book, kind)
+    if name is not None:
+        raise Unknown(name)
+    return lacks_values(book, kind, {}, empty_table(book))

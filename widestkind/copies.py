@@ -1,0 +1,115 @@
+"""The knots of a whole: the parts of its text, and copies of what is used in it."""
+from widestkind.names import binder_marks
+from widestkind.shapes import numbers_within, parts_in, parts_of, sizes_of
+
+
+class Source:
+    """An expanded tree, with the places that its parts come from, their sizes, and what binds the names in it."""
+
+    def __init__(self, tree, origins):
+        self.steps = parts_of(tree)
+        self.origins = origins
+        self.sizes = sizes_of(self.steps)
+        self.marks = binder_marks(tree)
+
+
+class Copy:
+    """A row of knots that came in at once.
+
+    `stretches` has for the names of sources the tuple of the number of the first part, the number behind the last
+    one, and the knot of the first one. `around` is the copy in which the binder stands of what is copied, or None.
+    """
+
+    def __init__(self, around):
+        self.around = around
+        self.stretches = {}
+
+    def knot(self, name, number):
+        """The knot of a part of a source in this very copy, or None."""
+        if name not in self.stretches:
+            return None
+        begin, end, first = self.stretches[name]
+        return first + number - begin if begin <= number < end else None
+
+
+def outermost(copy):
+    """The copy around all others around a copy."""
+    while copy.around is not None:
+        copy = copy.around
+    return copy
+
+
+def holder(copy, name, number):
+    """The innermost copy around a copy, perhaps itself, that has a part of a source."""
+    while copy.knot(name, number) is None:
+        copy = copy.around
+    return copy
+
+
+class Copies:
+    """All knots. For each one: its tuple, and the name of its source, the number of its part there, and its copy.
+
+    `targets` has for the knot of each name the point of the same kind, and None for other knots.
+    """
+
+    def __init__(self, sources, groups):
+        self.sources = sources
+        self.grouping = groups
+        self.found = []
+        self.seats = []
+        self.targets = []
+        text = Copy(None)
+        self._put(text, "", 0, len(sources[""].steps), None)
+        while len(self.targets) < len(self.found):
+            self.targets.append(self._target(len(self.targets)))
+
+    def _put(self, copy, name, begin, end, use):
+        """Puts the parts of a source from one number up to another one behind all knots."""
+        source = self.sources[name]
+        copy.stretches[name] = (begin, end, len(self.found))
+        for number in range(begin, end):
+            self.found.append((source.origins[number], use, source.steps[number]))
+            self.seats.append((name, number, copy))
+
+    def _target(self, knot):
+        """The point of the same kind as a name; what the name uses is copied. None for other parts."""
+        name, number, copy = self.seats[knot]
+        source = self.sources[name]
+        part = source.steps[number]
+        if part[0] != "name":
+            return None
+        if source.marks[number] is None:
+            return self._definition_target(knot, part[1], copy)
+        binder, index = source.marks[number]
+        around = holder(copy, name, binder)
+        bound = around.knot(name, binder)
+        head = source.steps[binder][0]
+        if head == "fn" or index == 1:
+            return (bound, "bound", ())
+        if head == "bind":
+            return (bound, "kind", ())
+        within = binder + 1 + source.sizes[binder + 1]
+        if head == "let":
+            self._put(Copy(around), name, binder + 1, within, knot)
+            return (len(self.found) - source.sizes[binder + 1], "kind", ())
+        if number < within:
+            return (bound, "self", ())
+        self._put(Copy(around), name, binder, within, knot)
+        return (len(self.found) - source.sizes[binder + 1] - 1, "self", ())
+
+    def _definition_target(self, knot, word, copy):
+        """The point of the tree of a definition, in the copy of its own group or in a new copy."""
+        group = outermost(copy)
+        if group.knot(word, 0) is None:
+            group = Copy(None)
+            for name in self.grouping[word]:
+                self._put(group, name, 0, len(self.sources[name].steps), knot)
+        return (group.knot(word, 0), "kind", ())
+
+    def within(self, knot):
+        """The knots of the parts directly within the part of a knot; the copy of a `rec` has but its e1."""
+        name, number, copy = self.seats[knot]
+        source = self.sources[name]
+        inner = numbers_within(number, len(parts_in(source.steps[number])), source.sizes)
+        found = [copy.knot(name, one) for one in inner]
+        return tuple([one for one in found if one is not None])

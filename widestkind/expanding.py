@@ -1,0 +1,174 @@
+"""The expansion of trees: templates come in the place of the calls of macros, and no name is caught."""
+from widestkind.errors import BadMacro
+from widestkind.names import binder_marks, bound_words, check_tree, with_words
+from widestkind.shapes import folded, numbers_within, parts_in, parts_of, rebuilt, sizes_of
+
+LETTERS = "xyzuvwabcdefghijklmnopqrst"
+
+
+def call_is_right(call, macros):
+    """Whether the macro of a call is there, and takes the trees that are passed."""
+    if call[1] not in macros:
+        return False
+    words = macros[call[1]][0]
+    if len(words) != len(call[2]):
+        return False
+    return not any([word[0] == "$" and tree[0] != "name" for word, tree in zip(words, call[2])])
+
+
+def first_bad_call(tree, macros):
+    """The name of the macro of the first call in a tree that is not right, or None."""
+    for part in parts_of(tree):
+        if part[0] == "macro" and not call_is_right(part, macros):
+            return part[1]
+    return None
+
+
+class Writer:
+    """The text, or one call of a macro: what it writes, and what was passed to it.
+
+    `trees` has for the parameters that are words the parts that were passed, with their numbers and their writers;
+    `words` has for those with `$` the names that were passed, as keys. A key is a word with the writer's number, as
+    a string, so that a binder binds just the names with its key.
+    """
+
+    def __init__(self, number, owner, tree):
+        self.count = number
+        self.owner = owner
+        self.sizes = sizes_of(parts_of(tree))
+        self.marks = binder_marks(tree)
+        self.trees = {}
+        self.words = {}
+
+    def pass_parts(self, words, call, number, other):
+        """Takes what a call, which stands at a number of what another writer wrote, passes for parameters."""
+        for word, tree, inner in zip(words, call[2], numbers_within(number, len(words), other.sizes)):
+            if word[0] == "$":
+                self.words[word] = other.key(tree[1])
+            else:
+                self.trees[word] = (tree, inner, other)
+
+    def key(self, word):
+        """The key of a word that is written."""
+        if word[0] == "$":
+            return self.words[word]
+        return word + " " + str(self.count)
+
+    def stands_for(self, part, number):
+        """What was passed for a part that is a parameter: a part, its number and its writer; or None."""
+        if part[0] != "name" or self.marks[number] is not None:
+            return None
+        return self.trees.get(part[1])
+
+
+class Expansion:
+    """The parts of an expansion, in order: each with keys in the place of words, its origin, and its arity."""
+
+    def __init__(self, macros):
+        self.templates = macros
+        self.shells = []
+        self.origins = []
+        self.writers = 0
+
+    def write(self, tree, owner):
+        """Goes through a tree, and through what comes in the place of its calls."""
+        waiting = [(tree, 0, self._writer(owner, tree))]
+        while waiting:
+            part, number, writer = waiting.pop()
+            passed = writer.stands_for(part, number)
+            if passed is not None:
+                waiting.append(passed)
+            elif part[0] == "macro":
+                waiting.append(self._called(part, number, writer))
+            else:
+                inner = parts_in(part)
+                self.shells.append(keyed(part, writer))
+                self.origins.append((writer.owner, number))
+                within = numbers_within(number, len(inner), writer.sizes)
+                found = [(one, at, writer) for one, at in zip(inner, within)]
+                waiting.extend(found[::-1])
+
+    def _writer(self, owner, tree):
+        self.writers += 1
+        return Writer(self.writers, owner, tree)
+
+    def _called(self, call, number, writer):
+        """The template of a call, which is written by the call."""
+        words, template = self.templates[call[1]]
+        called = self._writer("@" + call[1], template)
+        called.pass_parts(words, call, number, writer)
+        return template, 0, called
+
+    def tree(self):
+        """The tree of all parts, with keys in the place of words."""
+        done = []
+        for shell in self.shells[::-1]:
+            inner = [done.pop() for _ in parts_in(shell)]
+            done.append(rebuilt(shell, inner))
+        return done[0]
+
+
+def keyed(part, writer):
+    """A part with keys in the place of the words that it binds or that it is."""
+    if part[0] == "name":
+        return ("name", writer.key(part[1]))
+    words = bound_words(part)
+    if not words:
+        return part
+    return (part[0], *[writer.key(word) for word in words], *part[1 + len(words):])
+
+
+def fresh_word(taken):
+    """A word that is not taken."""
+    count = 0
+    while LETTERS[count // 999] + str(count % 999 + 1) in taken:
+        count += 1
+    return LETTERS[count // 999] + str(count % 999 + 1)
+
+
+def words_for(tree):
+    """The dict from the numbers of the parts that bind keys to lists of words, each another one than all others."""
+    parts = parts_of(tree)
+    taken = {}
+    for part, mark in zip(parts, binder_marks(tree)):
+        if part[0] == "name" and mark is None:
+            taken[part[1].split()[0]] = True
+    found = {}
+    for number, part in enumerate(parts):
+        words = []
+        for key in bound_words(part):
+            word = key.split()[0]
+            if word in taken:
+                word = fresh_word(taken)
+            taken[word] = True
+            words.append(word)
+        if words:
+            found[number] = words
+    return found
+
+
+def without_keys(tree):
+    """The tree with words in the place of keys, so chosen that each name is bound as its key was."""
+    def plain(part, number, inner):
+        return ("name", part[1].split()[0]) if part[0] == "name" else rebuilt(part, inner)
+
+    return folded(with_words(tree, words_for(tree)), plain)
+
+
+def expand(macros, tree, owner):
+    """What `expanded` returns, for a dict from the names of macros to tuples of parameters and a template."""
+    name = first_bad_call(tree, macros)
+    if name is not None:
+        raise BadMacro(name)
+    parts = parts_of(tree)
+    if not any([part[0] == "macro" for part in parts]):
+        return tree, [(owner, number) for number in range(len(parts))]
+    expansion = Expansion(macros)
+    expansion.write(tree, owner)
+    return without_keys(expansion.tree()), expansion.origins
+
+
+def expanded(book, tree, *, owner=""):
+    """The tuple of a tree without macros and the list of the origins of its parts."""
+    check_tree(tree)
+    return expand({name: book.template_of(name) for name in book.macros()}, tree, owner)

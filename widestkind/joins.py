@@ -1,0 +1,188 @@
+"""Points that come to be the same by facts, with what each joining came of.
+
+A node stands for a point. Nodes that are the same have a common leader. A road from a node to another one tells of
+what it came that they are the same: so that all that is told of leaders can be told of points again.
+"""
+from widestkind.facts import behind, label_step
+
+
+class Joins:
+    """Nodes, and what is known of them.
+
+    By nodes: `points`; `roads`, the tuple of the next node and the reason, or None. By leaders: `steps`, the dict
+    from steps to nodes whose points are those of some node with this step more; `heads`, the tuple of a node, a head
+    and its fact, or None; `onlys`, tuples of a node, labels and their fact; `links`, tuples of two nodes whose rows
+    are the same but for some labels, these labels, and the reason. A fact is a tuple of a knot and an index.
+    `wrong` is what cannot be, or None.
+    """
+
+    def __init__(self):
+        self.points = []
+        self.nodes = {}
+        self.leaders = []
+        self.counts = []
+        self.roads = []
+        self.steps = []
+        self.heads = []
+        self.onlys = []
+        self.links = []
+        self.handed = {}
+        self.entries = []
+        self.powers = []
+        self.wrong = None
+        self.waiting = []
+
+    def _new_node(self, point):
+        node = len(self.points)
+        self.points.append(point)
+        self.nodes[point] = node
+        self.leaders.append(node)
+        self.counts.append(1)
+        self.roads.append(None)
+        self.steps.append({})
+        self.heads.append(None)
+        self.onlys.append([])
+        self.links.append([])
+        return node
+
+    def leader(self, node):
+        """The node that stands for all that are the same."""
+        while self.leaders[node] != node:
+            self.leaders[node] = self.leaders[self.leaders[node]]
+            node = self.leaders[node]
+        return node
+
+    def node(self, point):
+        """The node of a point, new ones on the way to it included."""
+        if point in self.nodes:
+            return self.nodes[point]
+        root = (point[0], point[1], ())
+        node = self.nodes[root] if root in self.nodes else self._new_node(root)
+        for step in point[2]:
+            node = self.behind(node, step)
+        return node
+
+    def behind(self, node, step):
+        """The node of a point with one step more."""
+        point = behind(self.points[node], step)
+        if point in self.nodes:
+            return self.nodes[point]
+        new = self._new_node(point)
+        leader = self.leader(node)
+        if step in self.steps[leader]:
+            other = self.steps[leader][step]
+            self.waiting.append((new, other, ("part", node, self.before(other), step)))
+        else:
+            self.steps[leader][step] = new
+            self._look_at_row(leader)
+        return new
+
+    def before(self, node):
+        """The node of a point with one step less."""
+        knot, what, way = self.points[node]
+        return self.nodes[(knot, what, way[:-1])]
+
+    def _look_at_row(self, leader):
+        """Hands the entries of a row on to rows that have the same ones, and looks for those that it may not have."""
+        for node, labels, fact in self.onlys[leader]:
+            for step, entry in self.steps[leader].items():
+                if step not in labels and self.wrong is None:
+                    self.wrong = ("gone", entry, node, step, fact)
+        for node, other, labels, reason in list(self.links[leader]):
+            for step in list(self.steps[leader]):
+                if step not in labels and (node, other, step) not in self.handed:
+                    self.handed[(node, other, step)] = True
+                    self.waiting.append((node, other, (*reason, step)))
+
+    def tell(self, fact, what):
+        """Takes in what a fact tells, and what follows from it."""
+        head = what[0]
+        if head == "same":
+            self.waiting.append((self.node(what[1]), self.node(what[2]), ("fact", *fact)))
+        elif head == "head":
+            self._tell_head(self.node(what[1]), what[2], fact)
+        elif head == "in":
+            self.entries.append((self.behind(self.node(what[1]), label_step(what[2])), fact))
+        elif head == "only":
+            node = self.node(what[1])
+            leader = self.leader(node)
+            self.onlys[leader].append((node, {label_step(label): True for label in what[2]}, fact))
+            self._look_at_row(leader)
+        elif head == "power":
+            self.powers.append((fact, [(self.node(point), number) for point, number in what[1]], what[2]))
+        else:
+            self._tell_link(what, fact)
+        self._settle()
+
+    def _tell_head(self, node, head, fact):
+        leader = self.leader(node)
+        if self.heads[leader] is None:
+            self.heads[leader] = (node, head, fact)
+        elif self.heads[leader][1] != head and self.wrong is None:
+            self.wrong = ("heads", self.heads[leader], (node, head, fact))
+
+    def _tell_link(self, what, fact):
+        """Takes in that two rows are the same but for some labels."""
+        if what[0] == "but":
+            one, other, labels = self.node(what[1]), self.node(what[2]), (what[3],)
+        else:
+            one, other, labels = self.node(what[1]), self.node(what[3]), what[2]
+        link = (one, other, {label_step(label): True for label in labels}, (what[0], *fact))
+        self.links[self.leader(one)].append(link)
+        self.links[self.leader(other)].append(link)
+        self._look_at_row(self.leader(one))
+        self._look_at_row(self.leader(other))
+
+    def _settle(self):
+        """Joins what waits to be joined."""
+        while self.waiting and self.wrong is None:
+            one, other, reason = self.waiting.pop()
+            if reason[0] in ("but", "rest"):
+                step = reason[3]
+                one, other = self.behind(one, step), self.behind(other, step)
+            self._join(one, other, reason)
+
+    def _join(self, one, other, reason):
+        """Lets two nodes become the same."""
+        into, leader = self.leader(one), self.leader(other)
+        if into == leader:
+            return
+        if self.counts[into] < self.counts[leader]:
+            one, other, reason = other, one, turned_reason(reason)
+            into, leader = leader, into
+        self._turn_roads(other)
+        self.roads[other] = (one, turned_reason(reason))
+        self.leaders[leader] = into
+        self.counts[into] += self.counts[leader]
+        if self.heads[leader] is not None:
+            node, head, fact = self.heads[leader]
+            self._tell_head(node, head, fact)
+        self.onlys[into].extend(self.onlys[leader])
+        self.links[into].extend(self.links[leader])
+        for step, node in list(self.steps[leader].items()):
+            if step in self.steps[into]:
+                same = self.steps[into][step]
+                self.waiting.append((node, same, ("part", self.before(node), self.before(same), step)))
+            else:
+                self.steps[into][step] = node
+        self._look_at_row(into)
+
+    def _turn_roads(self, node):
+        """Turns the roads from a node on, so that all roads of what is the same lead to it."""
+        last = None
+        while node is not None:
+            road = self.roads[node]
+            self.roads[node] = last
+            if road is None:
+                return
+            last = (node, turned_reason(road[1]))
+            node = road[0]
+
+
+def turned_reason(reason):
+    """The reason why the second of two nodes is the same as the first one."""
+    if reason[0] == "part":
+        return ("part", reason[2], reason[1], reason[3])
+    if reason[0] == "turned":
+        return reason[1]
+    return ("turned", reason)

@@ -1,0 +1,125 @@
+"""Texts with the books in which they are read."""
+from widestkind.books import first_unknown
+from widestkind.copies import Copies, Source
+from widestkind.errors import BadMacro, BadPlace, Unknown
+from widestkind.expanding import expanded
+from widestkind.groups import reached
+from widestkind.names import free
+from widestkind.reading import read
+from widestkind.shapes import is_row, parts_of
+from widestkind.trees import text_of
+from widestkind.words import is_integer
+
+
+class Whole:
+    """A text with the book in which it is read. It never changes."""
+
+    def __init__(self, book, text):
+        self.book = book
+        self.text = text
+        sources = sources_of(book, read(text))
+        check_names(book, sources)
+        groups = {name: group for group in book.groups() for name in group}
+        copies = Copies(sources, groups)
+        self._tree = sources[""].steps[0]
+        self._knots = copies.found
+        self._targets = copies.targets
+        self._within = [copies.within(knot) for knot in range(len(copies.found))]
+        self._above = [None for _ in copies.found]
+        self._patterns = [False for _ in copies.found]
+        for knot, within in enumerate(self._within):
+            for index, inner in enumerate(within):
+                self._above[inner] = knot
+                row = is_row(copies.found[knot][2])
+                self._patterns[inner] = self._patterns[knot] or row and index == 0
+        self._places = sorted({place: True for place, _, _ in copies.found})
+
+    def tree(self):
+        """The expansion of the text's tree."""
+        return self._tree
+
+    def knots(self):
+        """The list of the tuples of the place, the use and the part of all knots."""
+        return list(self._knots)
+
+    def places(self):
+        """The ascending list of the places of all knots, each once."""
+        return list(self._places)
+
+    def where(self, place):
+        """The text of the part that is written at a place."""
+        if not is_place_of(self, place):
+            raise BadPlace(place)
+        owner, number = place
+        if owner == "":
+            tree = read(self.text)
+        elif owner[0] == "@":
+            tree = self.book.template_of(owner[1:])[1]
+        else:
+            tree = self.book.tree_of(owner)
+        return text_of(parts_of(tree)[number])
+
+    def many(self):
+        """The number of the knots."""
+        return len(self._knots)
+
+    def part_of(self, knot):
+        """The part of a knot."""
+        return self._knots[knot][2]
+
+    def is_in_pattern(self, knot):
+        """Whether the part of a knot is a pattern."""
+        return self._patterns[knot]
+
+    def knots_within(self, knot):
+        """The list of the knots of the parts directly within the part of a knot; of the copy of a `rec` just its e1."""
+        return list(self._within[knot])
+
+    def knot_above(self, knot):
+        """The knot of the part in which the part of a knot stands directly, or None."""
+        return self._above[knot]
+
+    def target_of(self, knot):
+        """The point that has the same kind as the name of a knot."""
+        return self._targets[knot]
+
+
+def definition_uses(book, name):
+    """The definitions that a definition uses; one that cannot be expanded uses none."""
+    try:
+        return book.uses(name)
+    except BadMacro:
+        return []
+
+
+def sources_of(book, tree):
+    """The dict from `""` and the names of all definitions that a text uses to their Sources."""
+    made, origins = expanded(book, tree)
+    found = {"": Source(made, origins)}
+    uses = {name: definition_uses(book, name) for name in book.definitions()}
+    first = [word for word in free(made) if word in uses]
+    for name in sorted(reached(uses, first)):
+        made, origins = book.expansion_of(name)
+        found[name] = Source(made, origins)
+    return found
+
+
+def check_names(book, sources):
+    """Raises Unknown with the first name in the sources that stands for nothing, or own kind that is not told."""
+    names = {name: True for name in book.definitions()}
+    for source in sources.values():
+        for part, mark in zip(source.steps, source.marks):
+            wrong = None
+            if part[0] == "name" and mark is None and part[1] not in names:
+                wrong = part[1]
+            elif part[0] == "told":
+                wrong = first_unknown(book, part[2])
+            if wrong is not None:
+                raise Unknown(wrong)
+
+
+def is_place_of(whole, value):
+    """Whether any value is a place of a whole."""
+    if not isinstance(value, tuple) or len(value) != 2 or not isinstance(value[0], str) or not is_integer(value[1]):
+        return False
+    return value in whole.places()

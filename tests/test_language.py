@@ -133,6 +133,21 @@ class Language(unittest.TestCase):
                     self.assertEqual(len(node.targets), 1)
                     self.assertFalse(any(isinstance(x, (ast.Call, ast.ListComp)) for x in ast.walk(node.value)))
 
+    def test_tables_at_module_level_are_only_read(self):
+        for name, tree in trees():
+            tables = {node.targets[0].id for node in tree.body
+                      if isinstance(node, ast.Assign) and isinstance(node.value, (ast.Dict, ast.List))}
+            parents = {child: node for node in ast.walk(tree) for child in ast.iter_child_nodes(node)}
+            for node in ast.walk(tree):
+                if isinstance(node, ast.Name) and node.id in tables and isinstance(node.ctx, ast.Load):
+                    above = parents[node]
+                    fine = isinstance(above, ast.Subscript) and above.value is node
+                    fine = fine or isinstance(above, ast.Compare) and isinstance(above.ops[0], (ast.In, ast.NotIn))
+                    fine = fine or isinstance(above, ast.Attribute) and above.attr in {"get", "items", "keys", "values"}
+                    self.assertTrue(fine, f"{name}:{node.lineno}")
+                if isinstance(node, ast.Call) and isinstance(node.func, ast.Subscript):
+                    self.fail(f"{name}:{node.lineno}")
+
     def test_names(self):
         for name, tree in trees():
             own = {node.name for node in ast.walk(tree) if isinstance(node, ast.FunctionDef)}

@@ -13,7 +13,7 @@ class Joins:
     from steps to nodes whose points are those of some node with this step more; `heads`, the tuple of a node, a head
     and its fact, or None; `onlys`, tuples of a node, labels and their fact; `links`, tuples of two nodes whose rows
     are the same but for some labels, these labels, and the reason. A fact is a tuple of a knot and an index.
-    `wrong` is what cannot be, or None.
+    `wrong` is what cannot be, or None; `changed` are leaders whose entries are still to be looked at.
     """
 
     def __init__(self):
@@ -31,6 +31,7 @@ class Joins:
         self.powers = []
         self.wrong = None
         self.waiting = []
+        self.changed = []
 
     def _new_node(self, point):
         node = len(self.points)
@@ -83,16 +84,24 @@ class Joins:
         return self.nodes[(knot, what, way[:-1])]
 
     def _look_at_row(self, leader):
-        """Hands the entries of a row on to rows that have the same ones, and looks for those that it may not have."""
-        for node, labels, fact in self.onlys[leader]:
-            for step, entry in self.steps[leader].items():
-                if step not in labels and self.wrong is None:
-                    self.wrong = ("gone", entry, node, step, fact)
-        for node, other, labels, reason in list(self.links[leader]):
+        """Hands the entries of a row on to rows that have the same ones, and has them looked at."""
+        if self.onlys[leader]:
+            self.changed.append(leader)
+        for one, other, labels, reason in list(self.links[leader]):
             for step in list(self.steps[leader]):
-                if step not in labels and (node, other, step) not in self.handed:
-                    self.handed[(node, other, step)] = True
-                    self.waiting.append((node, other, (*reason, step)))
+                if step not in labels and (one, other, step) not in self.handed:
+                    self.handed[(one, other, step)] = True
+                    self.waiting.append((one, other, (*reason, step)))
+
+    def _find_gone(self):
+        """Looks for entries that rows that have changed may not have."""
+        for changed in self.changed:
+            leader = self.leader(changed)
+            for node, labels, fact in self.onlys[leader]:
+                for step, entry in self.steps[leader].items():
+                    if step not in labels and self.wrong is None:
+                        self.wrong = ("gone", entry, node, step, fact)
+        self.changed = []
 
     def tell(self, fact, what):
         """Takes in what a fact tells, and what follows from it."""
@@ -141,6 +150,8 @@ class Joins:
                 step = reason[3]
                 one, other = self.behind(one, step), self.behind(other, step)
             self._join(one, other, reason)
+        if self.wrong is None:
+            self._find_gone()
 
     def _join(self, one, other, reason):
         """Lets two nodes become the same."""

@@ -1,7 +1,8 @@
 """Whether any value tells kinds for all points of a whole for which all facts are true."""
 from widestkind.facts import facts_of
+from widestkind.kindnumbers import KindNumbers
 from widestkind.kinds import is_built_kind, row_kinds
-from widestkind.kindwalks import folded, uses_in
+from widestkind.kindwalks import uses_in
 from widestkind.measures import is_measure
 from widestkind.pieces import first_stray
 from widestkind.powers import add_times, measure_of
@@ -58,64 +59,34 @@ def are_told_together(value, keys):
     return first_stray(uses) is None
 
 
-class Forms:
-    """Kinds as numbers, equal kinds as equal ones. `forms` has for each number the head, which is the kind itself
-    for a name; the dict from steps to numbers; and the row name, the name of the own kind, or the measure.
-    """
-
-    def __init__(self):
-        self.numbers = {}
-        self.forms = []
-
-    def number_of(self, kind):
-        """The number of a kind."""
-        return folded(kind, self.number_with)
-
-    def number_with(self, kind, inner):
-        """The number of a kind, of which the numbers of the kinds in it are told."""
-        steps = list(range(len(inner)))
-        rest = kind[1]
-        if kind[0] == "fn":
-            steps, rest = ["from", "to"], None
-        elif kind[0] == "record":
-            steps, rest = ["." + label for label, _ in kind[1]], kind[2]
-        elif kind[0] == "variant":
-            steps, rest = [label for label, _ in kind[1]], kind[2]
-        key = (kind[0], tuple(steps), tuple(inner), rest)
-        if key not in self.numbers:
-            self.numbers[key] = len(self.forms)
-            self.forms.append((kind[0], dict(zip(steps, inner)), rest))
-        return self.numbers[key]
-
-
 class Judge:
     """What a dict tells of points, and whether facts are true of it."""
 
     def __init__(self, whole, value, keys):
         self.arities = {name: len(whole.book.parameters(name)) for name in whole.book.kinds()}
-        self.forms = Forms()
+        self.numbered = KindNumbers()
         self.numbers = {}
         self.measures = {}
         self.rows = {}
         for key, use in keys.items():
             if use[0] == "kind":
-                self.numbers[key] = self.forms.number_of(value[key])
+                self.numbers[key] = self.numbered.number_of(value[key])
             elif use[0] == "measure":
                 self.measures[key] = value[key]
             else:
-                self.rows[key] = self.forms.number_of((use[0], value[key][0], value[key][1]))
+                self.rows[key] = self.numbered.number_of((use[0], value[key][0], value[key][1]))
 
     def form(self, point):
         """The form of the kind at a point, or None if its way leads nowhere."""
         number = self.number_at(point)
-        return None if number is None else self.forms.forms[number]
+        return None if number is None else self.numbered.forms[number]
 
     def number_at(self, point):
         """The number of the kind at a point, or None if its way leads nowhere."""
         number = self.numbers.get((point[0], point[1]))
         for step in point[2]:
             if number is not None:
-                number = self.forms.forms[number][1].get(step)
+                number = self.numbered.forms[number][1].get(step)
         return number
 
     def is_true(self, fact):
@@ -139,7 +110,7 @@ class Judge:
             if other is None or form[0] != "record" or other[0] != "record":
                 return False
             return row_without(form, (fact[3],)) == row_without(other, (fact[3],))
-        other = self.forms.forms[self.rows[(fact[3][0], fact[3][1])]]
+        other = self.numbered.forms[self.rows[(fact[3][0], fact[3][1])]]
         return form[0] == other[0] and row_without(form, fact[2]) == row_without(other, ())
 
     def _has_head(self, form, head):

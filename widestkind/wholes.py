@@ -21,7 +21,7 @@ class Whole:
         check_names(book, sources)
         groups = {name: group for group in book.groups() for name in group}
         copies = Copies(sources, groups)
-        self._tree = sources[""].steps[0]
+        self._steps = {name: tuple(source.steps) for name, source in sources.items()}
         self._knots = copies.found
         self._targets = copies.targets
         self._within = [copies.within(knot) for knot in range(len(copies.found))]
@@ -36,7 +36,15 @@ class Whole:
 
     def tree(self):
         """The expansion of the text's tree."""
-        return self._tree
+        return self._steps[""][0]
+
+    def steps_of(self, name):
+        """The parts of the expansion of the text, for `""`, or of a definition that is used."""
+        return list(self._steps[name])
+
+    def uses_of(self, name):
+        """The list of the definitions that a definition uses, which is itself used."""
+        return self.book.uses(name) if name in self._steps else []
 
     def knots(self):
         """The list of the tuples of the place, the use and the part of all knots."""

@@ -1,0 +1,110 @@
+"""How form trees are built, their parts, and the trees that are left of them without kinds."""
+
+# What stands behind the first word of a form tree, for its first word and its length.
+FORM_TREES = {
+    ("number", 4): ("count", "unit", "measure"),
+    ("name", 3): ("word", "table"),
+    ("fail", 3): ("word", "kind"),
+    ("fn", 4): ("word", "kind", "tree"),
+    ("call", 3): ("tree", "tree"),
+    ("let", 5): ("word", "names", "tree", "tree"),
+    ("rec", 7): ("word", "word", "names", "kind", "tree", "tree"),
+    ("record", 2): ("entries",),
+    ("with", 4): ("tree", "word", "tree"),
+    ("field", 3): ("tree", "word"),
+    ("tag", 4): ("tag", "tree", "kind"),
+    ("match", 3): ("tree", "rows"),
+    ("op", 4): ("sign", "tree", "tree"),
+    ("told", 3): ("tree", "kind"),
+}
+
+# What is left out of a form tree.
+LEFT_OUT = ("measure", "table", "names")
+
+
+def form_shape(value):
+    """The sorts of what stands behind the first word of a tuple that may be a form tree, or None."""
+    if value == () or not isinstance(value[0], str) or (value[0], len(value)) not in FORM_TREES:
+        return None
+    return FORM_TREES[(value[0], len(value))]
+
+
+def pattern_parts_in(pattern):
+    """The patterns directly within a pattern."""
+    if pattern[0] == "tag":
+        return [pattern[2]]
+    if pattern[0] == "record":
+        return [inner for _, inner in pattern[1]]
+    return []
+
+
+def form_parts_in(part):
+    """The form trees and rows directly within a form tree, or the tree of a row; patterns are not looked at."""
+    if isinstance(part[0], tuple):
+        return [part[1]]
+    found = []
+    for item, sort in zip(part[1:], form_shape(part)):
+        if sort == "tree":
+            found.append(item)
+        elif sort == "entries":
+            found.extend([inner for _, inner in item])
+        elif sort == "rows":
+            found.extend(item)
+    return found
+
+
+def form_parts(tree):
+    """A form tree and all form trees and rows within it, each ahead of those in it, these in their order."""
+    found = []
+    waiting = [tree]
+    while waiting:
+        part = waiting.pop()
+        found.append(part)
+        waiting.extend(form_parts_in(part)[::-1])
+    return found
+
+
+def put_within(part, inner):
+    """The form tree or row with others in the place of those directly within it."""
+    if isinstance(part[0], tuple):
+        return (part[0], inner[0])
+    made = [part[0]]
+    at = 0
+    for item, sort in zip(part[1:], form_shape(part)):
+        if sort == "tree":
+            made.append(inner[at])
+            at += 1
+        elif sort == "entries":
+            made.append(tuple([(entry[0], new) for entry, new in zip(item, inner[at:])]))
+        elif sort == "rows":
+            made.append(tuple(inner[at:]))
+        else:
+            made.append(item)
+    return tuple(made)
+
+
+def form_folded(tree, change):
+    """The form tree of which each part is what `change` makes of it, those within it changed ahead of it."""
+    done = []
+    for part in form_parts(tree)[::-1]:
+        inner = [done.pop() for _ in form_parts_in(part)]
+        done.append(change(part, inner))
+    return done[0]
+
+
+def bare(part, inner):
+    """What is left of a form tree, or of a row, if kinds, names and tables are left out."""
+    if isinstance(part[0], tuple):
+        return (part[0], inner[0])
+    shape = form_shape(part)
+    made = put_within(part, inner)
+    kept = [made[0]]
+    for item, sort in zip(made[1:], shape):
+        if sort not in LEFT_OUT and (sort != "kind" or part[0] == "told"):
+            kept.append(item)
+    return tuple(kept)
+
+
+def bare_tree(tree):
+    """The tree that is left of a form tree."""
+    return form_folded(tree, bare)

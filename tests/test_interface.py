@@ -5,10 +5,13 @@ import inspect
 import unittest
 
 from widestkind.books import Book
+from widestkind.healing import floors
 from widestkind.kinds import read_kind
+from widestkind.papers import clash
 from widestkind.reading import read
 from widestkind.solving import solution
 from widestkind.wholes import Whole
+from widestkind.widest import explicit, widest
 
 INTERFACE = {
     "ratios": {"Ratio": "(top, bottom=1)"},
@@ -31,6 +34,14 @@ INTERFACE = {
     "wholes": {"Whole": "(book, text)"},
     "facts": {"facts": "(whole, knot)"},
     "solving": {"fits": "(whole, places=None)", "solution": "(whole)", "judge_solution": "(whole, value)"},
+    "healing": {
+        "healed": "(text, deeds)", "is_healing": "(text, value)", "distance": "(text)", "heal": "(text)", "healings": "(text)",
+        "floors": "(text)", "are_floors": "(text, value)", "heal_right": "(book, text)"},
+    "papers": {"clash": "(whole, places=None)", "judge_clash": "(whole, value)", "paper_places": "(whole, paper)"},
+    "widest": {
+        "widest": "(whole)", "can_have": "(whole, kind)", "explicit": "(whole)", "form_with": "(whole, kind)"},
+    "forms": {
+        "is_form": "(book, value)", "judge": "(book, form)", "erase": "(form)", "is_form_of": "(whole, value)"},
 }
 
 METHODS = {
@@ -50,6 +61,7 @@ TREE = read("fn x -> match x {T(y) -> y; _ -> z}")
 ROW = read_kind("{a : num['m] | 'r} -> 'x")
 BOOK = Book("kind tree 'a = Leaf | Node({left : tree('a)})\nmacro both(e) = {a = e, b = e}\ndef one = 1\ndef two = one")
 WHOLE = Whole(BOOK, "fn x -> @both(x + two)")
+CLASHING = Whole(BOOK, "1(2)")
 
 CALLS = [
     ("measures", "times", [(("m", 1),), (("s", 1),)]), ("measures", "fill_measure", [NUM[1], {"'a": (("s", 1),)}]),
@@ -64,6 +76,13 @@ CALLS = [
     ("books", "is_empty", [BOOK, read_kind("tree(num)")]), ("facts", "facts", [WHOLE, 0]),
     ("solving", "fits", [WHOLE, [("", 0), ("@both", 0)]]), ("solving", "solution", [WHOLE]),
     ("solving", "judge_solution", [WHOLE, solution(WHOLE)]), ("expanding", "expanded", [BOOK, read("@both(x)")]),
+    ("healing", "healed", ["f(x", [(3, "put", ")")]]), ("healing", "is_healing", ["f(x", [(3, "put", ")")]]),
+    ("healing", "distance", ["f(x"]), ("healing", "heal", ["f(x"]), ("healing", "healings", ["f(x"]), ("healing", "floors", ["f("]),
+    ("healing", "are_floors", ["f(", floors("f(")]), ("healing", "heal_right", [BOOK, "3[m"]),
+    ("papers", "clash", [CLASHING, [("", 0), ("", 1), ("", 2)]]), ("papers", "judge_clash", [CLASHING, clash(CLASHING)]),
+    ("papers", "paper_places", [CLASHING, clash(CLASHING)]), ("widest", "widest", [WHOLE]), ("widest", "can_have", [WHOLE, NUM]),
+    ("widest", "explicit", [WHOLE]), ("widest", "form_with", [WHOLE, widest(WHOLE)]), ("forms", "is_form", [BOOK, explicit(WHOLE)]),
+    ("forms", "judge", [BOOK, explicit(WHOLE)]), ("forms", "erase", [explicit(WHOLE)]), ("forms", "is_form_of", [WHOLE, explicit(WHOLE)]),
 ]
 
 

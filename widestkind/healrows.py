@@ -43,8 +43,8 @@ STAND_INS = {"word": "x", "plain": "x", "tag": "T", "number": "1", "power": "1",
 class Grammar:
     """The rows, cut into states: a state stands for what is left of a row.
 
-    By states: `symbols`, and `behind_state`, the state with one symbol less. State 0 stands for nothing. `firsts` has for
-    each form the states of its whole rows.
+    By states: `symbols`, and `behind_state`, the state with one symbol less. State 0 stands for nothing. `firsts`
+    has for each form the states of its whole rows.
     """
 
     def __init__(self):

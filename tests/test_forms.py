@@ -152,6 +152,7 @@ class IsForm(unittest.TestCase):
         one = ("number", 1, None, ())
         trees = [("number", 0, None, (("'m", 2), ("m", 1))), ("number", 3, (("m", 1),), ()), ("name", "x", None), ("name", "x", ()),
                  ("name", "x", (("'a", num), ("'a", ()), ("'r", ((("b", num),), "'q")), ("'v", ((("B", name),), None)), ("'e", ((), None)))),
+                 ("name", "x", (("'a", ("own", "none", ())), ("'r", ((("b", ("own", "tree", ())),), None)))),
                  ("fail", "w", name), ("fn", "x", num, one), ("call", one, one), ("let", "x", ("'a", "'b"), one, one),
                  ("let", "x", (), one, one), ("rec", "f", "x", ("'a",), num, one, one), ("record", ()), ("record", (("b", one), ("a", one))),
                  ("with", one, "a", one), ("field", one, "a"), ("tag", "T", one, name), ("op", "<", one, one),
@@ -169,7 +170,7 @@ class IsForm(unittest.TestCase):
         trees = [("number", 1, None), ("number", -1, None, ()), ("number", True, None, ()), ("number", 1, (), ()), ("number", 1, (("'m", 1),), ()),
                  ("number", 1, None, None), ("number", 1, None, []), ("number", 1, None, (), 1), ("name", "x"), ("name", "fn", None),
                  ("name", "x", []), ("name", "x", (("a", num),)), ("name", "x", (("'a",),)), ("name", "x", (["'a", num],)),
-                 ("name", "x", (("'a", None),)), ("name", "x", (("'a", stray),)), ("name", "x", (("'a", ("own", "none", ())),)),
+                 ("name", "x", (("'a", None),)), ("name", "x", (("'a", stray),)), ("name", "x", (("'a", ("own", "None", ())),)),
                  ("name", "x", (("'a", ((("b", num), ("a", num)), None)),)), ("name", "x", (("'a", ((("b", num),), "b")),)),
                  ("name", "x", (("'a", [(), None]),)), ("name", "x", (("'a", ((("b", num), ("B", num)), None)),)),
                  ("fail", "w"), ("fail", "W", name), ("fail", "w", None), ("fn", "x", one), ("fn", "x", stray, one), ("fn", "1", num, one),
@@ -259,6 +260,10 @@ class Rules(unittest.TestCase):
                              (3, ((("A", NUM),), None)), (3, ((("a", NUM),), None)), (1, ((("b", NUM),), "'m")), (2, ("name", "'q"))]:
             self.assertEqual(self.told(use(*good[:index], thing, *good[index + 1:])), 2, (index, thing))
         self.assertEqual(self.told(use(*good[:4], NUM)), "{a : num[s^2], b : num | 'q} -> <A : 'm>")
+        strange = ("own", "none", ())
+        self.assertEqual(self.told(use(*good[:4], strange)), "{a : num[s^2], b : num | 'q} -> <A : 'm>")
+        self.assertEqual(self.told(use(*good[:2], strange, *good[3:])), 2)
+        self.assertEqual(self.told(use(good[0], ((("b", ("own", "tree", ())),), None), *good[2:])), 2)
 
     def test_names_that_are_free(self):
         inner = ("fn", "y", ("name", "'a"), ("name", "y", None))

@@ -24,16 +24,16 @@ def are_names(value):
     return True
 
 
-def is_thing(book, value):
+def is_thing(value):
     """Whether any value is a kind, a row or a measure that may be put in the place of a name."""
-    if is_measure(value) or is_book_kind(book, value):
+    if is_measure(value) or is_kind(value):
         return True
     if not isinstance(value, tuple) or len(value) != 2:
         return False
-    return any([is_book_kind(book, (head, value[0], value[1])) for head in ("record", "variant")])
+    return any([is_kind((head, value[0], value[1])) for head in ("record", "variant")])
 
 
-def is_table(book, value):
+def is_table(value):
     """Whether any value is None or a tuple of tuples of a kind name and a thing."""
     if value is None:
         return True
@@ -42,7 +42,7 @@ def is_table(book, value):
     for entry in value:
         if not isinstance(entry, tuple) or len(entry) != 2:
             return False
-        if not is_kind_name(entry[0]) or not is_thing(book, entry[1]):
+        if not is_kind_name(entry[0]) or not is_thing(entry[1]):
             return False
     return True
 
@@ -52,7 +52,7 @@ def is_of_form(book, value, sort):
     if sort == "measure":
         return is_measure(value)
     if sort == "table":
-        return is_table(book, value)
+        return is_table(value)
     if sort == "names":
         return are_names(value)
     if sort == "kind":

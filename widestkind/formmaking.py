@@ -121,8 +121,6 @@ class FormMaker:
         seen = self.inner_view(inner[0], inner[1], view, around)
         self.bound[knot] = seen.kind_at(point)
         self.loose[knot] = self.loose_names(self.bound[knot], seen, around)
-        if head == "rec":
-            self.views[(knot, "self")] = seen
         return [(inner[1], view, around), (inner[0], seen, within)]
 
     def _look_at_name(self, knot, word, binder):

@@ -1,4 +1,5 @@
 """The rules by which the kinds of the parts of a form come of the kinds of the parts within them."""
+from widestkind.books import first_unknown
 from widestkind.errors import BadFilling
 from widestkind.fillings import is_filling
 from widestkind.kinds import fill, fill_all, is_kind
@@ -43,9 +44,10 @@ class Rules:
         return self.numbers.forms[number]
 
     def is_right(self, number):
-        """Whether what has a number is a kind."""
+        """Whether what has a number is a kind of the book."""
         if number not in self.kinds_right:
-            self.kinds_right[number] = is_kind(self.numbers.whole[number])
+            kind = self.numbers.whole[number]
+            self.kinds_right[number] = is_kind(kind) and first_unknown(self.book, kind) is None
         return self.kinds_right[number]
 
     def are_free(self, names, scope):

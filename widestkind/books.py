@@ -15,14 +15,11 @@ class Book:
         self._macros = {}
         self._definitions = {}
         self._tags = {}
-        self._expansions = {}
         given = text.split("\n") if text != "" else []
         lines = []
         for index, line in enumerate(given):
             lines.append(self._take(read_line(line, index + 1)))
         self._text = "\n".join(lines)
-        for name, tree in self._definitions.items():
-            self._expand(name, tree)
 
     def _take(self, line):
         """Takes in a line behind all others; returns its text."""
@@ -40,16 +37,6 @@ class Book:
             check_unlike(line, self._definitions, {})
             self._definitions[line.name] = line.made
         return line.written()
-
-    def _expand(self, name, tree):
-        """Keeps the expansion of a definition, with the macro that refuses it, if one does."""
-        try:
-            made, origins = expand(self._macros, tree, name)
-        except BadMacro as wrong:
-            self._expansions[name] = (None, (), wrong.name, ())
-            return
-        uses = sorted([word for word in free(made) if word in self._definitions])
-        self._expansions[name] = (made, tuple(origins), None, tuple(uses))
 
     def __eq__(self, other):
         return isinstance(other, Book) and self._text == other._text
@@ -99,21 +86,27 @@ class Book:
 
     def expansion_of(self, name):
         """The expansion of a definition: the tree and the list of origins."""
-        if name not in self._definitions:
-            raise NoSuch(name)
-        tree, origins, wrong, _ = self._expansions[name]
-        if wrong is not None:
-            raise BadMacro(wrong)
-        return tree, list(origins)
+        return expand(self._macros, self.tree_of(name), name)
 
     def uses(self, name):
         """The ascending list of the definitions that a definition uses."""
-        self.expansion_of(name)
-        return list(self._expansions[name][3])
+        return sorted(self.used_in(self.expansion_of(name)[0]))
+
+    def used_in(self, tree):
+        """The list of the definitions that are free names in a tree."""
+        return [word for word in free(tree) if word in self._definitions]
 
     def groups(self):
         """The list of the groups of definitions, in ascending order."""
-        return grouped({name: list(self._expansions[name][3]) for name in self._definitions})
+        return grouped({name: uses_or_none(self, name) for name in self._definitions})
+
+
+def uses_or_none(book, name):
+    """The list of the definitions that a definition uses; one that cannot be expanded uses none."""
+    try:
+        return book.uses(name)
+    except BadMacro:
+        return []
 
 
 def first_unknown(book, kind):

@@ -1,11 +1,9 @@
 """The forms of wholes that have a kind: all groups that a text uses, and its tree."""
 from widestkind.formmaking import FormMaker
 from widestkind.formshapes import form_folded, put_within
-from widestkind.groups import reached
 from widestkind.kinds import fill_all
 from widestkind.kindwalks import first_uses
 from widestkind.measures import fill_measure
-from widestkind.names import free
 from widestkind.solutions import put_nodes
 from widestkind.solving import joined, knots_at, measures_of
 from widestkind.views import Naming, View
@@ -40,26 +38,21 @@ def put_group(book, group, known, groups):
     entries = []
     for name in group:
         groups[name] = (names, kinds)
-        maker.look_at(book.expansion_of(name)[0], roots[name][0], view, around)
+        maker.look_at(whole.steps_of(name)[0], roots[name][0], view, around)
         entries.append((name, kinds[name], maker.form_tree(roots[name][0], roots[name][1])))
     return (names, tuple(entries))
 
 
 def groups_in_order(whole):
     """The list of the groups that a text uses, each behind those that it uses."""
-    book = whole.book
-    names = book.definitions()
-    first = [word for word in free(whole.tree()) if word in names]
-    uses = {name: whole.uses_of(name) for name in names}
-    left = reached(uses, first)
     found = []
     placed = {}
-    waiting = [group for group in book.groups() if group[0] in left]
+    waiting = whole.groups_used()
     while waiting:
         ready = []
         for group in waiting:
-            needed = [other for name in group for other in uses[name] if other not in group]
-            if not any([other not in placed for other in needed]):
+            needed = [other for name in group for other in whole.book.used_in(whole.steps_of(name)[0])]
+            if not any([other not in placed and other not in group for other in needed]):
                 ready.append(group)
         for group in ready:
             found.append(group)

@@ -3,8 +3,7 @@ from widestkind.books import first_unknown
 from widestkind.copies import Copies, Source
 from widestkind.errors import BadMacro, BadPlace, Unknown
 from widestkind.expanding import expanded
-from widestkind.groups import reached
-from widestkind.names import free
+from widestkind.groups import grouped
 from widestkind.reading import read
 from widestkind.shapes import is_row, parts_of
 from widestkind.trees import text_of
@@ -19,9 +18,9 @@ class Whole:
         self.text = text
         sources = sources_of(book, read(text))
         check_names(book, sources)
-        groups = {name: group for group in book.groups() for name in group}
-        copies = Copies(sources, groups)
         self._steps = {name: tuple(source.steps) for name, source in sources.items()}
+        self._groups = grouped({name: book.used_in(steps[0]) for name, steps in self._steps.items() if name != ""})
+        copies = Copies(sources, {name: group for group in self._groups for name in group})
         self._knots = copies.found
         self._targets = copies.targets
         self._within = [copies.within(knot) for knot in range(len(copies.found))]
@@ -32,7 +31,8 @@ class Whole:
                 self._above[inner] = knot
                 row = is_row(copies.found[knot][2])
                 self._patterns[inner] = self._patterns[knot] or row and index == 0
-        self._places = sorted({place: True for place, _, _ in copies.found})
+        places = {place: True for place, _, _ in copies.found}
+        self._places = sorted(places)
 
     def tree(self):
         """The expansion of the text's tree."""
@@ -42,9 +42,9 @@ class Whole:
         """The parts of the expansion of the text, for `""`, or of a definition that is used."""
         return list(self._steps[name])
 
-    def uses_of(self, name):
-        """The list of the definitions that a definition uses, which is itself used."""
-        return self.book.uses(name) if name in self._steps else []
+    def groups_used(self):
+        """The ascending list of the groups of the definitions that are used, directly or through others."""
+        return [list(group) for group in self._groups]
 
     def knots(self):
         """The list of the tuples of the place, the use and the part of all knots."""
@@ -92,24 +92,26 @@ class Whole:
         return self._targets[knot]
 
 
-def definition_uses(book, name):
-    """The definitions that a definition uses; one that cannot be expanded uses none."""
-    try:
-        return book.uses(name)
-    except BadMacro:
-        return []
-
-
 def sources_of(book, tree):
-    """The dict from `""` and the names of all definitions that a text uses to their Sources."""
+    """The dict from `""` and the names of all definitions that a text uses, in order, to their Sources."""
     made, origins = expanded(book, tree)
-    found = {"": Source(made, origins)}
-    uses = {name: definition_uses(book, name) for name in book.definitions()}
-    first = [word for word in free(made) if word in uses]
-    for name in sorted(reached(uses, first)):
-        made, origins = book.expansion_of(name)
-        found[name] = Source(made, origins)
-    return found
+    known = {"": Source(made, origins)}
+    wrong = {}
+    waiting = book.used_in(made)
+    while waiting:
+        name = waiting.pop()
+        if name in known or name in wrong:
+            continue
+        try:
+            made, origins = book.expansion_of(name)
+        except BadMacro as refused:
+            wrong[name] = refused.name
+            continue
+        known[name] = Source(made, origins)
+        waiting.extend(book.used_in(made))
+    if wrong:
+        raise BadMacro(wrong[min(list(wrong))])
+    return {name: known[name] for name in sorted(known)}
 
 
 def check_names(book, sources):

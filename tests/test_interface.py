@@ -82,6 +82,11 @@ CALLS = [
     ("papers", "clash", [CLASHING, [("", 0), ("", 1), ("", 2)]]), ("papers", "judge_clash", [CLASHING, clash(CLASHING)]),
     ("papers", "paper_places", [CLASHING, clash(CLASHING)]), ("widest", "widest", [WHOLE]), ("widest", "can_have", [WHOLE, NUM]),
     ("widest", "explicit", [WHOLE]), ("widest", "form_with", [WHOLE, widest(WHOLE)]), ("forms", "is_form", [BOOK, explicit(WHOLE)]),
+    ("measures", "is_measure", [NUM[1]]), ("measures", "power", [NUM[1], -2]), ("measures", "read_measure", ["m s^2"]),
+    ("measures", "measure_text", [NUM[1]]), ("kinds", "is_kind", [ROW]), ("kinds", "kind_text", [ROW]),
+    ("kinds", "read_kind", ["{a : num | 'r}"]), ("fillings", "told", [ROW]), ("fillings", "is_filling", [NUM, NUM]),
+    ("trees", "is_tree", [TREE]), ("trees", "is_pattern", [("bind", "x")]), ("trees", "show", [TREE]),
+    ("reading", "is_built", ["f(x)"]), ("reading", "read", ["f(x)"]), ("names", "alike", [TREE, TREE]),
     ("forms", "judge", [BOOK, explicit(WHOLE)]), ("forms", "erase", [explicit(WHOLE)]), ("forms", "is_form_of", [WHOLE, explicit(WHOLE)]),
 ]
 
@@ -144,6 +149,11 @@ class Interface(unittest.TestCase):
             words = list(inspect.signature(function).parameters)
             named = [(word, value) for word, value in zip(words, given)]
             self.assertEqual(function(**dict(named[::-1])), kept, name)
+
+    def test_all_functions_are_called(self):
+        called = {(module, name) for module, name, _ in CALLS}
+        listed = {(module, name) for module, names in INTERFACE.items() for name in names if name[0].islower()}
+        self.assertEqual(listed - called, set())
 
     def test_books_and_wholes_stay(self):
         def everything():

@@ -62,7 +62,7 @@ class Writer:
 
 
 class Expansion:
-    """The parts of an expansion, in order: each with keys in the place of words, its origin, and its arity."""
+    """The parts of an expansion, in order, with keys in the place of words; their origins; and a count of writers."""
 
     def __init__(self, macros):
         self.templates = macros

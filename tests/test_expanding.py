@@ -112,6 +112,15 @@ class Expanding(unittest.TestCase):
         tree, origins = expanded(Book(wide), read("@c(fn x -> x)"))
         self.assertEqual(len(parts(tree)), len(origins))
 
+    def test_many_calls_that_leave_few_parts(self):
+        lines = ["macro a(x, y) = x"]
+        for name, inner in zip("bcdefghijk", "abcdefghij"):
+            lines.append("macro " + name + "(x, y) = " + ("@" + inner + "(") * 20 + "x" + ", y)" * 20)
+        self.assertEqual(expanded(Book("\n".join(lines)), read("f(@k(@k(y, 1), 2))")),
+                         (read("f(y)"), [("", 0), ("", 1), ("", 4)]))
+        lines = "macro id(e) = e\nmacro two(e) = @id(@id(e))\nmacro nm($x) = @two($x)"
+        self.assert_expands(lines, "fn y -> @two(@nm(y))(@id(1))", "fn y -> y(1)", [("me", 0), ("me", 1), ("@nm", 1), ("me", 6)])
+
     def test_wrong_calls(self):
         lines = "macro m(a, $x) = a\nmacro none() = 1"
         for text, name in [("@gone()", "gone"), ("@m(1)", "m"), ("@m(1, x, y)", "m"), ("@m(x, 1)", "m"), ("@none(1)", "none"),

@@ -4,7 +4,7 @@ from widestkind.books import Book
 from widestkind.errors import BadForm, BadKind, NoKind
 from widestkind.fillings import is_filling, told
 from widestkind.forms import erase, is_form, is_form_of, judge
-from widestkind.kinds import kind_text, read_kind
+from widestkind.kinds import fill, kind_text, names_in, read_kind
 from widestkind.ratios import Ratio
 from widestkind.reading import read
 from widestkind.wholes import Whole
@@ -140,6 +140,26 @@ class Explicit(unittest.TestCase):
                 self.assertTrue(is_form_of(one, form))
             self.assertEqual(judge(one.book, form_with(one, widest(one))), widest(one))
         self.assertIsNone(form_with(whole("fn x -> x"), read_kind("num -> num[m]")))
+
+
+    def test_forms_with_filled_kinds(self):
+        for text in ["fn x -> let f = fn a -> {a = a, b = {x with c = a}, d = A(a), e = fail w} in {p = f, q = f(x), r = f(0)}",
+                     "fn x -> fn y -> rec g z = match y {A(b) -> {a = x * b, b = g(z)}.b; c -> fail w} in {p = g(1), q = g(x), r = g}",
+                     "fn x -> let f = fn a -> fn t -> match t {A(b) -> {t = b * a * x, u = B}; C -> {t = 0, u = D}} in {p = f, q = f(x), r = f(0)}",
+                     "fn t -> fn x -> match t {Node({here = h}) -> {h with a = x}; Leaf -> {a = x, b = 0}}",
+                     "fn r -> let f = fn a -> (r : {k : 'x | 'r}) in {p = f(1), q = f(r), s = r.k(0)}"]:
+            one = whole(text)
+            kind = widest(one)
+            kinds, records, variants, measures = names_in([kind])
+            table = {name: read_kind("{a : num['w1] | 'w2} -> 'w3") for name in kinds}
+            table.update({name: ((("zz", read_kind("'w4")),), "'q" + str(at + 1)) for at, name in enumerate(records)})
+            table.update({name: ((("Z", read_kind("num['w5]")),), None) for name in variants})
+            table.update({name: (("'w1", at + 1), ("'w6", 1), ("m", -1)) for at, name in enumerate(measures)})
+            for some in [table, {name: table[name] for name in measures}, {name: table[name] for name in kinds + variants}]:
+                filled = fill(kind, some)
+                form = form_with(one, filled)
+                self.assertEqual(judge(one.book, form), filled)
+                self.assertTrue(is_form_of(one, form))
 
 
 class IsForm(unittest.TestCase):

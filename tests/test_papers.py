@@ -19,6 +19,7 @@ CLASHES = [
     "fn r -> match {r with b = 1} {{a = s} -> {p = s + 1, q = r.a(1)}}", "(A : <B : {} | 'r>) + 1", "2[m] / 3[s] < 1[m]",
     "fn x -> match x {Node({here = Leaf}) -> x.here; Leaf -> T}", "fn t -> match t {A(x) -> x; Leaf -> 1}",
     "rec f x = {a = f(x), b = f(T), c = x + 1} in f", "fn x -> {a = (x : {p : 'k | 'r}), b = x.p(1), c = x.p + 1}",
+    "fn f -> fn g -> {a = f(g), b = g(f)}", "fn f -> fn g -> {a = f({a = g}), b = g(A(f)), c = {a = f}.a(g)}",
     "fn g -> let f = fn x -> g(x) in {a = f(1), b = f(T)}", "(fn f -> f(f))(fn x -> x)", "match {a = 1} {{a = A} -> 1; {a = B} -> 2}",
 ]
 

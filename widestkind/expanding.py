@@ -61,11 +61,30 @@ class Writer:
         return self.trees.get(part[1])
 
 
+def root_parameter(words, template, roots):
+    """The index of the parameter for which a template stands as a whole, or None; `roots` tells it of other macros."""
+    part = template
+    while part[0] == "macro" and roots[part[1]] is not None:
+        part = part[2][roots[part[1]]]
+    if part[0] == "name" and part[1][0] != "$" and part[1] in words:
+        return words.index(part[1])
+    return None
+
+
+def all_roots(macros):
+    """The dict from macros to the indexes of the parameters for which their templates stand as a whole, or None."""
+    found = {}
+    for name, (words, template) in macros.items():
+        found[name] = root_parameter(words, template, found)
+    return found
+
+
 class Expansion:
     """The parts of an expansion, in order, with keys in the place of words; their origins; and a count of writers."""
 
     def __init__(self, macros):
         self.templates = macros
+        self.roots = all_roots(macros)
         self.shells = []
         self.origins = []
         self.writers = 0
@@ -93,8 +112,11 @@ class Expansion:
         return Writer(self.writers, owner, tree)
 
     def _called(self, call, number, writer):
-        """The template of a call, which is written by the call."""
+        """The template of a call, which is written by the call; or what is passed, if the template is but that."""
         words, template = self.templates[call[1]]
+        root = self.roots[call[1]]
+        if root is not None:
+            return call[2][root], numbers_within(number, len(words), writer.sizes)[root], writer
         called = self._writer("@" + call[1], template)
         called.pass_parts(words, call, number, writer)
         return template, 0, called

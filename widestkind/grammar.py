@@ -156,6 +156,8 @@ def row_of(form, sort):
 def takes(symbol, token, template):
     """Whether a symbol that is no form takes a token, in the template of a macro or elsewhere."""
     sort = sort_of(token)
+    if symbol == "head":
+        return True
     if symbol == "name":
         return sort == "word" or template and sort == "$"
     if symbol == "plain":

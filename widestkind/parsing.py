@@ -1,5 +1,7 @@
 """Reads texts by the rows of the grammar, with a list of what is still to come in the place of deep recursion."""
 from widestkind.errors import BadName, BadText, Twice
+from widestkind.formgrammar import form_row_of
+from widestkind.formpieces import form_piece
 from widestkind.grammar import KEPT, row_of, sort_of, takes
 from widestkind.kindpieces import kind_piece
 from widestkind.pieces import Notes, Piece
@@ -7,7 +9,7 @@ from widestkind.signs import cut
 from widestkind.treepieces import tree_piece
 
 # How many pieces are taken for a part that is known to go on only behind its first pieces.
-TAKEN = {"!op": 3, "!call": 2, "!field": 2, "?fn": 2}
+TAKEN = {"!op": 3, "!call": 2, "!field": 2, "?fn": 2, "~kind": 1, "~measure": 1, "~row": 1}
 
 
 class Reader:
@@ -30,7 +32,7 @@ class Reader:
         """Does what a symbol of the grammar says; returns the symbols that come in its place."""
         if symbol == "#":
             self.marks.append((len(self.pieces), self.tokens[self.at][1]))
-        elif symbol[0] in ("!", "?"):
+        elif symbol[0] in ("!", "?", "~"):
             self._make(symbol)
         elif "A" <= symbol[0] <= "Z":
             return self._row(symbol)
@@ -44,7 +46,11 @@ class Reader:
         sort = sort_of(token)
         if form == "FIELDS" and sort == "word" and self.tokens[self.at + 1][0] == "=":
             sort = "label"
+        if form in ("FIRST", "BODY") or token == "0" and form == "COUNT":
+            sort = token
         row = row_of(form, sort)
+        if row is None:
+            row = form_row_of(form, sort)
         if row is None:
             raise BadText(begin)
         return row
@@ -68,7 +74,9 @@ class Reader:
             first, begin = self.marks.pop()
         items = self.pieces[first:]
         del self.pieces[first:]
-        make = tree_piece if symbol[0] == "!" else kind_piece
+        make = kind_piece
+        if symbol[0] != "?":
+            make = tree_piece if symbol[0] == "!" else form_piece
         self.pieces.append(make(symbol[1:], items, begin, self.end, self.notes))
 
     def finish(self):
@@ -98,6 +106,13 @@ def parsed(text, form, template=False):
 def read_tree_piece(text):
     """The piece of the tree of a text, whose words and names are right."""
     reader = parsed(text, "TREE")
+    reader.finish()
+    return reader.pieces[0]
+
+
+def read_form_piece(text):
+    """The piece of the form of a text, whose words and names are right."""
+    reader = parsed(text, "FORM")
     reader.finish()
     return reader.pieces[0]
 

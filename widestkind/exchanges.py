@@ -32,9 +32,14 @@ def pattern_numbers(tree):
     return found
 
 
+def is_tree_place(whole, place):
+    """Whether a tree stands at a place of a whole, and no row or pattern."""
+    return place[1] not in pattern_numbers(owner_tree(whole, place[0]))
+
+
 def check_tree_place(whole, place):
     """Raises BadPlace unless any value is a place of a whole at which a tree stands."""
-    if not is_place_of(whole, place) or place[1] in pattern_numbers(owner_tree(whole, place[0])):
+    if not is_place_of(whole, place) or not is_tree_place(whole, place):
         raise BadPlace(place)
 
 

@@ -31,9 +31,9 @@ class LeastValues:
 
     def of(self, kind):
         """The least value of a kind, or None if it is empty."""
-        return self._within(kind, {})
+        return self._least_within(kind, {})
 
-    def _within(self, kind, table):
+    def _least_within(self, kind, table):
         """The least value of a kind, where a dict has the values of some names."""
         def combined(part, inner):
             if part[0] == "num":
@@ -73,7 +73,7 @@ class LeastValues:
             table = dict(zip(self.book.parameters(name), values))
             found = []
             for tag in self.book.constructors(name):
-                value = self._within(self.book.kind_of(tag)[2], table)
+                value = self._least_within(self.book.kind_of(tag)[2], table)
                 if value is not None:
                     found.append(("tag", tag, value))
             self.known[key] = smallest(found)

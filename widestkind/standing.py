@@ -18,12 +18,16 @@ def tests_of(pattern):
 
 
 class Standing:
-    """The values of a kind. `around` has the kinds at ways that were asked for, and None where none is known."""
+    """The values of a kind. `around` has the kinds at ways that were asked for, and None where none is known.
+
+    `options` has the tags that values may have at ways that were asked for.
+    """
 
     def __init__(self, book, kind):
         self.book = book
         self.least = LeastValues(book)
         self.around = {(): kind}
+        self.options = {}
 
     def has_values(self):
         """Whether there are values at all."""
@@ -48,6 +52,12 @@ class Standing:
 
     def tags_named(self, way):
         """The ascending list of the tags that values may have at a way and that the kind there names."""
+        if way not in self.options:
+            self.options[way] = self._tags_within(way)
+        return list(self.options[way])
+
+    def _tags_within(self, way):
+        """The ascending list of the tags that the kind at a way names, and the contents of which have values."""
         kind = self.kind_at(way)
         if kind[0] == "own":
             tags = self.book.constructors(kind[1])
@@ -86,7 +96,7 @@ class Standing:
             inner = self._value(known, ahead, (*way, tag))
             return ("tag", tag, ("record", ()) if inner is None else inner)
         if kind is None or way not in ahead:
-            return None if kind is None else self.least.of(kind)
+            return None if kind is None else self.least.tree_with(self.least.of(kind))
         if kind[0] != "record":
             tag = [tag for tag in self.tags_named(way) if (*way, tag) in ahead][0]
             return ("tag", tag, self._value(known, ahead, (*way, tag)))

@@ -222,6 +222,31 @@ class Language(unittest.TestCase):
                 if isinstance(node, ast.FunctionDef):
                     self.check_sets(name, node)
 
+    def test_loops_do_not_change_what_they_go_over(self):
+        changing = {"append", "clear", "extend", "insert", "pop", "remove", "reverse", "setdefault", "update", "discard", "add"}
+        for name, tree in trees():
+            for node in ast.walk(tree):
+                if not isinstance(node, ast.For):
+                    continue
+                over = {ast.dump(one) for one in self.gone_over(node.iter)}
+                for inner in [one for part in node.body for one in ast.walk(part)]:
+                    changed = []
+                    if isinstance(inner, ast.Call) and isinstance(inner.func, ast.Attribute) and inner.func.attr in changing:
+                        changed = [inner.func.value]
+                    if isinstance(inner, ast.Call) and isinstance(inner.func, ast.Name) and inner.func.id.startswith("heap"):
+                        changed = [inner.args[0]]
+                    if isinstance(inner, ast.Subscript) and isinstance(inner.ctx, (ast.Store, ast.Del)):
+                        changed = [inner.value]
+                    for one in changed:
+                        self.assertNotIn(ast.dump(one), over, f"{name}:{inner.lineno}")
+
+    def gone_over(self, node):
+        if isinstance(node, ast.Call) and isinstance(node.func, ast.Name) and node.func.id in {"zip", "enumerate", "reversed"}:
+            return [one for arg in node.args for one in self.gone_over(arg)]
+        if isinstance(node, ast.Call) and isinstance(node.func, ast.Attribute) and node.func.attr in {"items", "keys", "values"}:
+            return [node.func.value]
+        return [node] if isinstance(node, (ast.Name, ast.Attribute, ast.Subscript)) else []
+
     def check_sets(self, name, function):
         stored = set()
         for node in ast.walk(function):

@@ -10,7 +10,16 @@ from widestkind.shapes import is_row, numbers_within, parts_in, parts_of, rebuil
 from widestkind.words import is_plain_word
 
 # The indexes of the parts that are worked out ahead of a part.
-WORKED = {"call": (0, 1), "let": (0,), "with": (0, 1), "field": (0,), "tag": (0,), "told": (0,), "match": (0,), "op": (0, 1)}
+WORKED = {
+    "call": (0, 1),
+    "let": (0,),
+    "with": (0, 1),
+    "field": (0,),
+    "tag": (0,),
+    "told": (0,),
+    "match": (0,),
+    "op": (0, 1),
+}
 
 
 class Cell:
@@ -88,7 +97,7 @@ def cell_of(tree, places):
     sizes = sizes_of(steps)
     patterns = pattern_numbers(tree)
     cells = {}
-    for number in range(len(steps))[::-1]:
+    for number in list(range(len(steps)))[::-1]:
         part = steps[number]
         if number not in patterns or is_row(part):
             within = numbers_within(number, len(parts_in(part)), sizes)
@@ -141,7 +150,7 @@ def put_for(cell, table):
             done.append(made)
         else:
             waiting.append((one, values, True))
-            for at in range(len(one.inner))[::-1]:
+            for at in list(range(len(one.inner)))[::-1]:
                 bound = caught(one.shell, at)
                 left = {word: value for word, value in values.items() if word not in bound}
                 waiting.append((one.inner[at], left, False))

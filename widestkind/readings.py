@@ -97,12 +97,12 @@ class Group:
     def reading(self, verdicts):
         """The tuple of the five things of the reading, where the verdicts of the definitions that are used are told."""
         parts = [part for tree in self.trees for part in parts_of(tree)]
-        tags = {tag: None for part in parts for tag in tags_of(part)}
+        tags = {}
         named = [name for part in parts for name in told_kinds(part)]
-        for tag in tags:
+        for tag in [tag for part in parts for tag in tags_of(part)]:
             ours = self.book.kind_of(tag)
+            tags[tag] = None if ours is None else ours[0]
             if ours is not None:
-                tags[tag] = ours[0]
                 named.append(ours[0])
         texts = (self.macro, [text_of(plain_names(tree)) for tree in self.trees])
         uses = {name: verdict_text(verdicts.get(name)) for name in self.used_outside()}

@@ -16,7 +16,8 @@ class Shelf:
     """The lines of a book, with all deeds that can be taken back or done again."""
 
     def __init__(self, text=""):
-        lines = lines_of(text) if str(Book(text)) != "" else []
+        Book(text)
+        lines = lines_of(text)
         self._states = [State(Book("\n".join(lines)), lines)]
         self._at = 0
         self._before = self._states[0]
@@ -69,7 +70,7 @@ class Shelf:
         return {name: self.verdict(name) for name in self.names()}
 
     def looked(self):
-        """The dict from the definitions that the last deed has looked at to what was another thing in their readings."""
+        """The dict from the definitions that the last deed looked at to what was another thing in their readings."""
         return self._now().looked_since(self._before)
 
     def broke(self):

@@ -20,7 +20,7 @@ def is_step(short, rule, number):
     """Whether any two values are a rule and the number of a part at which it makes a step."""
     if not isinstance(rule, str) or rule not in RULES or not is_integer(number):
         return False
-    return 0 <= number < len(short.steps) and short.made(rule, number) is not None
+    return 0 <= number < len(short.steps) and short.result_of(rule, number) is not None
 
 
 def step(whole, rule, number):

@@ -117,21 +117,21 @@ class Short:
     """A tree with what is asked of its parts: which are plain, how large they are, and where words stand as names."""
 
     def __init__(self, tree):
-        self.top = tree
+        self.root = tree
         self.steps = parts_of(tree)
         self.sizes = sizes_of(self.steps)
         self.plain = plain_parts(self.steps)
-        self.stands = {}
+        self.spots = {}
         for number, part in enumerate(self.steps):
             if part[0] == "name":
-                self.stands.setdefault(part[1], []).append(number)
+                self.spots.setdefault(part[1], []).append(number)
 
     def uses(self, word, number):
         """How often a word stands as a name in the part with a number."""
         behind = number + self.sizes[number]
-        return len([at for at in self.stands.get(word, []) if number <= at < behind])
+        return len([at for at in self.spots.get(word, []) if number <= at < behind])
 
-    def made(self, rule, number):
+    def result_of(self, rule, number):
         """What a rule makes of the part with a number, or None if it does not make anything."""
         part = self.steps[number]
         head = part[0]
@@ -177,25 +177,25 @@ class Short:
         """The list of all steps, in ascending order of their numbers and then of the rules."""
         found = []
         for number in range(len(self.steps)):
-            found.extend([(rule, number) for rule in RULES if self.made(rule, number) is not None])
+            found.extend([(rule, number) for rule in RULES if self.result_of(rule, number) is not None])
         return found
 
     def first_step(self):
         """The first step, or None if there is none."""
         for number in range(len(self.steps)):
             for rule in RULES:
-                if self.made(rule, number) is not None:
+                if self.result_of(rule, number) is not None:
                     return rule, number
         return None
 
     def after(self, rule, number):
         """The tree behind a step."""
-        new = self.made(rule, number)
+        new = self.result_of(rule, number)
 
         def changed(part, at, inner):
             return new if at == number else rebuilt(part, inner)
 
-        return folded(self.top, changed)
+        return folded(self.root, changed)
 
 
 def made_of_match(part):

@@ -8,9 +8,12 @@ from widestkind.books import Book
 from widestkind.formtexts import form_text
 from widestkind.healing import floors
 from widestkind.kinds import read_kind
+from widestkind.looks import looks
 from widestkind.papers import clash
+from widestkind.ratios import Ratio
 from widestkind.reading import read
 from widestkind.refuters import mend_paper
+from widestkind.shelf import Shelf
 from widestkind.solving import solution
 from widestkind.wholes import Whole
 from widestkind.widest import explicit, widest
@@ -55,6 +58,14 @@ INTERFACE = {
     "cases": {
         "takes": "(pattern, tree)", "is_value_tree": "(value)", "matched_kind": "(whole, knot)", "missed": "(whole, knot)",
         "leaks": "(whole)", "useless": "(whole, knot)"},
+    "looks": {
+        "is_looks": "(whole, knot, value)", "looks": "(whole, knot)", "cheapest_looks": "(whole, knot)", "most_looks": "(tree)"},
+    "values": {"is_value": "(value)", "value_text": "(tree)", "is_data": "(tree)"},
+    "runs": {"run": "(whole, budget)", "states": "(whole, budget)", "in_units": "(whole, units)"},
+    "shorter": {
+        "steps": "(whole)", "step": "(whole, rule, number)", "weight": "(tree)", "shortest": "(whole)", "shortening": "(whole)",
+        "judge_chain": "(whole, chain, text)", "same_end": "(one, other)"},
+    "shelf": {"Shelf": "(text='')"},
 }
 
 METHODS = {
@@ -65,6 +76,11 @@ METHODS = {
                         "parameters": "(self, name)", "kind_of": "(self, tag)", "template_of": "(self, name)",
                         "tree_of": "(self, name)", "uses": "(self, name)", "groups": "(self)", "__str__": "(self)",
                         "__eq__": "(self, other)"},
+    ("shelf", "Shelf"): {
+        "as_book": "(self)", "lines": "(self)", "names": "(self)", "put": "(self, line)", "take": "(self, sort, name)",
+        "verdict": "(self, name)", "verdicts": "(self)", "looked": "(self)", "broke": "(self)", "healed": "(self)", "undo": "(self)",
+        "redo": "(self)", "trial": "(self, line)", "demand": "(self, user, name)", "would_fit": "(self, name, kind)",
+        "stands": "(self, names)", "lots": "(self)", "cures": "(self)"},
     ("wholes", "Whole"): {"tree": "(self)", "knots": "(self)", "places": "(self)", "where": "(self, place)"},
 }
 
@@ -75,6 +91,7 @@ ROW = read_kind("{a : num['m] | 'r} -> 'x")
 BOOK = Book("kind tree 'a = Leaf | Node({left : tree('a)})\nmacro both(e) = {a = e, b = e}\ndef one = 1\ndef two = one")
 WHOLE = Whole(BOOK, "fn x -> @both(x + two)")
 CLASHING = Whole(BOOK, "1(2)")
+UNITS = Whole(BOOK, "fn x -> 1[m] + 2[m]")
 CASE = Whole(BOOK, "fn x -> match x {Leaf -> 1}")
 
 CALLS = [
@@ -111,6 +128,12 @@ CALLS = [
     ("wanted", "wanted", [WHOLE, ("", 2)]), ("wanted", "may_stand", [WHOLE, ("", 2), read("1")]), ("wanted", "loose_places", [WHOLE]),
     ("cases", "takes", [("bind", "x"), read("A")]), ("cases", "is_value_tree", [read("{a = A}")]), ("cases", "matched_kind", [CASE, 1]),
     ("cases", "missed", [CASE, 1]), ("cases", "leaks", [CASE]), ("cases", "useless", [CASE, 1]),
+    ("looks", "is_looks", [CASE, 1, looks(CASE, 1)]), ("looks", "looks", [CASE, 1]), ("looks", "cheapest_looks", [CASE, 1]),
+    ("looks", "most_looks", [looks(CASE, 1)]), ("values", "is_value", [read("{b = 1, a = fn x -> x}")]),
+    ("values", "value_text", [read("{b = 1, a = fn x -> x}")]), ("values", "is_data", [read("{b = 1}")]), ("runs", "run", [WHOLE, 9]),
+    ("runs", "states", [WHOLE, 9]), ("runs", "in_units", [UNITS, {"m": Ratio(1, 2)}]), ("shorter", "steps", [UNITS]),
+    ("shorter", "step", [UNITS, "op", 1]), ("shorter", "weight", [TREE]), ("shorter", "shortest", [UNITS]), ("shorter", "shortening", [UNITS]),
+    ("shorter", "judge_chain", [UNITS, [("op", 1)], "fn y -> 3[m]"]), ("shorter", "same_end", [UNITS, UNITS]),
 ]
 
 
@@ -200,6 +223,18 @@ class Interface(unittest.TestCase):
                 function = getattr(importlib.import_module("widestkind." + module), name)
                 other = Whole(Book(str(given[0].book)), given[0].text)
                 self.assertEqual(seen(function(other, *given[1:])), seen(function(*given)), name)
+
+    def test_methods_take_names(self):
+        shelf = Shelf(text=str(BOOK))
+        kept = [shelf.verdict(name="one"), shelf.trial(line="def one = 2"), shelf.demand(name="one", user="two"), shelf.stands(names=("one",)),
+                shelf.would_fit(kind=("num", ()), name="one")]
+        self.assertEqual(kept, [shelf.verdict("one"), shelf.trial("def one = 2"), shelf.demand("two", "one"), shelf.stands(["one"]),
+                                shelf.would_fit("one", ("num", ()))])
+        shelf.put(line="def three = 3")
+        shelf.take(name="three", sort="def")
+        self.assertEqual([BOOK.constructors(name="tree"), BOOK.kind_of(tag="Leaf")[0], BOOK.uses(name="two"), WHOLE.where(place=("", 0))],
+                         [["Leaf", "Node"], "tree", ["one"], WHOLE.text])
+        self.assertEqual([Ratio(1).over(number=2).written(), Ratio(bottom=2, top=1).below(number=1)], ["1/2", True])
 
     def test_what_stands_behind_the_star_is_told_by_name(self):
         found = importlib.import_module("widestkind.measures")

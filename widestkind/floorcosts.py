@@ -5,93 +5,197 @@ from widestkind.healrows import FORMS, Grammar, fits_symbol, stand_in
 MUCH = 1000000
 
 
-class Costs:
-    """The least numbers, by the index `begin * width + end` of a stretch.
+class Plan:
+    """What is known of the rows whatever the tokens are: `order` has the numbers of the forms.
 
-    `forms` has the lists of the forms. `ahead` has by states the lists of what is left of rows, `placed` those of
-    what is left behind a first token that has its place, so that only tokens that are left out may come before it.
-    If `table` is a dict like a table of floors, the numbers of its forms are those of the dict.
+    By states but state 0: `lefts`, the state with one symbol less, and `heads`, the number of the first symbol's form,
+    or -1 for a sort of tokens. `tokens` are the states that begin with a sort of tokens, and `cuts` those that begin
+    with a form, as tuples of the form's number, the state with one symbol less, and the state.
+    """
+
+    def __init__(self, grammar):
+        self.grammar = grammar
+        self.order = {form: number for number, form in enumerate(grammar.firsts)}
+        self.lefts = grammar.behind_state[1:]
+        self.heads = [self.order.get(symbol, -1) for symbol in grammar.symbols[1:]]
+        self.tokens = [state for state in range(1, len(grammar.symbols)) if not grammar.is_form(state)]
+        pairs = list(enumerate(zip(self.heads, self.lefts)))
+        self.cuts = [(head, left, index + 1) for index, (head, left) in pairs if head >= 0]
+        self.fixed = [form in FORMS for form in grammar.firsts]
+        self.least = None
+        self.edges = []
+        self.starts = []
+
+    def learn(self, values):
+        """Takes in to what the forms come for no tokens, so that forms can be found by those that they become.
+
+        `edges` has tuples of a form, a form in a row of it, and to what the rest of the row comes for no tokens;
+        `starts` has for each form the states of the ends of its rows, with what the rows come to ahead of them.
+        """
+        self.least = values
+        edges = {}
+        for form, place in self.order.items():
+            starts = []
+            for state in self.grammar.firsts[form]:
+                row = self._row(state)
+                weights = [1 if head < 0 else values[head] for _, head in row]
+                for index, (one, head) in enumerate(row):
+                    starts.append((one, sum(weights[:index])))
+                    if head not in (-1, place):
+                        cost = sum(weights) - weights[index]
+                        edges[(place, head)] = min(cost, edges.get((place, head), cost))
+            self.starts.append(starts)
+        self.edges = [(place, head, cost) for (place, head), cost in edges.items()]
+
+    def _row(self, state):
+        """The list of the states of the ends of a row, with the numbers of the forms with which they begin."""
+        found = []
+        while state != 0:
+            found.append((state, self.heads[state - 1]))
+            state = self.lefts[state - 1]
+        return found
+
+
+class Costs:
+    """The least numbers for stretches, each a list by forms or states at the index `begin * width + end`.
+
+    `forms` has the numbers of the forms. `ahead` has those of what is left of rows, `placed` those of what is left
+    behind a first token that has its place, so that only tokens that are left out may come before it. If `table` is a
+    dict like a table of floors, the numbers of its forms are those of the dict.
     """
 
     def __init__(self, tokens, table):
         self.tokens = tokens
         self.width = len(tokens) + 1
         self.grammar = Grammar()
+        self.plan = Plan(self.grammar)
         self.table = table
-        self.forms = {form: self._new_list() for form in self.grammar.firsts}
-        self.ahead = [self._new_list() for _ in self.grammar.symbols]
-        self.placed = [self._new_list() for _ in self.grammar.symbols]
-        self.fitting = {symbol: [fits_symbol(symbol, token) for token in tokens] for symbol in self.grammar.symbols}
-        self.states = [state for state in range(1, len(self.grammar.symbols)) if not self.grammar.is_form(state)]
-        self.form_states = {state: True for state in range(1, len(self.grammar.symbols)) if self.grammar.is_form(state)}
-        for length in range(self.width):
+        self.forms = [None] * (self.width * self.width)
+        self.ahead = [None] * (self.width * self.width)
+        self.placed = [None] * (self.width * self.width)
+        symbols = {self.grammar.symbols[state]: True for state in self.plan.tokens}
+        self.fitting = {symbol: [fits_symbol(symbol, token) for token in tokens] for symbol in symbols}
+        for begin in range(self.width):
+            self._fill_empty(begin)
+        for length in range(1, self.width):
             for begin in range(self.width - length):
                 self._fill(begin, begin + length)
 
-    def _new_list(self):
-        return [MUCH] * (self.width * self.width)
+    def _given(self, begin, end):
+        """The numbers of the forms of a stretch, as far as they are known from the outset."""
+        if self.table is None:
+            return [MUCH] * len(self.plan.fixed)
+        return [self.table[(form, begin, end)] if form in FORMS else MUCH for form in self.plan.order]
+
+    def _fill_empty(self, begin):
+        """Finds the numbers of the stretch without tokens at a place."""
+        at = begin * self.width + begin
+        if self.plan.least is not None:
+            self.forms[at], self.ahead[at], self.placed[at] = self.forms[0], self.ahead[0], self.placed[0]
+            return
+        values = self._given(begin, begin)
+        direct = [MUCH] * len(self.plan.lefts)
+        found = self._of_states(0, direct, values, values, None)
+        while self._take_less(values, found):
+            found = self._of_states(0, direct, values, values, None)
+        self.forms[at] = values
+        self.ahead[at] = found
+        self.placed[at] = [MUCH, *[found[left] for left in self.plan.lefts]]
+        if self.table is None:
+            self.plan.learn(values)
 
     def _fill(self, begin, end):
         """Finds the numbers of a stretch, of which those of shorter ones are known."""
         at = begin * self.width + end
-        if begin == end:
-            self.ahead[0][at] = 0
-        if self.table is not None:
-            for form in FORMS:
-                self.forms[form][at] = self.table[(form, begin, end)]
-        if begin < end:
-            self._take_first(begin, at)
-            self._cut(begin, end)
-        while self._relax(begin, end):
-            pass
+        direct = self._direct(begin, end)
+        values = self._given(begin, end) if self.table is not None else self._values(direct)
+        before = self.forms[begin * self.width + begin]
+        behind = self.ahead[end * self.width + end]
+        found = self._of_states(MUCH, direct, values, before, behind)
+        while self.table is not None and self._take_less(values, found):
+            found = self._of_states(MUCH, direct, values, before, behind)
+        self.forms[at] = values
+        self.ahead[at] = found
+        inner = self.placed[at + self.width]
+        placed = [MUCH] * len(found)
+        for state in self.plan.tokens:
+            one = 1 + inner[state]
+            other = found[self.plan.lefts[state - 1]]
+            placed[state] = one if one < other else other
+        self.placed[at] = placed
 
-    def _take_first(self, begin, at):
-        """Takes the first token of a stretch for the first token of states, or leaves it out."""
-        inner = at + self.width
-        for state in self.states:
-            cost = 0 if self.fitting[self.grammar.symbols[state]][begin] else 1
-            self.ahead[state][at] = min(cost + self.placed[state][inner], 1 + self.ahead[state][inner])
-            self.placed[state][at] = 1 + self.placed[state][inner]
-
-    def _cut(self, begin, end):
-        """Cuts a stretch in two that are not empty, one for the form that comes first in states."""
+    def _direct(self, begin, end):
+        """The numbers of the states that take the first token, or a form for some tokens, but not all, first."""
         at = begin * self.width + end
-        for state in self.form_states:
-            row = self.forms[self.grammar.symbols[state]]
-            left = self.ahead[self.grammar.behind_state[state]]
-            best = MUCH
-            first = begin * self.width
-            for middle in range(begin + 1, end):
-                total = row[first + middle] + left[middle * self.width + end]
-                if total < best:
-                    best = total
-            self.ahead[state][at] = best
+        placed = self.placed[at + self.width]
+        ahead = self.ahead[at + self.width]
+        direct = [MUCH] * len(self.plan.lefts)
+        symbols = self.grammar.symbols
+        for state in self.plan.tokens:
+            one = placed[state] if self.fitting[symbols[state]][begin] else 1 + placed[state]
+            other = 1 + ahead[state]
+            direct[state - 1] = one if one < other else other
+        rows = []
+        for middle in range(begin + 1, end):
+            values = self.forms[begin * self.width + middle]
+            left = self.ahead[middle * self.width + end]
+            rows.append([values[head] + left[behind] for head, behind, _ in self.plan.cuts])
+        if rows:
+            best = [min(column) for column in zip(*rows)] if len(rows) > 1 else rows[0]
+            for (_, _, state), cost in zip(self.plan.cuts, best):
+                direct[state - 1] = cost
+        return direct
 
-    def _relax(self, begin, end):
-        """Lets the numbers of a stretch become less by each other; returns whether a form's number has."""
-        at = begin * self.width + end
-        for state, symbol in enumerate(self.grammar.symbols):
-            left = self.ahead[self.grammar.behind_state[state]]
-            total = left[at] + 1
-            if state in self.form_states:
-                row = self.forms[symbol]
-                total = min(row[begin * self.width + begin] + left[at], row[at] + left[end * self.width + end])
-            elif left[at] < self.placed[state][at]:
-                self.placed[state][at] = left[at]
-            if total < self.ahead[state][at]:
-                self.ahead[state][at] = total
+    def _values(self, direct):
+        """The numbers of the forms, of which one may be found by another one that is a row of it but for no tokens."""
+        values = [min([direct[state - 1] + cost for state, cost in starts]) for starts in self.plan.starts]
+        changed = True
+        while changed:
+            changed = False
+            for form, inner, cost in self.plan.edges:
+                if values[inner] + cost < values[form]:
+                    values[form] = values[inner] + cost
+                    changed = True
+        return values
+
+    def _of_states(self, nothing, direct, values, before, behind):
+        """The numbers of the states of a stretch.
+
+        `before` has those of the forms for no tokens ahead of it, `behind` those of the states for no tokens behind
+        it; None if the stretch itself has no tokens.
+        """
+        found = [nothing]
+        if behind is None:
+            behind = found
+        for head, left, cost in zip(self.plan.heads, self.plan.lefts, direct):
+            if head < 0:
+                least = found[left] + 1
+            else:
+                least = found[left] + before[head]
+                whole = values[head] + behind[left]
+                if whole < least:
+                    least = whole
+            found.append(cost if cost < least else least)
+        return found
+
+    def _take_less(self, values, found):
+        """Lets the numbers of forms become less by those of states; returns whether one has."""
         changed = False
-        for form, states in self.grammar.firsts.items():
-            best = min([self.ahead[state][at] for state in states])
-            if best < self.forms[form][at] and (self.table is None or form not in FORMS):
-                self.forms[form][at] = best
+        for form, place in self.plan.order.items():
+            best = min([found[state] for state in self.grammar.firsts[form]])
+            if best < values[place] and (self.table is None or not self.plan.fixed[place]):
+                values[place] = best
                 changed = True
         return changed
 
+    def cost(self, form, begin, end):
+        """The least number of deeds by which a stretch becomes a form."""
+        return self.forms[begin * self.width + end][self.plan.order[form]]
+
     def need(self, form, begin, end):
         """The least number to which the rows of a form come for a stretch."""
-        at = begin * self.width + end
-        return min([self.ahead[state][at] for state in self.grammar.firsts[form]])
+        found = self.ahead[begin * self.width + end]
+        return min([found[state] for state in self.grammar.firsts[form]])
 
 
 class Ways:
@@ -108,10 +212,10 @@ class Ways:
     def cost(self, what):
         """The least number of deeds."""
         sort, key, begin, end = what
-        at = begin * self.costs.width + end
         if sort == "form":
-            return self.costs.forms[key][at]
-        return self.costs.ahead[key][at] if sort == "ahead" else self.costs.placed[key][at]
+            return self.costs.cost(key, begin, end)
+        at = begin * self.costs.width + end
+        return self.costs.ahead[at][key] if sort == "ahead" else self.costs.placed[at][key]
 
     def choices(self, what):
         """The list of the choices that come to the least number of deeds."""

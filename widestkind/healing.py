@@ -76,7 +76,7 @@ def floors(text):
     """The table of floors with the greatest values."""
     words = token_list(text)
     costs = Costs(words, None)
-    return {(form, begin, end): costs.need(form, begin, end) for form, begin, end in keys_of_floors(len(words))}
+    return {(form, begin, end): costs.cost(form, begin, end) for form, begin, end in keys_of_floors(len(words))}
 
 
 def are_floors(text, value):

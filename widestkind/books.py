@@ -3,7 +3,7 @@ from widestkind.errors import BadMacro, NoSuch, Unknown
 from widestkind.expanding import expand
 from widestkind.kindwalks import folded, own_kinds_in
 from widestkind.lines import check_contents, check_template, check_unlike, read_line
-from widestkind.names import free
+from widestkind.names import binder_marks, free_words
 from widestkind.groups import grouped
 
 
@@ -94,7 +94,7 @@ class Book:
 
     def used_in(self, tree):
         """The list of the definitions that are free names in a tree."""
-        return [word for word in free(tree) if word in self._definitions]
+        return [word for word in free_words(tree, binder_marks(tree)) if word in self._definitions]
 
     def groups(self):
         """The list of the groups of definitions, in ascending order."""

@@ -4,7 +4,7 @@ Names that are bound in a state have numbers, and definitions have none: so valu
 free names, are put in the place of names without being caught.
 """
 from widestkind.exchanges import pattern_numbers
-from widestkind.names import bound_words, plain_names
+from widestkind.names import bound_words, with_plain_names
 from widestkind.numberforms import is_number_form
 from widestkind.shapes import is_row, numbers_within, parts_in, parts_of, rebuilt, sizes_of
 from widestkind.words import is_plain_word
@@ -93,7 +93,7 @@ def loose_words(shell, inner):
 
 def cell_of(tree, places):
     """The cell of a tree of which the places are told, in which names that are bound get numbers."""
-    steps = parts_of(plain_names(tree))
+    steps = parts_of(with_plain_names(tree))
     sizes = sizes_of(steps)
     patterns = pattern_numbers(tree)
     cells = {}

@@ -1,5 +1,5 @@
 """Trees in which each binder has a word of its own, and how the words that were there before come back."""
-from widestkind.names import bound_words, new_words, plain_names, with_words
+from widestkind.names import bound_words, new_words, with_plain_names, with_words
 from widestkind.shapes import folded, is_row, parts_of, sizes_of
 
 LETTERS = "xyzuvwabcdefghijklmnopqrst"
@@ -13,7 +13,7 @@ def apart(tree):
         if number in words:
             for new, old in zip(words[number], bound_words(part)):
                 found[new] = old
-    return plain_names(tree), found
+    return with_plain_names(tree), found
 
 
 def names_within(tree):

@@ -1,7 +1,7 @@
 """What names in trees are bound by, and trees that differ only in the choice of bound names."""
 from widestkind.errors import BadTree
-from widestkind.shapes import folded, is_row, parts_in, parts_of, rebuilt
-from widestkind.trees import is_tree, show
+from widestkind.shapes import LEAVES, folded, is_row, parts_in, parts_of, rebuilt
+from widestkind.trees import is_tree, text_of
 
 BINDING = ("fn", "let", "rec", "bind")
 
@@ -48,9 +48,14 @@ def binder_marks(tree):
     waiting = [(tree, {})]
     while waiting:
         part, scope = waiting.pop()
-        inner = scoped_parts(part, len(found), scope)
-        found.append(scope.get(part[1]) if part[0] == "name" else None)
-        waiting.extend(inner[::-1])
+        head = part[0]
+        if head == "name":
+            found.append(scope.get(part[1]))
+            continue
+        if head not in LEAVES:
+            inner = scoped_parts(part, len(found), scope)
+            waiting.extend(inner[::-1])
+        found.append(None)
     return found
 
 
@@ -61,18 +66,64 @@ def binder_numbers(tree):
 
 def with_words(tree, words):
     """The tree in which what binds words, by its number, binds those of a list, and the names are these words."""
-    marks = binder_marks(tree)
+    return with_marked_words(tree, binder_marks(tree), words)
 
+
+def with_marked_words(tree, marks, words):
+    """The tree with other words for what binds, where the marks of its parts are told."""
     def renamed(part, number, inner):
-        made = rebuilt(part, inner)
-        if marks[number] is not None:
-            binder, index = marks[number]
-            return ("name", words[binder][index])
-        if not bound_words(part):
+        if part[0] == "name":
+            mark = marks[number]
+            return part if mark is None else ("name", words[mark[0]][mark[1]])
+        made = rebuilt(part, inner) if inner else part
+        if number not in words:
             return made
         return (made[0], *words[number], *made[1 + len(words[number]):])
 
     return folded(tree, renamed)
+
+
+def free_words(tree, marks):
+    """The dict of True for the words that are free names of a tree, in the order of the text."""
+    found = {}
+    for part, mark in zip(parts_of(tree), marks):
+        if mark is None and part[0] == "name":
+            found[part[1]] = True
+    return found
+
+
+def words_for_binders(tree, marks):
+    """The dict from the numbers of the parts of a tree that bind words to the lists of their new words."""
+    taken = free_words(tree, marks)
+    found = {}
+    count = 0
+    for number, part in enumerate(parts_of(tree)):
+        if part[0] not in BINDING:
+            continue
+        words = []
+        for _ in bound_words(part):
+            count += 1
+            while "x" + str(count) in taken:
+                count += 1
+            words.append("x" + str(count))
+        found[number] = words
+    return found
+
+
+def new_words(tree):
+    """The dict from the numbers of the parts of a tree that bind words to the lists of their new words."""
+    return words_for_binders(tree, binder_marks(tree))
+
+
+def with_plain_names(tree):
+    """What `plain_names` returns for a tree."""
+    marks = binder_marks(tree)
+    return with_marked_words(tree, marks, words_for_binders(tree, marks))
+
+
+def plain_text(tree):
+    """The text of the alike tree with plain names: the same one just for trees that are alike."""
+    return text_of(with_plain_names(tree))
 
 
 def binders(tree):
@@ -84,38 +135,17 @@ def binders(tree):
 def free(tree):
     """The list of the free names of a tree, each once, in the order of the text."""
     check_tree(tree)
-    found = {}
-    for part, binder in zip(parts_of(tree), binder_numbers(tree)):
-        if part[0] == "name" and binder is None:
-            found[part[1]] = True
-    return list(found)
+    return list(free_words(tree, binder_marks(tree)))
 
 
 def alike(one, other):
     """Whether two trees are equal but for the choice of the names that are bound in them."""
     check_tree(one)
     check_tree(other)
-    return show(plain_names(one)) == show(plain_names(other))
-
-
-def new_words(tree):
-    """The dict from the numbers of the parts of a tree that bind words to the lists of their new words."""
-    taken = {word: True for word in free(tree)}
-    found = {}
-    count = 0
-    for number, part in enumerate(parts_of(tree)):
-        words = []
-        for _ in bound_words(part):
-            count += 1
-            while "x" + str(count) in taken:
-                count += 1
-            words.append("x" + str(count))
-        if words:
-            found[number] = words
-    return found
+    return plain_text(one) == plain_text(other)
 
 
 def plain_names(tree):
     """The alike tree in which the names that are bound are `x1`, `x2` and so on."""
     check_tree(tree)
-    return with_words(tree, new_words(tree))
+    return with_plain_names(tree)

@@ -4,9 +4,8 @@ from widestkind.errors import NoKind
 from widestkind.expanding import first_bad_call
 from widestkind.kinds import kind_text
 from widestkind.kindwalks import kinds_of, own_kinds_in
-from widestkind.names import binder_numbers, plain_names
+from widestkind.names import binder_numbers, plain_text
 from widestkind.shapes import parts_of
-from widestkind.trees import text_of
 from widestkind.widest import widest
 from widestkind.wholes import Whole
 
@@ -104,7 +103,7 @@ class Group:
             tags[tag] = None if ours is None else ours[0]
             if ours is not None:
                 named.append(ours[0])
-        texts = (self.macro, [text_of(plain_names(tree)) for tree in self.trees])
+        texts = (self.macro, [plain_text(tree) for tree in self.trees])
         uses = {name: verdict_text(verdicts.get(name)) for name in self.used_outside()}
         return texts, self.members, tags, own_kind_texts(self.book, named), uses
 

@@ -2,11 +2,10 @@
 from widestkind.errors import BadBudget, BadUnits, TooMany
 from widestkind.exchanges import changed_whole, owner_of_line, owner_tree, tree_with_all
 from widestkind.machine import Machine
-from widestkind.names import plain_names
+from widestkind.names import plain_text
 from widestkind.numberforms import form_of, is_number_form, number_of
 from widestkind.ratios import Ratio, terms
 from widestkind.shapes import folded, parts_of, rebuilt, sizes_of
-from widestkind.trees import show
 from widestkind.words import is_integer, is_word
 
 MOST_CALLS = 100
@@ -43,11 +42,6 @@ def in_order(tree):
     return folded(tree, ordered)
 
 
-def text_of_state(tree):
-    """The text of a state or of a value."""
-    return show(plain_names(tree))
-
-
 def run(whole, budget):
     """How a run with so many calls ends."""
     check_budget(budget)
@@ -55,7 +49,7 @@ def run(whole, budget):
     while machine.end is None:
         machine.go_on()
     if machine.end[0] == "done":
-        return ("done", text_of_state(in_order(machine.state())))
+        return ("done", plain_text(in_order(machine.state())))
     return machine.end
 
 
@@ -65,7 +59,7 @@ def states(whole, budget):
     machine = Machine(whole, budget)
     found = []
     while machine.end is None:
-        found.append(text_of_state(machine.state()))
+        found.append(plain_text(machine.state()))
         machine.go_on()
     return found
 

@@ -26,11 +26,25 @@ PATTERNS = {
 }
 
 
-def shape_of(part):
-    """The sorts of what stands behind the first word of a tree or a pattern."""
-    if part[0] in PATTERNS:
-        return PATTERNS[part[0]]
-    return TREES[part[0]]
+# Where the parts directly within a tree or a pattern stand in it, for those that have them side by side.
+SPANS = {
+    "number": (3, 3),
+    "name": (2, 2),
+    "fail": (2, 2),
+    "any": (1, 1),
+    "bind": (2, 2),
+    "fn": (2, 3),
+    "call": (1, 3),
+    "let": (2, 4),
+    "rec": (3, 5),
+    "field": (1, 2),
+    "tag": (2, 3),
+    "op": (2, 4),
+    "told": (1, 2),
+}
+
+# The trees and patterns without parts within them.
+LEAVES = {"number": True, "name": True, "fail": True, "any": True, "bind": True}
 
 
 def is_row(part):
@@ -39,18 +53,18 @@ def is_row(part):
 
 
 def parts_in(part):
-    """The parts directly within a part, in the order in which they are written."""
-    if is_row(part):
-        return [part[0], part[1]]
-    found = []
-    for item, sort in zip(part[1:], shape_of(part)):
-        if sort == "tree":
-            found.append(item)
-        elif sort == "entries":
-            found.extend([inner for label, inner in item])
-        elif sort in ("rows", "trees"):
-            found.extend(item)
-    return found
+    """The tuple of the parts directly within a part, in the order in which they are written."""
+    head = part[0]
+    if head in SPANS:
+        first, behind = SPANS[head]
+        return part[first:behind]
+    if head == "record":
+        return tuple([inner for _, inner in part[1]])
+    if head == "match":
+        return (part[1], *part[2])
+    if head == "with":
+        return (part[1], part[3])
+    return part[2] if head == "macro" else part
 
 
 def parts_of(part):
@@ -60,7 +74,8 @@ def parts_of(part):
     while waiting:
         first = waiting.pop()
         found.append(first)
-        waiting.extend(parts_in(first)[::-1])
+        if first[0] not in LEAVES:
+            waiting.extend(parts_in(first)[::-1])
     return found
 
 
@@ -70,8 +85,9 @@ def sizes_of(parts):
     done = []
     for part in parts[::-1]:
         size = 1
-        for _ in parts_in(part):
-            size += done.pop()
+        if part[0] not in LEAVES:
+            for _ in parts_in(part):
+                size += done.pop()
         done.append(size)
         sizes.append(size)
     return sizes[::-1]
@@ -89,39 +105,31 @@ def numbers_within(number, many, sizes):
 
 def rebuilt(part, inner):
     """The part with other parts in the place of those directly within it."""
-    if is_row(part):
-        return (inner[0], inner[1])
-    made = [part[0]]
-    at = 0
-    for item, sort in zip(part[1:], shape_of(part)):
-        if sort == "tree":
-            made.append(inner[at])
-            at += 1
-        elif sort == "entries":
-            made.append(tuple([(entry[0], new) for entry, new in zip(item, inner[at:])]))
-        elif sort in ("rows", "trees"):
-            made.append(tuple(inner[at:]))
-        else:
-            made.append(item)
-    return tuple(made)
+    head = part[0]
+    if head in SPANS:
+        first, behind = SPANS[head]
+        return part if first == behind else (*part[:first], *inner, *part[behind:])
+    if head == "record":
+        return ("record", tuple([(entry[0], new) for entry, new in zip(part[1], inner)]))
+    if head == "match":
+        return ("match", inner[0], tuple(inner[1:]))
+    if head == "with":
+        return ("with", inner[0], part[2], inner[1])
+    if head == "macro":
+        return ("macro", part[1], tuple(inner))
+    return (inner[0], inner[1])
 
 
 def folded(tree, combine):
     """What `combine` makes of a part, its number, and the list of what it has made of the parts directly in it."""
     done = []
-    number = 0
-    waiting = [(tree, -1)]
-    while waiting:
-        part, known = waiting.pop()
-        inner = parts_in(part)
-        if known < 0 and inner:
-            waiting.append((part, number))
-            waiting.extend([(one, -1) for one in inner[::-1]])
+    steps = parts_of(tree)
+    number = len(steps)
+    for part in steps[::-1]:
+        number -= 1
+        if part[0] in LEAVES:
+            done.append(combine(part, number, []))
         else:
-            first = len(done) - len(inner)
-            made = combine(part, known if inner else number, done[first:])
-            del done[first:]
-            done.append(made)
-        if known < 0:
-            number += 1
+            inner = [done.pop() for _ in parts_in(part)]
+            done.append(combine(part, number, inner))
     return done[0]

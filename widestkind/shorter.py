@@ -1,11 +1,11 @@
 """Steps that make texts shorter."""
 from widestkind.errors import BadName, BadStep, BadText, BadTree, Twice
 from widestkind.keptwords import apart, with_kept_words
-from widestkind.names import alike, plain_names
+from widestkind.names import alike, plain_text
 from widestkind.reading import read
 from widestkind.shapes import parts_of
 from widestkind.shortsteps import RULES, Short
-from widestkind.trees import is_tree, show, text_of
+from widestkind.trees import is_tree, text_of
 from widestkind.wholes import Whole
 from widestkind.words import is_integer
 
@@ -54,7 +54,7 @@ def all_the_way(whole):
 
 def shortest(whole):
     """The text at which all rows of steps end, with plain names."""
-    return show(plain_names(all_the_way(whole)[1]))
+    return plain_text(all_the_way(whole)[1])
 
 
 def shortening(whole):

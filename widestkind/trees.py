@@ -47,25 +47,25 @@ def are_rows(value):
 
 def is_of(value, sort):
     """Whether any value is of a sort that the shape of a part names; trees in it are not looked at."""
+    if sort == "tree":
+        return True
     if sort == "word":
         return is_word(value)
-    if sort == "plain":
-        return is_plain_word(value)
+    if sort == "entries":
+        return are_entries(value)
     if sort == "tag":
         return is_tag(value)
-    if sort == "sign":
-        return isinstance(value, str) and value in SIGNS
     if sort == "count":
         return is_integer(value) and value >= 0
     if sort == "unit":
         return is_unit(value)
-    if sort == "kind":
-        return is_kind(value)
-    if sort == "entries":
-        return are_entries(value)
+    if sort == "sign":
+        return isinstance(value, str) and value in SIGNS
     if sort == "rows":
         return are_rows(value)
-    return sort == "tree" or isinstance(value, tuple)
+    if sort == "kind":
+        return is_kind(value)
+    return is_plain_word(value) if sort == "plain" else isinstance(value, tuple)
 
 
 def fits_shape(value, shape):
@@ -73,7 +73,7 @@ def fits_shape(value, shape):
     if len(value) != len(shape) + 1:
         return False
     for item, sort in zip(value[1:], shape):
-        if not is_of(item, sort):
+        if sort != "tree" and not is_of(item, sort):
             return False
     return value[0] != "rec" or value[1] != value[2]
 

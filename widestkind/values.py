@@ -1,9 +1,9 @@
 """Values: what is left of a text when it has been run."""
 from widestkind.errors import BadTree
-from widestkind.names import free, plain_names
+from widestkind.names import free, plain_text
 from widestkind.numberforms import is_number_form
 from widestkind.shapes import parts_of
-from widestkind.trees import is_tree, show
+from widestkind.trees import is_tree
 from widestkind.words import is_plain_word
 
 
@@ -39,7 +39,7 @@ def value_text(tree):
     """The text of a value."""
     if not is_value(tree):
         raise BadTree(tree)
-    return show(plain_names(tree))
+    return plain_text(tree)
 
 
 def is_data(tree):

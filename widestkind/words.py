@@ -1,6 +1,6 @@
 """Words, tags, kind names and integers, as the document tells them."""
 
-OWN_WORDS = ("fn", "let", "in", "rec", "match", "with", "fail", "num")
+OWN_WORDS = {"fn": True, "let": True, "in": True, "rec": True, "match": True, "with": True, "fail": True, "num": True}
 
 
 def run_end(text, begin, low, high, most):
@@ -35,9 +35,11 @@ def number_end(text, begin):
 
 def is_word(value):
     """Whether any value is a word."""
-    if not isinstance(value, str) or value == "":
+    if not isinstance(value, str) or value == "" or value in OWN_WORDS:
         return False
-    return word_end(value, 0) == len(value) and value not in OWN_WORDS
+    if len(value) == 1:
+        return "a" <= value <= "z"
+    return word_end(value, 0) == len(value)
 
 
 def is_plain_word(value):

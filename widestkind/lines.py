@@ -4,12 +4,10 @@ from widestkind.expanding import first_bad_call
 from widestkind.kinds import kind_text
 from widestkind.kindwalks import own_kinds_in, uses_in
 from widestkind.names import bound_words
-from widestkind.parsing import parsed
+from widestkind.parsing import parsed_line
 from widestkind.shapes import parts_of
-from widestkind.signs import cut
 from widestkind.trees import text_of
 
-FORMS = {"kind": "OWNKIND", "macro": "MACRO", "def": "DEFINITION"}
 MOST = {"kind": 3, "macro": 4, "def": 0}
 
 
@@ -37,12 +35,8 @@ class Line:
 
 def line_pieces(text, number):
     """The sort of a line and the pieces of its text; its number is told if it is not written as a line."""
-    found = cut(text)[0]
-    sort = found[0][0] if found else ""
-    if sort not in FORMS:
-        raise BadLine(number)
     try:
-        reader = parsed(text, FORMS[sort], sort == "macro")
+        sort, reader = parsed_line(text)
     except BadText:
         raise BadLine(number)
     if reader.notes.first_double() is not None or reader.notes.strays:

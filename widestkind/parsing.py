@@ -2,7 +2,7 @@
 from widestkind.errors import BadName, BadText, Twice
 from widestkind.formgrammar import form_row_of
 from widestkind.formpieces import form_piece
-from widestkind.grammar import KEPT, row_of, sort_of, takes
+from widestkind.grammar import KEPT, ROWS, default_row, sort_of, takes
 from widestkind.kindpieces import kind_piece
 from widestkind.pieces import Notes, Piece
 from widestkind.signs import cut
@@ -11,61 +11,85 @@ from widestkind.treepieces import tree_piece
 # How many pieces are taken for a part that is known to go on only behind its first pieces.
 TAKEN = {"!op": 3, "!call": 2, "!field": 2, "?fn": 2, "~kind": 1, "~measure": 1, "~row": 1}
 
+# The forms of lines.
+LINES = {"kind": "OWNKIND", "macro": "MACRO", "def": "DEFINITION"}
+
 
 class Reader:
     """Goes through the tokens of a text, or of the line of a macro, and keeps the pieces that are made of them."""
 
-    def __init__(self, text, template):
-        self.template = template
+    def __init__(self, text):
+        self.template = False
         self.tokens, wrong = cut(text)
         if wrong is None:
             self.tokens.append(("", len(text)))
         else:
             self.tokens.append(("?", wrong))
+        self.sorts = [sort_of(token) for token, _ in self.tokens]
         self.at = 0
-        self.end = 0
         self.pieces = []
         self.marks = []
         self.notes = Notes()
 
-    def step(self, symbol):
-        """Does what a symbol of the grammar says; returns the symbols that come in its place."""
-        if symbol == "#":
-            self.marks.append((len(self.pieces), self.tokens[self.at][1]))
-        elif symbol[0] in ("!", "?", "~"):
-            self._make(symbol)
-        elif "A" <= symbol[0] <= "Z":
-            return self._row(symbol)
-        else:
-            self._take(symbol)
-        return []
+    def take_in(self, form):
+        """Reads a form, and goes behind it."""
+        at = 0
+        end = 0
+        waiting = [form]
+        while waiting:
+            symbol = waiting.pop()
+            token, begin = self.tokens[at]
+            if symbol.isupper():
+                row = self._row(symbol, at)
+                waiting.extend(row[::-1])
+            elif symbol == token and symbol not in KEPT:
+                at += 1
+                end = begin + len(token)
+            elif symbol == "#":
+                self.marks.append((len(self.pieces), begin))
+            elif symbol[0] in ("!", "?", "~"):
+                self._make(symbol, end)
+            else:
+                if symbol[0] == "#":
+                    symbol = self._leaf(symbol, token, begin)
+                elif not takes(symbol, token, self.template):
+                    raise BadText(begin)
+                at += 1
+                end = begin + len(token)
+                if symbol in KEPT:
+                    self.pieces.append(Piece(token, begin, end))
+        self.at = at
 
-    def _row(self, form):
-        """The row with which a form goes on at the next token."""
-        token, begin = self.tokens[self.at]
-        sort = sort_of(token)
-        if form == "FIELDS" and sort == "word" and self.tokens[self.at + 1][0] == "=":
-            sort = "label"
-        if form in ("FIRST", "BODY") or token == "0" and form == "COUNT":
-            sort = token
-        row = row_of(form, sort)
+    def _row(self, form, at):
+        """The row with which a form goes on at the token with an index."""
+        if form[0] == "&":
+            row = self._row_by_token(form[1:], at)
+        else:
+            row = ROWS.get((form, self.sorts[at]))
+            if row is None:
+                row = default_row(form)
+            if row is None:
+                row = form_row_of(form, self.sorts[at])
         if row is None:
-            row = form_row_of(form, sort)
-        if row is None:
-            raise BadText(begin)
+            raise BadText(self.tokens[at][1])
         return row
 
-    def _take(self, symbol):
-        """Goes behind the next token, which a symbol must take."""
-        token, begin = self.tokens[self.at]
-        if not takes(symbol, token, self.template):
-            raise BadText(begin)
-        self.at += 1
-        self.end = begin + len(token)
-        if symbol in KEPT:
-            self.pieces.append(Piece(token, begin, self.end))
+    def _row_by_token(self, form, at):
+        """The row of a form that is chosen by the very token, or, in brackets, by the one behind it."""
+        if form == "FIELDS":
+            return ROWS[(form, "label" if self.tokens[at + 1][0] == "=" else "")]
+        token = self.tokens[at][0]
+        return form_row_of(form, token if form != "COUNT" or token == "0" else self.sorts[at])
 
-    def _make(self, symbol):
+    def _leaf(self, symbol, token, begin):
+        """Puts the piece of a part that is but a token; returns the symbol."""
+        if token[0] == "$" and not self.template:
+            raise BadText(begin)
+        part = ("any",) if symbol == "#any" else (symbol[1:], token)
+        self.pieces.append(Piece(part, begin, begin + len(token)))
+        return symbol
+
+    def _make(self, symbol, end):
         """Puts a new piece in the place of those in it."""
         if symbol in TAKEN:
             first = len(self.pieces) - TAKEN[symbol]
@@ -77,7 +101,7 @@ class Reader:
         make = kind_piece
         if symbol[0] != "?":
             make = tree_piece if symbol[0] == "!" else form_piece
-        self.pieces.append(make(symbol[1:], items, begin, self.end, self.notes))
+        self.pieces.append(make(symbol[1:], items, begin, end, self.notes))
 
     def finish(self):
         """Raises what is wrong with the words and names of the text."""
@@ -88,19 +112,30 @@ class Reader:
             raise BadName(self.notes.strays[0])
 
 
-def parsed(text, form, template=False):
-    """The Reader that has read a text of a form."""
-    if not isinstance(text, str):
-        raise BadText(0)
-    reader = Reader(text, template)
-    waiting = [form]
-    while waiting:
-        symbols = reader.step(waiting.pop())
-        waiting.extend(symbols[::-1])
+def read_through(reader, form):
+    """The Reader, behind a form that is its whole text."""
+    reader.take_in(form)
     token, begin = reader.tokens[reader.at]
     if token != "":
         raise BadText(begin)
     return reader
+
+
+def parsed(text, form):
+    """The Reader that has read a text of a form."""
+    if not isinstance(text, str):
+        raise BadText(0)
+    return read_through(Reader(text), form)
+
+
+def parsed_line(text):
+    """The tuple of the sort of the line of a book and of the Reader that has read it."""
+    reader = Reader(text)
+    sort = reader.tokens[0][0]
+    if sort not in LINES:
+        raise BadText(0)
+    reader.template = sort == "macro"
+    return sort, read_through(reader, LINES[sort])
 
 
 def read_tree_piece(text):

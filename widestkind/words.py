@@ -3,34 +3,37 @@
 OWN_WORDS = {"fn": True, "let": True, "in": True, "rec": True, "match": True, "with": True, "fail": True, "num": True}
 
 
-def run_end(text, begin, low, high, most):
-    """The index behind the signs from `low` to `high` that stand from `begin` on, of which `most` count."""
-    at = begin
-    while at < len(text) and at - begin < most and low <= text[at] <= high:
-        at += 1
-    return at
+SMALL_LETTERS = "abcdefghijklmnopqrstuvwxyz"
+CAPITALS = "ABCDEFGHIJKLMNOPQRSTUVWXYZ"
+DIGITS = "0123456789"
+
+
+def run_end(text, begin, signs, most):
+    """The index behind the signs of some sort that stand from `begin` on, of which `most` count."""
+    stretch = text[begin:begin + most]
+    return begin + len(stretch) - len(stretch.lstrip(signs))
 
 
 def word_end(text, begin):
     """The index behind the word, own words included, that begins there; `begin` itself if there is none."""
-    letters = run_end(text, begin, "a", "z", 6)
-    if letters == begin or text[letters:letters + 1] == "0":
+    letters = run_end(text, begin, SMALL_LETTERS, 6)
+    if letters == begin or not "1" <= text[letters:letters + 1] <= "9":
         return letters
-    return run_end(text, letters, "0", "9", 3)
+    return run_end(text, letters, DIGITS, 3)
 
 
 def tag_end(text, begin):
     """The index behind the tag that begins there; `begin` itself if there is none."""
-    if run_end(text, begin, "A", "Z", 1) == begin:
+    if run_end(text, begin, CAPITALS, 1) == begin:
         return begin
-    return run_end(text, begin + 1, "a", "z", 5)
+    return run_end(text, begin + 1, SMALL_LETTERS, 5)
 
 
 def number_end(text, begin):
     """The index behind the number that begins there; `begin` itself if there is none."""
     if text[begin:begin + 1] == "0":
         return begin + 1
-    return run_end(text, begin, "0", "9", len(text))
+    return run_end(text, begin, DIGITS, len(text))
 
 
 def is_word(value):

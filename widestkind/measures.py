@@ -4,7 +4,7 @@ from widestkind.equations import open_names, worked_out
 from widestkind.errors import BadText
 from widestkind.powers import add_times, is_name, measure_of
 from widestkind.ratios import Ratio, terms
-from widestkind.words import is_integer, is_kind_name, is_word, run_end, word_end
+from widestkind.words import DIGITS, SMALL_LETTERS, is_integer, is_kind_name, is_word, run_end, word_end
 
 
 def is_factor(value):
@@ -51,7 +51,7 @@ def greatest_factor(begin):
     """The greatest factor that begins so."""
     quote = begin[:1] if is_name(begin) else ""
     word = begin[len(quote):]
-    letters = run_end(word, 0, "a", "z", 6)
+    letters = run_end(word, 0, SMALL_LETTERS, 6)
     if letters == len(word):
         return quote + word + "z" * (6 - letters) + "999"
     return quote + word + "9" * (3 + letters - len(word))
@@ -79,7 +79,7 @@ def read_power(text, begin):
     digits = begin + 1 if text[begin:begin + 1] == "-" else begin
     if text[digits:digits + 1] == "0":
         raise BadText(digits)
-    end = run_end(text, digits, "0", "9", len(text))
+    end = run_end(text, digits, DIGITS, len(text))
     if end == digits or text[begin:end] == "1":
         raise BadText(end)
     return end

@@ -1,10 +1,11 @@
 """Books of own kinds, macros and definitions."""
 from widestkind.errors import BadMacro, NoSuch, Unknown
 from widestkind.expanding import expand
+from widestkind.groups import grouped
 from widestkind.kindwalks import folded, own_kinds_in
 from widestkind.lines import check_contents, check_template, check_unlike, read_line
 from widestkind.names import binder_marks, free_words
-from widestkind.groups import grouped
+from widestkind.shapes import parts_of
 
 
 class Book:
@@ -84,6 +85,10 @@ class Book:
             raise NoSuch(name)
         return self._definitions[name]
 
+    def expanded_tree(self, tree, owner):
+        """The expansion of a tree: the tree and the list of origins."""
+        return expand(self._macros, tree, owner)
+
     def expansion_of(self, name):
         """The expansion of a definition: the tree and the list of origins."""
         return expand(self._macros, self.tree_of(name), name)
@@ -94,7 +99,7 @@ class Book:
 
     def used_in(self, tree):
         """The list of the definitions that are free names in a tree."""
-        return [word for word in free_words(tree, binder_marks(tree)) if word in self._definitions]
+        return [word for word in free_words(parts_of(tree), binder_marks(tree)) if word in self._definitions]
 
     def groups(self):
         """The list of the groups of definitions, in ascending order."""

@@ -1,16 +1,23 @@
 """The knots of a whole: the parts of its text, and copies of what is used in it."""
-from widestkind.names import binder_marks
-from widestkind.shapes import numbers_within, parts_in, parts_of, sizes_of
+from widestkind.names import free_words, marks_in
+from widestkind.shapes import inner_numbers, parts_of, sizes_of
 
 
 class Source:
-    """An expanded tree, with the places that its parts come from, their sizes, and what binds the names in it."""
+    """An expanded tree, with the places that its parts come from, their sizes, and what binds the names in it.
+
+    `inner` has the numbers of the parts within each part, `strays` the words that are not bound, and `tells` is whether
+    kinds are told.
+    """
 
     def __init__(self, tree, origins):
         self.steps = parts_of(tree)
         self.origins = origins
         self.sizes = sizes_of(self.steps)
-        self.marks = binder_marks(tree)
+        self.inner = inner_numbers(self.steps)
+        self.marks = marks_in(self.steps, self.inner)
+        self.strays = list(free_words(self.steps, self.marks))
+        self.tells = any([part[0] == "told" for part in self.steps])
 
 
 class Copy:
@@ -49,35 +56,37 @@ def holder(copy, name, number):
 class Copies:
     """All knots. For each one: its tuple, and the name of its source, the number of its part there, and its copy.
 
-    `targets` has for the knot of each name the point of the same kind, and None for other knots.
+    `targets` has for the knot of each name the point of the same kind, and None for other knots. `rows` has the
+    stretches of sources, with their first knots, in their order.
     """
 
     def __init__(self, sources, groups):
         self.sources = sources
         self.grouping = groups
         self.found = []
+        self.rows = []
         self.seats = []
         self.targets = []
         text = Copy(None)
         self._put(text, "", 0, len(sources[""].steps), None)
         while len(self.targets) < len(self.found):
-            self.targets.append(self._target(len(self.targets)))
+            knot = len(self.targets)
+            self.targets.append(self._target(knot) if self.found[knot][2][0] == "name" else None)
 
     def _put(self, copy, name, begin, end, use):
         """Puts the parts of a source from one number up to another one behind all knots."""
         source = self.sources[name]
         copy.stretches[name] = (begin, end, len(self.found))
-        for number in range(begin, end):
-            self.found.append((source.origins[number], use, source.steps[number]))
-            self.seats.append((name, number, copy))
+        self.rows.append((name, begin, end, len(self.found)))
+        for place, part in zip(source.origins[begin:end], source.steps[begin:end]):
+            self.found.append((place, use, part))
+        self.seats.extend([(name, number, copy) for number in range(begin, end)])
 
     def _target(self, knot):
-        """The point of the same kind as a name; what the name uses is copied. None for other parts."""
+        """The point of the same kind as a name; what the name uses is copied."""
         name, number, copy = self.seats[knot]
         source = self.sources[name]
         part = source.steps[number]
-        if part[0] != "name":
-            return None
         if source.marks[number] is None:
             return self._definition_target(knot, part[1], copy)
         binder, index = source.marks[number]
@@ -106,10 +115,11 @@ class Copies:
                 self._put(group, name, 0, len(self.sources[name].steps), knot)
         return (group.knot(word, 0), "kind", ())
 
-    def within(self, knot):
-        """The knots of the parts directly within the part of a knot; the copy of a `rec` has but its e1."""
-        name, number, copy = self.seats[knot]
-        source = self.sources[name]
-        inner = numbers_within(number, len(parts_in(source.steps[number])), source.sizes)
-        found = [copy.knot(name, one) for one in inner]
-        return tuple([one for one in found if one is not None])
+    def within(self):
+        """The list of the tuples of the knots directly within each knot; the copy of a `rec` has but its e1."""
+        found = []
+        for name, begin, end, first in self.rows:
+            offset = first - begin
+            for numbers in self.sources[name].inner[begin:end]:
+                found.append(tuple([number + offset for number in numbers if number < end]))
+        return found

@@ -1,7 +1,7 @@
 """The expansion of trees: templates come in the place of the calls of macros, and no name is caught."""
 from widestkind.errors import BadMacro
-from widestkind.names import binder_marks, bound_words, check_tree, with_words
-from widestkind.shapes import folded, numbers_within, parts_in, parts_of, rebuilt, sizes_of
+from widestkind.names import bound_words, check_tree, marks_in, with_marked_words
+from widestkind.shapes import LEAVES, inner_numbers, parts_in, parts_of
 
 LETTERS = "xyzuvwabcdefghijklmnopqrst"
 
@@ -35,14 +35,15 @@ class Writer:
     def __init__(self, number, owner, tree):
         self.count = number
         self.owner = owner
-        self.sizes = sizes_of(parts_of(tree))
-        self.marks = binder_marks(tree)
+        steps = parts_of(tree)
+        self.inner = inner_numbers(steps)
+        self.marks = marks_in(steps, self.inner)
         self.trees = {}
         self.words = {}
 
     def pass_parts(self, words, call, number, other):
         """Takes what a call, which stands at a number of what another writer wrote, passes for parameters."""
-        for word, tree, inner in zip(words, call[2], numbers_within(number, len(words), other.sizes)):
+        for word, tree, inner in zip(words, call[2], other.inner[number]):
             if word[0] == "$":
                 self.words[word] = other.key(tree[1])
             else:
@@ -100,12 +101,11 @@ class Expansion:
             elif part[0] == "macro":
                 waiting.append(self._called(part, number, writer))
             else:
-                inner = parts_in(part)
                 self.shells.append(keyed(part, writer))
                 self.origins.append((writer.owner, number))
-                within = numbers_within(number, len(inner), writer.sizes)
-                found = [(one, at, writer) for one, at in zip(inner, within)]
-                waiting.extend(found[::-1])
+                if part[0] not in LEAVES:
+                    found = [(one, at, writer) for one, at in zip(parts_in(part), writer.inner[number])]
+                    waiting.extend(found[::-1])
 
     def _writer(self, owner, tree):
         self.writers += 1
@@ -116,18 +116,10 @@ class Expansion:
         words, template = self.templates[call[1]]
         root = self.roots[call[1]]
         if root is not None:
-            return call[2][root], numbers_within(number, len(words), writer.sizes)[root], writer
+            return call[2][root], writer.inner[number][root], writer
         called = self._writer("@" + call[1], template)
         called.pass_parts(words, call, number, writer)
         return template, 0, called
-
-    def tree(self):
-        """The tree of all parts, with keys in the place of words."""
-        done = []
-        for shell in self.shells[::-1]:
-            inner = [done.pop() for _ in parts_in(shell)]
-            done.append(rebuilt(shell, inner))
-        return done[0]
 
 
 def keyed(part, writer):
@@ -148,15 +140,14 @@ def fresh_word(taken):
     return LETTERS[count // 999] + str(count % 999 + 1)
 
 
-def words_for(tree):
+def words_for(steps, marks):
     """The dict from the numbers of the parts that bind keys to lists of words, each another one than all others."""
-    parts = parts_of(tree)
     taken = {}
-    for part, mark in zip(parts, binder_marks(tree)):
-        if part[0] == "name" and mark is None:
+    for part, mark in zip(steps, marks):
+        if mark is None and part[0] == "name":
             taken[part[1].split()[0]] = True
     found = {}
-    for number, part in enumerate(parts):
+    for number, part in enumerate(steps):
         words = []
         for key in bound_words(part):
             word = key.split()[0]
@@ -169,25 +160,29 @@ def words_for(tree):
     return found
 
 
-def without_keys(tree):
-    """The tree with words in the place of keys, so chosen that each name is bound as its key was."""
-    def plain(part, number, inner):
-        return ("name", part[1].split()[0]) if part[0] == "name" else rebuilt(part, inner)
-
-    return folded(with_words(tree, words_for(tree)), plain)
+def without_keys(steps):
+    """The tree of parts with words in the place of keys, so chosen that each name is bound as its key was."""
+    inner = inner_numbers(steps)
+    marks = marks_in(steps, inner)
+    words = words_for(steps, marks)
+    plain = []
+    for part, mark in zip(steps, marks):
+        plain.append(("name", part[1].split()[0]) if mark is None and part[0] == "name" else part)
+    return with_marked_words(plain, inner, marks, words)
 
 
 def expand(macros, tree, owner):
     """What `expanded` returns, for a dict from the names of macros to tuples of parameters and a template."""
-    name = first_bad_call(tree, macros)
-    if name is not None:
-        raise BadMacro(name)
-    parts = parts_of(tree)
-    if not any([part[0] == "macro" for part in parts]):
-        return tree, [(owner, number) for number in range(len(parts))]
+    steps = parts_of(tree)
+    calls = [part for part in steps if part[0] == "macro"]
+    for call in calls:
+        if not call_is_right(call, macros):
+            raise BadMacro(call[1])
+    if not calls:
+        return tree, [(owner, number) for number in range(len(steps))]
     expansion = Expansion(macros)
     expansion.write(tree, owner)
-    return without_keys(expansion.tree()), expansion.origins
+    return without_keys(expansion.shells), expansion.origins
 
 
 def expanded(book, tree, *, owner=""):

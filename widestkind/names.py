@@ -1,6 +1,6 @@
 """What names in trees are bound by, and trees that differ only in the choice of bound names."""
 from widestkind.errors import BadTree
-from widestkind.shapes import LEAVES, folded, is_row, parts_in, parts_of, rebuilt
+from widestkind.shapes import LEAVES, inner_numbers, is_row, parts_of, rebuilt
 from widestkind.trees import is_tree, text_of
 
 BINDING = ("fn", "let", "rec", "bind")
@@ -21,42 +21,46 @@ def bound_words(part):
     return []
 
 
-def scoped_parts(part, number, scope):
-    """The list of the parts directly in a part, each with a dict from the words that are bound there to marks.
+def scopes_in(steps, inner):
+    """The list, for each part of a tree, of the dict from the words that are bound there to marks.
 
     A mark is a tuple of the number of the part that binds the word, and of the word's index among those it binds.
     """
-    if is_row(part):
-        within = dict(scope)
-        for offset, inner in enumerate(parts_of(part[0])):
-            for word in bound_words(inner):
-                within[word] = (number + 1 + offset, 0)
-        return [(part[0], scope), (part[1], within)]
-    if part[0] == "fn":
-        return [(part[2], {**scope, part[1]: (number, 0)})]
-    if part[0] == "let":
-        return [(part[2], scope), (part[3], {**scope, part[1]: (number, 0)})]
-    if part[0] == "rec":
-        within = {**scope, part[1]: (number, 0)}
-        return [(part[3], {**within, part[2]: (number, 1)}), (part[4], within)]
-    return [(inner, scope) for inner in parts_in(part)]
+    scopes = [{} for _ in steps]
+    for number, part in enumerate(steps):
+        head = part[0]
+        if head in LEAVES:
+            continue
+        scope = scopes[number]
+        within = inner[number]
+        for one in within:
+            scopes[one] = scope
+        if head == "fn":
+            scopes[within[0]] = {**scope, part[1]: (number, 0)}
+        elif head == "let":
+            scopes[within[1]] = {**scope, part[1]: (number, 0)}
+        elif head == "rec":
+            scopes[within[1]] = {**scope, part[1]: (number, 0)}
+            scopes[within[0]] = {**scopes[within[1]], part[2]: (number, 1)}
+        elif is_row(part):
+            bound = dict(scope)
+            for one in range(within[0], within[1]):
+                if steps[one][0] == "bind":
+                    bound[steps[one][1]] = (one, 0)
+            scopes[within[1]] = bound
+    return scopes
+
+
+def marks_in(steps, inner):
+    """A list with an item for each part of a tree: the mark of what binds a name, or None."""
+    scopes = scopes_in(steps, inner)
+    return [scope.get(part[1]) if part[0] == "name" else None for part, scope in zip(steps, scopes)]
 
 
 def binder_marks(tree):
     """A list with an item for each part of a tree: the mark of what binds a name, or None."""
-    found = []
-    waiting = [(tree, {})]
-    while waiting:
-        part, scope = waiting.pop()
-        head = part[0]
-        if head == "name":
-            found.append(scope.get(part[1]))
-            continue
-        if head not in LEAVES:
-            inner = scoped_parts(part, len(found), scope)
-            waiting.extend(inner[::-1])
-        found.append(None)
-    return found
+    steps = parts_of(tree)
+    return marks_in(steps, inner_numbers(steps))
 
 
 def binder_numbers(tree):
@@ -66,38 +70,38 @@ def binder_numbers(tree):
 
 def with_words(tree, words):
     """The tree in which what binds words, by its number, binds those of a list, and the names are these words."""
-    return with_marked_words(tree, binder_marks(tree), words)
+    steps = parts_of(tree)
+    inner = inner_numbers(steps)
+    return with_marked_words(steps, inner, marks_in(steps, inner), words)
 
 
-def with_marked_words(tree, marks, words):
-    """The tree with other words for what binds, where the marks of its parts are told."""
-    def renamed(part, number, inner):
-        if part[0] == "name":
-            mark = marks[number]
-            return part if mark is None else ("name", words[mark[0]][mark[1]])
-        made = rebuilt(part, inner) if inner else part
-        if number not in words:
-            return made
-        return (made[0], *words[number], *made[1 + len(words[number]):])
-
-    return folded(tree, renamed)
-
-
-def free_words(tree, marks):
-    """The dict of True for the words that are free names of a tree, in the order of the text."""
-    found = {}
-    for part, mark in zip(parts_of(tree), marks):
-        if mark is None and part[0] == "name":
-            found[part[1]] = True
-    return found
+def with_marked_words(steps, inner, marks, words):
+    """The tree of some parts with other words for what binds, where the marks of its parts are told."""
+    made = list(steps)
+    for number in range(len(steps) - 1, -1, -1):
+        part = steps[number]
+        mark = marks[number]
+        if inner[number]:
+            part = rebuilt(part, [made[one] for one in inner[number]])
+        if mark is not None:
+            part = ("name", words[mark[0]][mark[1]])
+        elif number in words:
+            part = (part[0], *words[number], *part[1 + len(words[number]):])
+        made[number] = part
+    return made[0]
 
 
-def words_for_binders(tree, marks):
+def free_words(steps, marks):
+    """The dict of True for the words that are free names among the parts of a tree, in the order of the text."""
+    return {part[1]: True for part, mark in zip(steps, marks) if mark is None and part[0] == "name"}
+
+
+def words_for_binders(steps, marks):
     """The dict from the numbers of the parts of a tree that bind words to the lists of their new words."""
-    taken = free_words(tree, marks)
+    taken = free_words(steps, marks)
     found = {}
     count = 0
-    for number, part in enumerate(parts_of(tree)):
+    for number, part in enumerate(steps):
         if part[0] not in BINDING:
             continue
         words = []
@@ -112,13 +116,15 @@ def words_for_binders(tree, marks):
 
 def new_words(tree):
     """The dict from the numbers of the parts of a tree that bind words to the lists of their new words."""
-    return words_for_binders(tree, binder_marks(tree))
+    return words_for_binders(parts_of(tree), binder_marks(tree))
 
 
 def with_plain_names(tree):
     """What `plain_names` returns for a tree."""
-    marks = binder_marks(tree)
-    return with_marked_words(tree, marks, words_for_binders(tree, marks))
+    steps = parts_of(tree)
+    inner = inner_numbers(steps)
+    marks = marks_in(steps, inner)
+    return with_marked_words(steps, inner, marks, words_for_binders(steps, marks))
 
 
 def plain_text(tree):
@@ -135,7 +141,7 @@ def binders(tree):
 def free(tree):
     """The list of the free names of a tree, each once, in the order of the text."""
     check_tree(tree)
-    return list(free_words(tree, binder_marks(tree)))
+    return list(free_words(parts_of(tree), binder_marks(tree)))
 
 
 def alike(one, other):

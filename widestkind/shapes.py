@@ -103,6 +103,18 @@ def numbers_within(number, many, sizes):
     return found
 
 
+def inner_numbers(steps):
+    """The list of the lists of the numbers of the parts directly within each part, for the list of a tree's parts."""
+    found = []
+    done = []
+    number = len(steps)
+    for part in steps[::-1]:
+        number -= 1
+        found.append([] if part[0] in LEAVES else [done.pop() for _ in parts_in(part)])
+        done.append(number)
+    return found[::-1]
+
+
 def rebuilt(part, inner):
     """The part with other parts in the place of those directly within it."""
     head = part[0]

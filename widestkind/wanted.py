@@ -3,8 +3,8 @@ from widestkind.errors import BadName, BadTree, NoKind
 from widestkind.exchanges import changed_whole, check_tree_place, is_tree_place, owner_tree, tree_with
 from widestkind.facts import kind_point
 from widestkind.fillings import told_all
-from widestkind.names import scoped_parts
-from widestkind.shapes import parts_of, sizes_of
+from widestkind.names import scopes_in
+from widestkind.shapes import inner_numbers, parts_of
 from widestkind.solving import fits, joined, knots_at, measures_of, solution
 from widestkind.trees import is_tree
 
@@ -31,17 +31,7 @@ def scope_at(tree, wanted):
     That is a tuple of the part that binds, the number of that part, and the index of the word among those it binds.
     """
     steps = parts_of(tree)
-    sizes = sizes_of(steps)
-    number = 0
-    scope = {}
-    while number != wanted:
-        inner = number + 1
-        for _, within in scoped_parts(steps[number], number, scope):
-            if inner <= wanted < inner + sizes[inner]:
-                number = inner
-                scope = within
-                break
-            inner += sizes[inner]
+    scope = scopes_in(steps, inner_numbers(steps))[wanted]
     return {word: (steps[binder], binder, index) for word, (binder, index) in scope.items()}
 
 

@@ -2,7 +2,6 @@
 from widestkind.books import first_unknown
 from widestkind.copies import Copies, Source
 from widestkind.errors import BadMacro, BadPlace, Unknown
-from widestkind.expanding import expanded
 from widestkind.groups import grouped
 from widestkind.reading import read
 from widestkind.shapes import is_row, parts_of
@@ -17,20 +16,24 @@ class Whole:
         self.book = book
         self.text = text
         sources = sources_of(book, read(text))
-        check_names(book, sources)
+        defined = check_names(book, sources)
         self._steps = {name: tuple(source.steps) for name, source in sources.items()}
-        self._groups = grouped({name: book.used_in(steps[0]) for name, steps in self._steps.items() if name != ""})
+        uses = {name: [word for word in sources[name].strays if word in defined] for name in sources if name != ""}
+        self._groups = grouped(uses)
         copies = Copies(sources, {name: group for group in self._groups for name in group})
         self._knots = copies.found
         self._targets = copies.targets
-        self._within = [copies.within(knot) for knot in range(len(copies.found))]
+        self._within = copies.within()
         self._above = [None for _ in copies.found]
         self._patterns = [False for _ in copies.found]
         for knot, within in enumerate(self._within):
-            for index, inner in enumerate(within):
+            for inner in within:
                 self._above[inner] = knot
-                row = is_row(copies.found[knot][2])
-                self._patterns[inner] = self._patterns[knot] or row and index == 0
+            if self._patterns[knot]:
+                for inner in within:
+                    self._patterns[inner] = True
+            elif is_row(copies.found[knot][2]):
+                self._patterns[within[0]] = True
         places = {place: True for place, _, _ in copies.found}
         self._places = sorted(places)
 
@@ -94,13 +97,14 @@ class Whole:
 
 def sources_of(book, tree):
     """The dict from `""` and the names of all definitions that a text uses, in order, to their Sources."""
-    made, origins = expanded(book, tree)
+    made, origins = book.expanded_tree(tree, "")
     known = {"": Source(made, origins)}
     wrong = {}
-    waiting = book.used_in(made)
+    waiting = list(known[""].strays)
+    there = {name: True for name in book.definitions()}
     while waiting:
         name = waiting.pop()
-        if name in known or name in wrong:
+        if name in known or name in wrong or name not in there:
             continue
         try:
             made, origins = book.expansion_of(name)
@@ -108,24 +112,35 @@ def sources_of(book, tree):
             wrong[name] = refused.name
             continue
         known[name] = Source(made, origins)
-        waiting.extend(book.used_in(made))
+        waiting.extend(known[name].strays)
     if wrong:
         raise BadMacro(wrong[min(list(wrong))])
     return {name: known[name] for name in sorted(known)}
 
 
+def first_wrong_name(source, book, defined):
+    """The first name in a source that stands for nothing, or own kind that is not told; or None."""
+    if not [word for word in source.strays if word not in defined] and not source.tells:
+        return None
+    for part, mark in zip(source.steps, source.marks):
+        wrong = None
+        if part[0] == "name" and mark is None and part[1] not in defined:
+            wrong = part[1]
+        elif part[0] == "told":
+            wrong = first_unknown(book, part[2])
+        if wrong is not None:
+            return wrong
+    return None
+
+
 def check_names(book, sources):
-    """Raises Unknown with the first name in the sources that stands for nothing, or own kind that is not told."""
-    names = {name: True for name in book.definitions()}
+    """The dict of True for all definitions; raises Unknown with the first name that stands for nothing."""
+    defined = {name: True for name in book.definitions()}
     for source in sources.values():
-        for part, mark in zip(source.steps, source.marks):
-            wrong = None
-            if part[0] == "name" and mark is None and part[1] not in names:
-                wrong = part[1]
-            elif part[0] == "told":
-                wrong = first_unknown(book, part[2])
-            if wrong is not None:
-                raise Unknown(wrong)
+        wrong = first_wrong_name(source, book, defined)
+        if wrong is not None:
+            raise Unknown(wrong)
+    return defined
 
 
 def is_place_of(whole, value):

@@ -4,7 +4,7 @@ from widestkind.facts import is_knot_of
 from widestkind.fillings import told
 from widestkind.names import binder_numbers
 from widestkind.shapes import parts_of
-from widestkind.solving import solution
+from widestkind.solving import kept_solution
 from widestkind.standing import Standing, escaping, tests_of
 from widestkind.trees import is_tree, text_of
 
@@ -64,7 +64,7 @@ def check_match(whole, knot):
 def matched_kind(whole, knot):
     """The kind of what is matched at a knot."""
     check_match(whole, knot)
-    return told(solution(whole)[(whole.knots_within(knot)[0], "kind")])
+    return told(kept_solution(whole)[(whole.knots_within(knot)[0], "kind")])
 
 
 def rows_of(whole, knot):
@@ -87,7 +87,7 @@ def missed(whole, knot):
 
 def leaks(whole):
     """The ascending list of the places of the matches that miss a value at some knot."""
-    found = solution(whole)
+    found = kept_solution(whole)
     places = {}
     for knot, (place, _, part) in enumerate(whole.knots()):
         if part[0] == "match" and place not in places:

@@ -5,7 +5,7 @@ from widestkind.fillings import told, told_all
 from widestkind.kinds import fill_all
 from widestkind.kindwalks import first_uses
 from widestkind.shelflines import lines_with
-from widestkind.solving import fits, solution
+from widestkind.solving import fits, kept_solution
 from widestkind.wholes import Whole
 
 LETTERS = "abcdefghijklmnopqrstuvwxyz"
@@ -47,7 +47,7 @@ def demanded(book, user, name):
     if whole is None:
         return None
     try:
-        found = solution(whole)
+        found = kept_solution(whole)
     except NoKind:
         return None
     return told_all([found[(knot, "kind")] for knot in [0, *uses_of(whole, name)]])

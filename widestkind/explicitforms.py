@@ -4,19 +4,16 @@ from widestkind.formshapes import form_folded, put_within
 from widestkind.kinds import fill_all
 from widestkind.kindwalks import first_uses
 from widestkind.measures import fill_measure
-from widestkind.solutions import put_nodes
-from widestkind.solving import joined, knots_at, measures_of
+from widestkind.solving import settled
 from widestkind.views import Naming, View
 from widestkind.wholes import Whole
 
 
 def maker_of(whole, known, groups, use):
     """The FormMaker of a whole that has a kind, and the View of what stands in no e1; None for one without a kind."""
-    joins = joined(whole, knots_at(whole, None))
-    measures = measures_of(joins)
+    joins, measures = settled(whole)
     if measures is None:
         return None, None
-    put_nodes(whole, joins)
     maker = FormMaker(whole, joins, Naming(whole, joins, known), groups)
     maker.find_homes(use)
     return maker, View(maker.naming, maker.renamed(measures, []))
@@ -62,8 +59,11 @@ def groups_in_order(whole):
     return found
 
 
-def widest_form(whole, known):
-    """A form of a whole, and the kind of its tree, in which no known names stand; None for a whole without a kind."""
+def form_without(whole, known):
+    """A form of a whole, and the kind of its tree, in which no known names stand; None for a whole without a kind.
+
+    All names that are taken are put into `known`.
+    """
     groups = {}
     maker, view = maker_of(whole, known, groups, None)
     if maker is None:
@@ -72,6 +72,18 @@ def widest_form(whole, known):
     maker.look_at(whole.tree(), 0, view, ())
     tree = maker.form_tree(0, len(whole.steps_of("")))
     return ("form", made, tree), view.kind_at((0, "kind", ()))
+
+
+def widest_form(whole, names):
+    """A form of a whole, and the kind of its tree, in which some names do not stand; None for one without a kind."""
+    found = whole.kept("form")
+    if found is None:
+        taken = {}
+        form, kind = form_without(whole, taken)
+        found = whole.keep("form", (form, kind, taken))
+    if any([name in found[2] for name in names]):
+        return form_without(whole, {name: True for name in names})
+    return found[0], found[1]
 
 
 def filled_thing(thing, table):

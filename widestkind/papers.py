@@ -2,7 +2,7 @@
 from widestkind.paperjudge import is_paper, told_facts
 from widestkind.proofs import Proof, gone_end, heads_end, powers_end, ring_end
 from widestkind.rings import ring_of
-from widestkind.solving import equations_of, joined, knots_at, measures_of
+from widestkind.solving import equations_of, joined, knots_at, measures_of, settled
 
 
 def paper_end(proof):
@@ -21,8 +21,12 @@ def paper_end(proof):
 
 def clash(whole, places=None):
     """A clash paper for places that do not fit together, or None if they do."""
-    joins = joined(whole, knots_at(whole, places))
-    if measures_of(joins) is not None:
+    if places is None:
+        joins, measures = settled(whole)
+    else:
+        joins = joined(whole, knots_at(whole, places))
+        measures = measures_of(joins)
+    if measures is not None:
         return None
     proof = Proof(joins)
     end = paper_end(proof)

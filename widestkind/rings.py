@@ -7,7 +7,7 @@ def ring_of(joins):
     """
     done = set()
     for start in range(len(joins.points)):
-        if joins.leader(start) != start or start in done:
+        if joins.leaders[start] != start or start in done or not joins.steps[start]:
             continue
         path = [(start, start, list(joins.steps[start].values()))]
         depths = {start: 0}
@@ -19,10 +19,10 @@ def ring_of(joins):
                 path.pop()
                 continue
             node = left.pop()
-            inner = joins.leader(node)
+            inner = joins.leaders[node]
             if inner in depths:
                 return [one for one, _, _ in path[depths[inner] + 1:]] + [node]
-            if inner not in done:
+            if joins.steps[inner] and inner not in done:
                 depths[inner] = len(path)
                 path.append((node, inner, list(joins.steps[inner].values())))
     return None

@@ -6,7 +6,7 @@ from widestkind.measures import solve_measures
 from widestkind.powers import add_times, measure_of
 from widestkind.rings import ring_of
 from widestkind.solutionjudge import is_solution_of
-from widestkind.solutions import solution_of
+from widestkind.solutions import put_nodes, solution_of
 from widestkind.wholes import is_place_of
 
 
@@ -41,7 +41,7 @@ def equations_of(joins):
     for _, factors, measure in joins.powers:
         total = {factor: -number for factor, number in measure}
         for node, number in factors:
-            add_times(total, {"'" + str(joins.leader(node)): number}, 1)
+            add_times(total, {"'" + str(joins.leaders[node]): number}, 1)
         found.append(measure_of(total))
     return found
 
@@ -53,18 +53,44 @@ def measures_of(joins):
     return solve_measures(equations_of(joins))
 
 
+def settled(whole):
+    """The tuple of the Joins of all facts of a whole and of the measures of their leaders, or None for these.
+
+    All nodes that a solution or a form needs are there, put in in one order, so that all that comes of the joins is
+    the same whatever was asked first.
+    """
+    found = whole.kept("settled")
+    if found is not None:
+        return found
+    joins = joined(whole, knots_at(whole, None))
+    measures = measures_of(joins)
+    if measures is not None:
+        put_nodes(whole, joins)
+    return whole.keep("settled", (joins, measures))
+
+
 def fits(whole, places=None):
     """Whether places fit together, all of them for None."""
+    if places is None:
+        return settled(whole)[1] is not None
     return measures_of(joined(whole, knots_at(whole, places))) is not None
+
+
+def kept_solution(whole):
+    """The dict from all points without steps to their widest kinds, rows and measures, which is not to be changed."""
+    found = whole.kept("solution")
+    if found is not None:
+        return found
+    joins, measures = settled(whole)
+    if measures is None:
+        raise NoKind()
+    return whole.keep("solution", solution_of(whole, joins, measures))
 
 
 def solution(whole):
     """The dict from all points without steps to their widest kinds, rows and measures."""
-    joins = joined(whole, knots_at(whole, None))
-    measures = measures_of(joins)
-    if measures is None:
-        raise NoKind()
-    return solution_of(whole, joins, measures)
+    found = kept_solution(whole)
+    return {key: found[key] for key in found}
 
 
 def judge_solution(whole, value):

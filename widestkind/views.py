@@ -35,15 +35,15 @@ class Naming:
 
     def leaders_now(self):
         """The list of the leaders."""
-        return [node for node in range(len(self.joins.points)) if self.joins.leader(node) == node]
+        return [node for node, leader in enumerate(self.joins.leaders) if leader == node]
 
     def _linked(self, start):
         """The dict of True for the leaders whose rows go on as that of one does."""
         found = {start: True}
         waiting = [start]
         while waiting:
-            for one, other, _, _ in self.joins.links[waiting.pop()]:
-                for leader in (self.joins.leader(one), self.joins.leader(other)):
+            for one, other, _, _ in self.joins.links.get(waiting.pop(), []):
+                for leader in (self.joins.leaders[one], self.joins.leaders[other]):
                     if leader not in found:
                         found[leader] = True
                         waiting.append(leader)
@@ -51,9 +51,11 @@ class Naming:
 
     def _find_rows(self):
         for start in self.leaders_now():
-            if start not in self.rows:
+            if start not in self.joins.links:
+                self.rows[start] = None if start in self.joins.onlys else start
+            elif start not in self.rows:
                 found = self._linked(start)
-                closed = any([self.joins.onlys[leader] != [] for leader in found])
+                closed = any([leader in self.joins.onlys for leader in found])
                 for leader in found:
                     self.rows[leader] = None if closed else start
 
@@ -64,7 +66,7 @@ class Naming:
             if head is None or head[1] == "num":
                 wanted.append(leader)
             is_row_head = head is not None and head[1] in ("record", "variant")
-            if self.rows[leader] == leader and (is_row_head or self.joins.links[leader]):
+            if self.rows[leader] == leader and (is_row_head or leader in self.joins.links):
                 wanted.append(("row", leader))
         for key, name in zip(wanted, self.new_names(len(wanted))):
             self.called[key] = name
@@ -96,7 +98,7 @@ class View:
         entries = {}
         for step, node in self.joins.steps[leader].items():
             label = step[1:] if step[0] == "." else step
-            entries[label] = self.made[self.joins.leader(node)]
+            entries[label] = self.made[self.joins.leaders[node]]
         rest = self.naming.rows[leader]
         found = tuple([(label, entries[label]) for label in sorted(entries)])
         return found, None if rest is None else self.naming.called[("row", rest)]
@@ -106,15 +108,16 @@ class View:
         head = self.joins.heads[leader]
         steps = self.joins.steps[leader]
         if head is None:
-            return self._row(leader) if steps or self.joins.links[leader] else ("name", self.naming.called[leader])
+            return self._row(leader) if steps or leader in self.joins.links else ("name", self.naming.called[leader])
         if head[1] == "num":
             return ("num", self.measure(leader))
         if head[1] in ("record", "variant"):
             entries, rest = self._row(leader)
             return (head[1], entries, rest)
         if head[1] == "fn":
-            return ("fn", self.made[self.joins.leader(steps["from"])], self.made[self.joins.leader(steps["to"])])
-        inner = [self.made[self.joins.leader(steps[index])] for index in range(self.naming.arities[head[1]])]
+            one, other = self.joins.leaders[steps["from"]], self.joins.leaders[steps["to"]]
+            return ("fn", self.made[one], self.made[other])
+        inner = [self.made[self.joins.leaders[steps[index]]] for index in range(self.naming.arities[head[1]])]
         return ("own", head[1], tuple(inner))
 
     def kind(self, start):
@@ -124,14 +127,14 @@ class View:
             leader, ready = waiting.pop()
             if leader in self.made:
                 continue
-            inner = [self.joins.leader(node) for node in self.joins.steps[leader].values()]
-            if ready or not inner:
+            steps = self.joins.steps[leader]
+            if ready or not steps:
                 self.made[leader] = self._kind(leader)
             else:
                 waiting.append((leader, True))
-                waiting.extend([(one, False) for one in inner])
+                waiting.extend([(self.joins.leaders[node], False) for node in steps.values()])
         return self.made[start]
 
     def kind_at(self, point):
         """The kind at a point that has a node."""
-        return self.kind(self.joins.leader(self.joins.node(point)))
+        return self.kind(self.joins.leaders[self.joins.node(point)])

@@ -5,7 +5,7 @@ from widestkind.facts import kind_point
 from widestkind.fillings import told_all
 from widestkind.names import scopes_in
 from widestkind.shapes import inner_numbers, parts_of
-from widestkind.solving import fits, joined, knots_at, measures_of, solution
+from widestkind.solving import fits, kept_solution, settled
 from widestkind.trees import is_tree
 
 HOLE = ("fail", "hole")
@@ -98,7 +98,7 @@ def wanted(whole, place, *, names=()):
     """The kind of the text, and the kinds that are wanted at the spots of a place, behind those of names."""
     check_tree_place(whole, place)
     asking = asking_whole(whole, place, names)
-    found = solution(asking)
+    found = kept_solution(asking)
     kinds = [found[(0, "kind")]]
     for spot in spots_of(asking, place):
         kind = found[(spot, "kind")]
@@ -116,9 +116,9 @@ def may_stand(whole, place, tree):
 def is_loose(whole, place):
     """Whether any kind is wanted at each spot of a place."""
     holed = whole_with(whole, place, HOLE)
-    joins = joined(holed, knots_at(holed, None))
+    joins, measures = settled(holed)
     leaders = [joins.leader(joins.node(kind_point(spot))) for spot in spots_of(holed, place)]
-    return measures_of(joins) is not None and all([joins.heads[leader] is None for leader in leaders])
+    return measures is not None and all([joins.heads[leader] is None for leader in leaders])
 
 
 def loose_places(whole):

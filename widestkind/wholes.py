@@ -10,7 +10,10 @@ from widestkind.words import is_integer
 
 
 class Whole:
-    """A text with the book in which it is read. It never changes."""
+    """A text with the book in which it is read. It never changes.
+
+    What comes of it alone is worked out once, and kept with it.
+    """
 
     def __init__(self, book, text):
         self.book = book
@@ -34,8 +37,17 @@ class Whole:
                     self._patterns[inner] = True
             elif is_row(copies.found[knot][2]):
                 self._patterns[within[0]] = True
-        places = {place: True for place, _, _ in copies.found}
-        self._places = sorted(places)
+        self._places = sorted({place: True for place, _, _ in copies.found})
+        self._kept = {}
+
+    def kept(self, name):
+        """What was worked out of this whole, by its name, or None."""
+        return self._kept.get(name)
+
+    def keep(self, name, found):
+        """Keeps what was worked out of this whole alone; returns it."""
+        self._kept[name] = found
+        return found
 
     def tree(self):
         """The expansion of the text's tree."""

@@ -4,12 +4,15 @@ from widestkind.explicitforms import filled_tree, widest_form
 from widestkind.fillings import filling, is_filling, told
 from widestkind.formchecks import is_book_kind
 from widestkind.kindwalks import first_uses
-from widestkind.solving import solution
+from widestkind.solving import kept_solution
 
 
 def widest(whole):
     """The widest kind of a text."""
-    return told(solution(whole)[(0, "kind")])
+    found = whole.kept("widest")
+    if found is None:
+        found = whole.keep("widest", told(kept_solution(whole)[(0, "kind")]))
+    return found
 
 
 def can_have(whole, kind):
@@ -25,7 +28,7 @@ def can_have(whole, kind):
 
 def explicit(whole):
     """A form of a whole whose kind is alike to the widest one."""
-    form, _ = widest_form(whole, {})
+    form, _ = widest_form(whole, [])
     if form is None:
         raise NoKind()
     return form
@@ -35,7 +38,7 @@ def form_with(whole, kind):
     """A form of a whole with just this kind, or None if the text cannot have it."""
     if not is_book_kind(whole.book, kind):
         raise BadKind(kind)
-    form, found = widest_form(whole, {name: True for name in first_uses([kind])})
+    form, found = widest_form(whole, list(first_uses([kind])))
     if form is None:
         return None
     table = filling(kind, found)

@@ -11,7 +11,7 @@ BUILTINS = set("""len range enumerate zip min max sum abs sorted reversed int st
 ord repr any all property divmod ValueError TypeError KeyError IndexError LookupError True False None""".split())
 METHODS = set("""append clear copy count endswith extend find get index insert isalnum isalpha isdigit islower isspace
 isupper items join keys ljust lower lstrip partition pop remove replace reverse rfind rjust rpartition rsplit rstrip
-setdefault split splitlines startswith strip update upper values zfill bit_length add discard""".split())
+setdefault split splitlines startswith strip update upper values zfill bit_length isascii add discard""".split())
 BARRED = set("_record _outside _cold register mro elements open input law version_info with_traceback add_note".split())
 WORDS = set("""type typing enum Enum Generic Protocol ABC namedtuple NamedTuple dataclass overload
 contextmanager""".split())

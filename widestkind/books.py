@@ -116,8 +116,11 @@ def uses_or_none(book, name):
 
 def first_unknown(book, kind):
     """The name of the first own kind in a kind that a book does not have with so many kinds, or None."""
+    found = own_kinds_in(kind)
+    if not found:
+        return None
     many = {name: len(book.parameters(name)) for name in book.kinds()}
-    for name, kinds in own_kinds_in(kind):
+    for name, kinds in found:
         if many.get(name) != len(kinds):
             return name
     return None

@@ -1,6 +1,6 @@
 """Which kinds are fillings of others, which are alike, and what kinds have in common."""
 from widestkind.kinds import kind_text
-from widestkind.kindwalks import first_uses, folded, kinds_in, rebuilt
+from widestkind.kindwalks import first_uses, folded, kinds_in, kinds_of, rebuilt
 from widestkind.measures import power, solve_measures, times
 from widestkind.powers import is_name, measure_of, names_of
 from widestkind.turning import turned
@@ -9,14 +9,7 @@ from widestkind.webs import Web, set_apart
 
 def measures_in(kinds):
     """The list of the measures of all nums in a list of kinds, in the order of their texts."""
-    found = []
-    waiting = list(kinds)[::-1]
-    while waiting:
-        part = waiting.pop()
-        if part[0] == "num":
-            found.append(part[1])
-        waiting.extend(kinds_in(part)[::-1])
-    return found
+    return [part[1] for kind in kinds for part in kinds_of(kind) if part[0] == "num"]
 
 
 def told_names(kinds):
@@ -36,8 +29,9 @@ def told_names(kinds):
 
 def told_all(kinds):
     """The list of kinds that is told for all lists that are alike to a list of kinds told together."""
+    kinds = list(kinds)
     names = told_names(kinds)
-    measures = turned(measures_in(kinds))[::-1]
+    measures = turned(measures_in(kinds))
 
     def told_part(part, inner):
         if part[0] == "num":
@@ -49,7 +43,7 @@ def told_all(kinds):
             return (made[0], made[1], names.get(part[2]))
         return made
 
-    return [folded(kind, told_part) for kind in kinds]
+    return [folded(kind, told_part) for kind in kinds[::-1]][::-1]
 
 
 def told(kind):

@@ -2,9 +2,9 @@
 from widestkind.closings import closings
 from widestkind.errors import BadForm
 from widestkind.formrules import Rules, Scope, kind_by_rule
-from widestkind.formshapes import bare_tree, form_parts_in, pattern_parts_in
+from widestkind.formshapes import form_parts_in, form_sizes, pattern_parts_in
 from widestkind.kindnumbers import KindNumbers
-from widestkind.shapes import numbers_within, parts_of, sizes_of
+from widestkind.shapes import numbers_within
 
 
 class FormJudge:
@@ -141,15 +141,10 @@ class FormJudge:
         return True
 
 
-def form_sizes(form):
-    """The list of the sizes of all parts of a form, by their numbers."""
-    trees = [tree for _, entries in form[1] for _, _, tree in entries] + [form[2]]
-    return [size for tree in trees for size in sizes_of(parts_of(bare_tree(tree)))]
-
-
 def judged(book, form):
     """The kind of the tree of a form, of which the parts are right."""
-    sizes = form_sizes(form)
+    trees = [tree for _, entries in form[1] for _, _, tree in entries] + [form[2]]
+    sizes = [size for tree in trees for size in form_sizes(tree)]
     judge = FormJudge(book, sizes)
     scope = None
     number = 0

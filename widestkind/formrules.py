@@ -2,9 +2,10 @@
 from widestkind.books import first_unknown
 from widestkind.errors import BadFilling
 from widestkind.fillings import is_filling
-from widestkind.kinds import fill, fill_all, is_kind
+from widestkind.kinds import fill, fill_all
 from widestkind.kindwalks import uses_in
 from widestkind.measures import power, times
+from widestkind.pieces import first_stray
 
 ANSWER = ("variant", (("No", ("record", (), None)), ("Yes", ("record", (), None))), None)
 
@@ -44,10 +45,10 @@ class Rules:
         return self.numbers.forms[number]
 
     def is_right(self, number):
-        """Whether what has a number is a kind of the book."""
+        """Whether what has a number, and is built like a kind, is a kind of the book."""
         if number not in self.kinds_right:
             kind = self.numbers.whole[number]
-            self.kinds_right[number] = is_kind(kind) and first_unknown(self.book, kind) is None
+            self.kinds_right[number] = first_stray(uses_in(kind)) is None and first_unknown(self.book, kind) is None
         return self.kinds_right[number]
 
     def are_free(self, names, scope):

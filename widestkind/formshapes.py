@@ -1,4 +1,5 @@
 """How form trees are built, their parts, and the trees that are left of them without kinds."""
+from widestkind.shapes import parts_of, sizes_of
 
 # What stands behind the first word of a form tree, for its first word and its length.
 FORM_TREES = {
@@ -18,15 +19,30 @@ FORM_TREES = {
     ("told", 3): ("tree", "kind"),
 }
 
+# Where the form trees directly within a form tree stand in it, for those that have them side by side.
+SPANS = {
+    "number": (4, 4),
+    "name": (3, 3),
+    "fail": (3, 3),
+    "fn": (3, 4),
+    "call": (1, 3),
+    "let": (3, 5),
+    "rec": (5, 7),
+    "field": (1, 2),
+    "tag": (2, 3),
+    "op": (2, 4),
+    "told": (1, 2),
+}
+
 # What is left out of a form tree.
 LEFT_OUT = ("measure", "table", "names")
 
 
 def form_shape(value):
     """The sorts of what stands behind the first word of a tuple that may be a form tree, or None."""
-    if value == () or not isinstance(value[0], str) or (value[0], len(value)) not in FORM_TREES:
+    if value == () or not isinstance(value[0], str):
         return None
-    return FORM_TREES[(value[0], len(value))]
+    return FORM_TREES.get((value[0], len(value)))
 
 
 def pattern_parts_in(pattern):
@@ -39,18 +55,18 @@ def pattern_parts_in(pattern):
 
 
 def form_parts_in(part):
-    """The form trees and rows directly within a form tree, or the tree of a row; patterns are not looked at."""
-    if isinstance(part[0], tuple):
-        return [part[1]]
-    found = []
-    for item, sort in zip(part[1:], form_shape(part)):
-        if sort == "tree":
-            found.append(item)
-        elif sort == "entries":
-            found.extend([inner for _, inner in item])
-        elif sort == "rows":
-            found.extend(item)
-    return found
+    """The tuple of the form trees and rows directly within a form tree, or the tree of a row, without patterns."""
+    head = part[0]
+    if head in SPANS:
+        first, behind = SPANS[head]
+        return part[first:behind]
+    if head == "record":
+        return tuple([inner for _, inner in part[1]])
+    if head == "match":
+        return (part[1], *part[2])
+    if head == "with":
+        return (part[1], part[3])
+    return (part[1],)
 
 
 def form_parts(tree):
@@ -66,21 +82,17 @@ def form_parts(tree):
 
 def put_within(part, inner):
     """The form tree or row with others in the place of those directly within it."""
-    if isinstance(part[0], tuple):
-        return (part[0], inner[0])
-    made = [part[0]]
-    at = 0
-    for item, sort in zip(part[1:], form_shape(part)):
-        if sort == "tree":
-            made.append(inner[at])
-            at += 1
-        elif sort == "entries":
-            made.append(tuple([(entry[0], new) for entry, new in zip(item, inner[at:])]))
-        elif sort == "rows":
-            made.append(tuple(inner[at:]))
-        else:
-            made.append(item)
-    return tuple(made)
+    head = part[0]
+    if head in SPANS:
+        first, behind = SPANS[head]
+        return part if first == behind else (*part[:first], *inner, *part[behind:])
+    if head == "record":
+        return ("record", tuple([(entry[0], new) for entry, new in zip(part[1], inner)]))
+    if head == "match":
+        return ("match", inner[0], tuple(inner[1:]))
+    if head == "with":
+        return ("with", inner[0], part[2], inner[1])
+    return (part[0], inner[0])
 
 
 def form_folded(tree, change):
@@ -108,3 +120,20 @@ def bare(part, inner):
 def bare_tree(tree):
     """The tree that is left of a form tree."""
     return form_folded(tree, bare)
+
+
+def form_sizes(tree):
+    """The list of the numbers of the parts within each part of a form tree, itself included; patterns count too."""
+    sizes = []
+    done = []
+    for part in form_parts(tree)[::-1]:
+        size = 1
+        for _ in form_parts_in(part):
+            size += done.pop()
+        if isinstance(part[0], tuple):
+            inner = sizes_of(parts_of(part[0]))
+            size += inner[0]
+            sizes.extend(inner[::-1])
+        done.append(size)
+        sizes.append(size)
+    return sizes[::-1]

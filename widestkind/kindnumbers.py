@@ -20,17 +20,24 @@ class KindNumbers:
 
     def number_with(self, kind, inner):
         """The number of a kind, of which the numbers of the kinds directly in it are told."""
-        steps = list(range(len(inner)))
-        rest = kind[1]
-        if kind[0] == "fn":
-            steps, rest = ["from", "to"], None
-        elif kind[0] == "record":
-            steps, rest = ["." + label for label, _ in kind[1]], kind[2]
-        elif kind[0] == "variant":
-            steps, rest = [label for label, _ in kind[1]], kind[2]
-        key = (kind[0], tuple(steps), tuple(inner), rest)
+        key = (kind[0], *inner) if kind[0] == "fn" else (kind[0], kind[1])
+        if kind[0] == "own":
+            key = (kind[0], kind[1], tuple(inner))
+        elif kind[0] in ("record", "variant"):
+            key = (kind[0], tuple([label for label, _ in kind[1]]), tuple(inner), kind[2])
         if key not in self.known:
             self.known[key] = len(self.forms)
-            self.forms.append((kind[0], dict(zip(steps, inner)), rest))
+            self.forms.append(form_of(kind, inner))
             self.whole.append(kind)
         return self.known[key]
+
+
+def form_of(kind, inner):
+    """The form of a kind, of which the numbers of the kinds directly in it are told."""
+    if kind[0] == "fn":
+        return ("fn", {"from": inner[0], "to": inner[1]}, None)
+    if kind[0] == "record":
+        return ("record", {"." + entry[0]: number for entry, number in zip(kind[1], inner)}, kind[2])
+    if kind[0] == "variant":
+        return ("variant", {entry[0]: number for entry, number in zip(kind[1], inner)}, kind[2])
+    return (kind[0], dict(enumerate(inner)), kind[1])

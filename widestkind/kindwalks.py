@@ -2,6 +2,10 @@
 from widestkind.powers import is_name
 
 
+# The kinds without kinds within them.
+LEAVES = {"num": True, "name": True}
+
+
 def kinds_in(kind):
     """The kinds directly within a kind, from left to right."""
     if kind[0] == "fn":
@@ -16,18 +20,12 @@ def kinds_in(kind):
 def folded(kind, combine):
     """What `combine` makes of a kind and of the list of what it has made of the kinds directly within it."""
     done = []
-    waiting = [(kind, False)]
-    while waiting:
-        part, ready = waiting.pop()
-        inner = kinds_in(part)
-        if inner and not ready:
-            waiting.append((part, True))
-            waiting.extend([(one, False) for one in inner[::-1]])
+    for part in kinds_of(kind)[::-1]:
+        if part[0] in LEAVES:
+            done.append(combine(part, []))
         else:
-            first = len(done) - len(inner)
-            made = combine(part, done[first:])
-            del done[first:]
-            done.append(made)
+            inner = [done.pop() for _ in kinds_in(part)]
+            done.append(combine(part, inner))
     return done[0]
 
 
@@ -49,19 +47,24 @@ def uses_in(kind):
     A use is a tuple of `"kind"`, `"record"`, `"variant"` or `"measure"`, and of the labels or tags beside a row name.
     """
     found = []
-    waiting = [(kind, None)]
+    waiting = [kind]
     while waiting:
-        part, name = waiting.pop()
-        if name is not None:
-            found.append((name, (part[0], tuple([entry[0] for entry in part[1]]))))
-        elif part[0] == "name":
-            found.append((part[1], ("kind", ())))
-        elif part[0] == "num":
+        part = waiting.pop()
+        head = part[0]
+        if head == "num":
             found.extend([(factor, ("measure", ())) for factor, _ in part[1] if is_name(factor)])
-        elif part[0] in ("record", "variant") and part[2] is not None:
-            waiting.append((part, part[2]))
-        if name is None:
-            waiting.extend([(inner, None) for inner in kinds_in(part)[::-1]])
+        elif head == "name":
+            found.append((part[1], ("kind", ())))
+        elif head == "rest":
+            found.append((part[1], part[2]))
+        elif head == "fn":
+            waiting.extend([part[2], part[1]])
+        elif head == "own":
+            waiting.extend(part[2][::-1])
+        else:
+            if part[2] is not None:
+                waiting.append(("rest", part[2], (head, tuple([label for label, _ in part[1]]))))
+            waiting.extend([inner for _, inner in part[1][::-1]])
     return found
 
 
@@ -81,7 +84,8 @@ def kinds_of(kind):
     while waiting:
         part = waiting.pop()
         found.append(part)
-        waiting.extend(kinds_in(part)[::-1])
+        if part[0] not in LEAVES:
+            waiting.extend(kinds_in(part)[::-1])
     return found
 
 

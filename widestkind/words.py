@@ -40,8 +40,8 @@ def is_word(value):
     """Whether any value is a word."""
     if not isinstance(value, str) or value == "" or value in OWN_WORDS:
         return False
-    if len(value) == 1:
-        return "a" <= value <= "z"
+    if value.isascii() and value.isalpha() and value.islower():
+        return len(value) <= 6
     return word_end(value, 0) == len(value)
 
 

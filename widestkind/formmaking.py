@@ -49,7 +49,7 @@ class FormMaker:
             leader = waiting.pop()
             if leader not in found:
                 found[leader] = True
-                waiting.extend([self.joins.leader(node) for node in self.joins.steps[leader].values()])
+                waiting.extend([self.joins.leader(node) for node in self.joins.steps_at(leader).values()])
         return found
 
     def inner_view(self, begin, end, view, around):

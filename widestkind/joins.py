@@ -9,22 +9,22 @@ from widestkind.facts import label_step
 class Joins:
     """Nodes, and what is known of them.
 
-    By nodes: `points`; `leaders`; `roads`, the tuple of the next node and the reason, or None. By leaders: `members`,
-    the nodes that have it; `steps`, the dict from steps to nodes whose points are those of some node with this step
-    more; `heads`, the tuple of a node, a head and its fact, or None; `onlys`, tuples of a node, labels and their fact;
-    `links`, tuples of two nodes whose rows are the same but for some labels, these labels, and the reason; the latter
-    two are dicts of those that have some. A fact is a tuple of a knot and an index. `wrong` is what cannot be, or
-    None; `changed` are leaders whose entries are still to be looked at.
+    By nodes: `points`; `leaders`; and `roads`, the dict of those that have one to the tuple of the next node and the
+    reason. By leaders, dicts of those that have some: `members`, the nodes that have it, if there are others than
+    itself; `steps`, the dict from steps to nodes whose points are those of some node with this step more; `heads`, the
+    tuple of a node, a head and its fact; `onlys`, tuples of a node, labels and their fact; `links`, tuples of two
+    nodes whose rows are the same but for some labels, these labels, and the reason. A fact is a tuple of a knot and an
+    index. `wrong` is what cannot be, or None; `changed` are leaders whose entries are still to be looked at.
     """
 
     def __init__(self):
         self.points = []
         self.nodes = {}
         self.leaders = []
-        self.members = []
-        self.roads = []
-        self.steps = []
-        self.heads = []
+        self.members = {}
+        self.roads = {}
+        self.steps = {}
+        self.heads = {}
         self.onlys = {}
         self.links = {}
         self.handed = {}
@@ -39,10 +39,6 @@ class Joins:
         self.points.append(point)
         self.nodes[point] = node
         self.leaders.append(node)
-        self.members.append([node])
-        self.roads.append(None)
-        self.steps.append({})
-        self.heads.append(None)
         return node
 
     def leader(self, node):
@@ -51,22 +47,32 @@ class Joins:
 
     def node(self, point):
         """The node of a point, new ones on the way to it included."""
-        if point in self.nodes:
-            return self.nodes[point]
-        root = (point[0], point[1], ())
-        node = self.nodes[root] if root in self.nodes else self._new_node(root)
-        for step in point[2]:
-            node = self.behind(node, step)
-        return node
+        found = self.nodes.get(point)
+        if found is not None:
+            return found
+        knot, what, way = point
+        if way == ():
+            return self._new_node(point)
+        found = self.node((knot, what, ()))
+        for step in way:
+            found = self.behind(found, step)
+        return found
+
+    def steps_at(self, leader):
+        """The dict from steps to nodes whose points are those of some node with a leader with this step more."""
+        return self.steps.get(leader, {})
 
     def behind(self, node, step):
         """The node of a point with one step more."""
         knot, what, way = self.points[node]
         point = (knot, what, (*way, step))
-        if point in self.nodes:
-            return self.nodes[point]
+        found = self.nodes.get(point)
+        if found is not None:
+            return found
         new = self._new_node(point)
         leader = self.leaders[node]
+        if leader not in self.steps:
+            self.steps[leader] = {}
         steps = self.steps[leader]
         if step in steps:
             other = steps[step]
@@ -88,7 +94,7 @@ class Joins:
         if leader not in self.links:
             return
         for one, other, labels, reason in self.links[leader]:
-            for step in self.steps[leader]:
+            for step in self.steps_at(leader):
                 if step not in labels and (one, other, step) not in self.handed:
                     self.handed[(one, other, step)] = True
                     self.waiting.append((one, other, (*reason, step)))
@@ -98,23 +104,39 @@ class Joins:
         for changed in self.changed:
             leader = self.leaders[changed]
             for node, labels, fact in self.onlys[leader]:
-                for step, entry in self.steps[leader].items():
+                for step, entry in self.steps_at(leader).items():
                     if step not in labels and self.wrong is None:
                         self.wrong = ("gone", entry, node, step, fact)
         self.changed = []
 
-    def tell(self, fact, what):
-        """Takes in what a fact tells, and what follows from it."""
+    def tell(self, knot, facts):
+        """Takes in the facts of a knot, and what follows from them, up to the first one that cannot be true."""
+        nodes = self.nodes
+        for index, what in enumerate(facts):
+            head = what[0]
+            one = nodes.get(what[1])
+            if one is None and head != "power":
+                one = self.node(what[1])
+            if head == "same":
+                other = nodes.get(what[2])
+                if other is None:
+                    other = self.node(what[2])
+                self._join(one, other, ("fact", knot, index))
+            elif head == "head":
+                self._tell_head(one, what[2], (knot, index))
+            else:
+                self._tell_other(one, what, (knot, index))
+            if self.waiting or self.changed:
+                self._settle()
+            if self.wrong is not None:
+                return
+
+    def _tell_other(self, node, what, fact):
+        """Takes in a fact of a row at a node, or of measures."""
         head = what[0]
-        if head == "same":
-            one, other = self.node(what[1]), self.node(what[2])
-            self._join(one, other, ("fact", *fact))
-        elif head == "head":
-            self._tell_head(self.node(what[1]), what[2], fact)
-        elif head == "in":
-            self.entries.append((self.behind(self.node(what[1]), label_step(what[2])), fact))
+        if head == "in":
+            self.entries.append((self.behind(node, label_step(what[2])), fact))
         elif head == "only":
-            node = self.node(what[1])
             leader = self.leaders[node]
             self.onlys.setdefault(leader, []).append((node, {label_step(label): True for label in what[2]}, fact))
             self._look_at_row(leader)
@@ -122,12 +144,10 @@ class Joins:
             self.powers.append((fact, [(self.node(point), number) for point, number in what[1]], what[2]))
         else:
             self._tell_link(what, fact)
-        if self.waiting or self.changed:
-            self._settle()
 
     def _tell_head(self, node, head, fact):
         leader = self.leaders[node]
-        if self.heads[leader] is None:
+        if leader not in self.heads:
             self.heads[leader] = (node, head, fact)
         elif self.heads[leader][1] != head and self.wrong is None:
             self.wrong = ("heads", self.heads[leader], (node, head, fact))
@@ -160,27 +180,32 @@ class Joins:
         into, leader = self.leaders[one], self.leaders[other]
         if into == leader:
             return
-        if len(self.members[into]) < len(self.members[leader]):
+        ours, theirs = self.members.get(into, [into]), self.members.get(leader, [leader])
+        if len(ours) < len(theirs):
             one, other, reason = other, one, turned_reason(reason)
-            into, leader = leader, into
-        self._turn_roads(other)
+            into, leader, ours, theirs = leader, into, theirs, ours
+        if other in self.roads:
+            self._turn_roads(other)
         self.roads[other] = (one, turned_reason(reason))
-        for node in self.members[leader]:
+        for node in theirs:
             self.leaders[node] = into
-        self.members[into].extend(self.members[leader])
-        if self.heads[leader] is not None:
+        ours.extend(theirs)
+        self.members[into] = ours
+        if leader in self.heads:
             node, head, fact = self.heads[leader]
             self._tell_head(node, head, fact)
         if leader in self.onlys:
             self.onlys.setdefault(into, []).extend(self.onlys[leader])
         if leader in self.links:
             self.links.setdefault(into, []).extend(self.links[leader])
-        if self.steps[leader]:
+        if leader in self.steps:
             self._join_steps(into, leader)
         self._look_at_row(into)
 
     def _join_steps(self, into, leader):
         """Lets the points behind two nodes that have become the same become the same."""
+        if into not in self.steps:
+            self.steps[into] = {}
         steps = self.steps[into]
         for step, node in self.steps[leader].items():
             if step in steps:
@@ -193,8 +218,11 @@ class Joins:
         """Turns the roads from a node on, so that all roads of what is the same lead to it."""
         last = None
         while node is not None:
-            road = self.roads[node]
-            self.roads[node] = last
+            road = self.roads.get(node)
+            if last is None:
+                self.roads.pop(node, None)
+            else:
+                self.roads[node] = last
             if road is None:
                 return
             last = (node, turned_reason(road[1]))

@@ -39,7 +39,7 @@ class Proof:
         behind_one = {one: 0}
         up = []
         node = one
-        while roads[node] is not None:
+        while node in roads:
             up.append((node, roads[node][0], roads[node][1]))
             node = roads[node][0]
             behind_one[node] = len(up)

@@ -7,7 +7,7 @@ def ring_of(joins):
     """
     done = set()
     for start in range(len(joins.points)):
-        if joins.leaders[start] != start or start in done or not joins.steps[start]:
+        if joins.leaders[start] != start or start in done or start not in joins.steps:
             continue
         path = [(start, start, list(joins.steps[start].values()))]
         depths = {start: 0}
@@ -22,7 +22,7 @@ def ring_of(joins):
             inner = joins.leaders[node]
             if inner in depths:
                 return [one for one, _, _ in path[depths[inner] + 1:]] + [node]
-            if joins.steps[inner] and inner not in done:
+            if inner in joins.steps and inner not in done:
                 depths[inner] = len(path)
                 path.append((node, inner, list(joins.steps[inner].values())))
     return None

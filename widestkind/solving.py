@@ -28,10 +28,9 @@ def joined(whole, knots):
     """The Joins of the facts of knots, up to the first fact that cannot be true with those ahead of it."""
     joins = Joins()
     for knot in knots:
-        for index, what in enumerate(facts_of(whole, knot)):
-            joins.tell((knot, index), what)
-            if joins.wrong is not None:
-                return joins
+        joins.tell(knot, facts_of(whole, knot))
+        if joins.wrong is not None:
+            return joins
     return joins
 
 

@@ -39,10 +39,9 @@ class Trials:
         joins = Joins()
         for knot, needs in enumerate(self.needs):
             if needs & lot == needs:
-                for index, what in enumerate(self.facts[knot]):
-                    joins.tell((knot, index), what)
-                    if joins.wrong is not None:
-                        return joins
+                joins.tell(knot, self.facts[knot])
+                if joins.wrong is not None:
+                    return joins
         return joins
 
     def clash_in(self, lot):

@@ -23,14 +23,14 @@ class Naming:
     def _put_steps(self):
         """Puts in the steps that heads have, also where no fact leads there."""
         for leader in self.leaders_now():
-            head = self.joins.heads[leader]
+            head = self.joins.heads.get(leader)
             if head is None:
                 continue
             steps = list(range(self.arities.get(head[1], 0)))
             if head[1] == "fn":
                 steps = ["from", "to"]
             for step in steps:
-                if step not in self.joins.steps[leader]:
+                if step not in self.joins.steps_at(leader):
                     self.joins.behind(head[0], step)
 
     def leaders_now(self):
@@ -62,7 +62,7 @@ class Naming:
     def _put_names(self):
         wanted = []
         for leader in self.leaders_now():
-            head = self.joins.heads[leader]
+            head = self.joins.heads.get(leader)
             if head is None or head[1] == "num":
                 wanted.append(leader)
             is_row_head = head is not None and head[1] in ("record", "variant")
@@ -96,7 +96,7 @@ class View:
     def _row(self, leader):
         """The entries of a row whose kinds are made, and the name with which it goes on, or None."""
         entries = {}
-        for step, node in self.joins.steps[leader].items():
+        for step, node in self.joins.steps_at(leader).items():
             label = step[1:] if step[0] == "." else step
             entries[label] = self.made[self.joins.leaders[node]]
         rest = self.naming.rows[leader]
@@ -105,8 +105,8 @@ class View:
 
     def _kind(self, leader):
         """The kind of a leader, where the kinds within it are made; a row of a name is told without a head."""
-        head = self.joins.heads[leader]
-        steps = self.joins.steps[leader]
+        head = self.joins.heads.get(leader)
+        steps = self.joins.steps_at(leader)
         if head is None:
             return self._row(leader) if steps or leader in self.joins.links else ("name", self.naming.called[leader])
         if head[1] == "num":
@@ -127,7 +127,7 @@ class View:
             leader, ready = waiting.pop()
             if leader in self.made:
                 continue
-            steps = self.joins.steps[leader]
+            steps = self.joins.steps_at(leader)
             if ready or not steps:
                 self.made[leader] = self._kind(leader)
             else:

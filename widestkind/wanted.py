@@ -118,7 +118,7 @@ def is_loose(whole, place):
     holed = whole_with(whole, place, HOLE)
     joins, measures = settled(holed)
     leaders = [joins.leader(joins.node(kind_point(spot))) for spot in spots_of(holed, place)]
-    return measures is not None and all([joins.heads[leader] is None for leader in leaders])
+    return measures is not None and all([leader not in joins.heads for leader in leaders])
 
 
 def loose_places(whole):

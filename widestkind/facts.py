@@ -197,23 +197,21 @@ def of_match(whole, part, knot):
 def facts_of(whole, knot):
     """The list of the facts of a knot that is there."""
     part = whole.part_of(knot)
-    point = kind_point(knot)
-    inner = [kind_point(one) for one in whole.knots_within(knot)]
-    if is_row(part):
-        return of_row(whole, knot, inner)
     head = part[0]
     if head == "name":
-        return [("same", point, whole.target_of(knot))]
+        return [("same", (knot, "kind", ()), whole.target_of(knot))]
+    point = (knot, "kind", ())
+    inner = whole.points_within(knot)
     if head == "tag":
         return of_tag(whole, part, point, inner)
-    if head == "match":
-        return of_match(whole, part, knot)
     if head == "record" and whole.is_in_pattern(knot):
         return of_record_pattern(part, point, inner)
-    if head not in OF_TREES:
-        return []
-    tell = OF_TREES[head]
-    return tell(part, point, inner)
+    if head in OF_TREES:
+        tell = OF_TREES[head]
+        return tell(part, point, inner)
+    if head == "match":
+        return of_match(whole, part, knot)
+    return of_row(whole, knot, inner) if is_row(part) else []
 
 
 def is_knot_of(whole, value):

@@ -6,7 +6,13 @@ from widestkind.views import Naming, View
 
 
 def keys_of(whole):
-    """The dict from the keys of a solution to the uses of what they stand for: `("kind", ())`, or as for names."""
+    """The dict from the keys of a solution to the uses of what they stand for: `("kind", ())`, or as for names.
+
+    It is kept with the whole, and is not to be changed.
+    """
+    found = whole.kept("keys")
+    if found is not None:
+        return found
     found = {}
     for knot, (_, _, part) in enumerate(whole.knots()):
         if is_row(part):
@@ -20,7 +26,7 @@ def keys_of(whole):
         if head == "told":
             for name, use in first_uses([part[2]]).items():
                 found[(knot, name)] = use
-    return found
+    return whole.keep("keys", found)
 
 
 def put_nodes(whole, joins):

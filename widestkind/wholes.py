@@ -27,6 +27,7 @@ class Whole:
         self._knots = copies.found
         self._targets = copies.targets
         self._within = copies.within()
+        self._points = [(knot, "kind", ()) for knot in range(len(copies.found))]
         self._above = [None for _ in copies.found]
         self._patterns = [False for _ in copies.found]
         for knot, within in enumerate(self._within):
@@ -97,6 +98,10 @@ class Whole:
     def knots_within(self, knot):
         """The list of the knots of the parts directly within the part of a knot; of the copy of a `rec` just its e1."""
         return list(self._within[knot])
+
+    def points_within(self, knot):
+        """The list of the points of the kinds of the knots of the parts directly within the part of a knot."""
+        return [self._points[inner] for inner in self._within[knot]]
 
     def knot_above(self, knot):
         """The knot of the part in which the part of a knot stands directly, or None."""

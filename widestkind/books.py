@@ -116,11 +116,13 @@ def uses_or_none(book, name):
 
 def first_unknown(book, kind):
     """The name of the first own kind in a kind that a book does not have with so many kinds, or None."""
-    found = own_kinds_in(kind)
-    if not found:
-        return None
-    many = {name: len(book.parameters(name)) for name in book.kinds()}
-    for name, kinds in found:
+    return first_unknown_of(book, own_kinds_in(kind))
+
+
+def first_unknown_of(book, owns):
+    """The name of the first of some own kinds with kinds that a book does not have with so many kinds, or None."""
+    many = {name: len(book.parameters(name)) for name in book.kinds()} if owns else {}
+    for name, kinds in owns:
         if many.get(name) != len(kinds):
             return name
     return None

@@ -1,15 +1,20 @@
 """Whether any value is a form."""
-from widestkind.books import first_unknown
+from widestkind.books import first_unknown_of
 from widestkind.formshapes import form_parts_in, form_shape
-from widestkind.kinds import is_kind
+from widestkind.kinds import is_built_kind, is_kind
+from widestkind.kindwalks import uses_and_owns
 from widestkind.measures import is_measure
+from widestkind.pieces import first_stray
 from widestkind.trees import is_of
 from widestkind.words import is_kind_name, is_plain_word
 
 
 def is_book_kind(book, value):
     """Whether any value is a kind whose own kinds are those of a book."""
-    return is_kind(value) and first_unknown(book, value) is None
+    if not is_built_kind(value):
+        return False
+    uses, owns = uses_and_owns(value)
+    return first_stray(uses) is None and first_unknown_of(book, owns) is None
 
 
 def are_names(value):

@@ -1,9 +1,9 @@
 """The rules by which the kinds of the parts of a form come of the kinds of the parts within them."""
-from widestkind.books import first_unknown
+from widestkind.books import first_unknown_of
 from widestkind.errors import BadFilling
 from widestkind.fillings import is_filling
 from widestkind.kinds import fill, fill_all
-from widestkind.kindwalks import uses_in
+from widestkind.kindwalks import uses_and_owns, uses_in
 from widestkind.measures import power, times
 from widestkind.pieces import first_stray
 
@@ -47,8 +47,8 @@ class Rules:
     def is_right(self, number):
         """Whether what has a number, and is built like a kind, is a kind of the book."""
         if number not in self.kinds_right:
-            kind = self.numbers.whole[number]
-            self.kinds_right[number] = first_stray(uses_in(kind)) is None and first_unknown(self.book, kind) is None
+            uses, owns = uses_and_owns(self.numbers.whole[number])
+            self.kinds_right[number] = first_stray(uses) is None and first_unknown_of(self.book, owns) is None
         return self.kinds_right[number]
 
     def are_free(self, names, scope):

@@ -32,18 +32,18 @@ def inner_values(value):
     if not isinstance(value, tuple) or len(value) < 2 or not isinstance(value[0], str):
         return None
     head = value[0]
-    if head == "num" and len(value) == 2 and is_measure(value[1]):
-        return []
-    if head == "name" and len(value) == 2 and is_kind_name(value[1]):
-        return []
+    if len(value) == 2:
+        if head == "num":
+            return [] if is_measure(value[1]) else None
+        return [] if head == "name" and is_kind_name(value[1]) else None
     if len(value) != 3:
         return None
     if head == "fn":
-        return [value[1], value[2]]
+        return value[1:]
     if head in ("record", "variant") and (value[2] is None or is_kind_name(value[2])):
         return row_kinds(head, value[1])
     if head == "own" and is_plain_word(value[1]) and isinstance(value[2], tuple) and len(value[2]) <= 3:
-        return list(value[2])
+        return value[2]
     return None
 
 

@@ -41,31 +41,38 @@ def rebuilt(kind, inner):
     return kind
 
 
-def uses_in(kind):
-    """The list of the tuples of a kind name and its use, in the order of the text of the kind.
-
-    A use is a tuple of `"kind"`, `"record"`, `"variant"` or `"measure"`, and of the labels or tags beside a row name.
-    """
-    found = []
+def uses_and_owns(kind):
+    """What `uses_in` and `own_kinds_in` tell of a kind."""
+    uses = []
+    owns = []
     waiting = [kind]
     while waiting:
         part = waiting.pop()
         head = part[0]
         if head == "num":
-            found.extend([(factor, ("measure", ())) for factor, _ in part[1] if is_name(factor)])
+            uses.extend([(factor, ("measure", ())) for factor, _ in part[1] if is_name(factor)])
         elif head == "name":
-            found.append((part[1], ("kind", ())))
+            uses.append((part[1], ("kind", ())))
         elif head == "rest":
-            found.append((part[1], part[2]))
+            uses.append((part[1], part[2]))
         elif head == "fn":
             waiting.extend([part[2], part[1]])
         elif head == "own":
+            owns.append((part[1], part[2]))
             waiting.extend(part[2][::-1])
         else:
             if part[2] is not None:
                 waiting.append(("rest", part[2], (head, tuple([label for label, _ in part[1]]))))
             waiting.extend([inner for _, inner in part[1][::-1]])
-    return found
+    return uses, owns
+
+
+def uses_in(kind):
+    """The list of the tuples of a kind name and its use, in the order of the text of the kind.
+
+    A use is a tuple of `"kind"`, `"record"`, `"variant"` or `"measure"`, and of the labels or tags beside a row name.
+    """
+    return uses_and_owns(kind)[0]
 
 
 def first_uses(kinds):
@@ -91,4 +98,4 @@ def kinds_of(kind):
 
 def own_kinds_in(kind):
     """The list of the tuples of the name and the kinds of each own kind in a kind, in order."""
-    return [(part[1], part[2]) for part in kinds_of(kind) if part[0] == "own"]
+    return uses_and_owns(kind)[1]

@@ -9,12 +9,13 @@ from widestkind.facts import label_step
 class Joins:
     """Nodes, and what is known of them.
 
-    By nodes: `points`; `leaders`; and `roads`, the dict of those that have one to the tuple of the next node and the
-    reason. By leaders, dicts of those that have some: `members`, the nodes that have it, if there are others than
-    itself; `steps`, the dict from steps to nodes whose points are those of some node with this step more; `heads`, the
-    tuple of a node, a head and its fact; `onlys`, tuples of a node, labels and their fact; `links`, tuples of two
-    nodes whose rows are the same but for some labels, these labels, and the reason. A fact is a tuple of a knot and an
-    index. `wrong` is what cannot be, or None; `changed` are leaders whose entries are still to be looked at.
+    By nodes: `points`; `leaders`; and `roads`, the dict of those that have one to the tuple of the next node, the
+    reason, and whether this is one why the next node is the same as this one. By leaders, dicts of those that have
+    some: `members`, the nodes that have it, if there are others than itself; `steps`, the dict from steps to nodes
+    whose points are those of some node with this step more; `heads`, the tuple of a node, a head and its fact;
+    `onlys`, tuples of a node, labels and their fact; `links`, tuples of two nodes whose rows are the same but for some
+    labels, these labels, and the reason. A fact is a tuple of a knot and an index. `wrong` is what cannot be, or
+    None; `changed` are leaders whose entries are still to be looked at.
     """
 
     def __init__(self):
@@ -181,12 +182,13 @@ class Joins:
         if into == leader:
             return
         ours, theirs = self.members.get(into, [into]), self.members.get(leader, [leader])
-        if len(ours) < len(theirs):
-            one, other, reason = other, one, turned_reason(reason)
+        turned = len(ours) >= len(theirs)
+        if not turned:
+            one, other = other, one
             into, leader, ours, theirs = leader, into, theirs, ours
         if other in self.roads:
             self._turn_roads(other)
-        self.roads[other] = (one, turned_reason(reason))
+        self.roads[other] = (one, reason, turned)
         for node in theirs:
             self.leaders[node] = into
         ours.extend(theirs)
@@ -225,8 +227,13 @@ class Joins:
                 self.roads[node] = last
             if road is None:
                 return
-            last = (node, turned_reason(road[1]))
+            last = (node, road[1], not road[2])
             node = road[0]
+
+    def road(self, node):
+        """The tuple of the next node on the road from a node, and of the reason why they are the same."""
+        other, reason, turned = self.roads[node]
+        return other, turned_reason(reason) if turned else reason
 
 
 def turned_reason(reason):

@@ -35,19 +35,20 @@ class Proof:
 
     def way(self, one, other):
         """The list of the roads from a node to another one that is the same: tuples of two nodes and a reason."""
-        roads = self.joins.roads
         behind_one = {one: 0}
         up = []
         node = one
-        while node in roads:
-            up.append((node, roads[node][0], roads[node][1]))
-            node = roads[node][0]
+        while node in self.joins.roads:
+            following, reason = self.joins.road(node)
+            up.append((node, following, reason))
+            node = following
             behind_one[node] = len(up)
         down = []
         node = other
         while node not in behind_one:
-            down.append((roads[node][0], node, ("back", roads[node][1])))
-            node = roads[node][0]
+            following, reason = self.joins.road(node)
+            down.append((following, node, ("back", reason)))
+            node = following
         return up[:behind_one[node]] + down[::-1]
 
     def needed(self, reason):

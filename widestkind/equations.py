@@ -239,6 +239,8 @@ def left_values(system, names, known):
 
     Or None, and the weights that show that there are none.
     """
+    if not names:
+        return {}, None
     indexes = sorted(system.rows)
     left = [system.rows[index] for index in indexes]
     lattice = lattice_of(left, names)

@@ -25,13 +25,13 @@ def put_in(whole, place, tree):
     return whole_with(whole, place, tree)
 
 
-def scope_at(tree, wanted):
+def scope_at(tree, number):
     """The dict from the words that are bound around the part of a tree with a number to what binds them.
 
     That is a tuple of the part that binds, the number of that part, and the index of the word among those it binds.
     """
     steps = parts_of(tree)
-    scope = scopes_in(steps, inner_numbers(steps))[wanted]
+    scope = scopes_in(steps, inner_numbers(steps))[number]
     return {word: (steps[binder], binder, index) for word, (binder, index) in scope.items()}
 
 

@@ -138,6 +138,23 @@ class FormTexts(unittest.TestCase):
         for (token, begin), (_, behind) in zip(tried, tried[1:]):
             self.assertEqual(raised(text[:begin] + "@ " + text[behind:]), (BadText, begin))
 
+    def test_long_and_deep(self):
+        deep = "( fn x : num = " * 500 + "( name x )" + " )" * 500
+        self.assertGreater(len(deep), 8000)
+        self.assertEqual(form_text(read_form(deep)), deep)
+        self.assertEqual(raised(deep[:-2]), (BadText, len(deep) - 2))
+        self.assertEqual(raised(deep + " )"), (BadText, len(deep) + 1))
+        wide = "( record " + " , ".join("x" + str(index) + " = ( number " + str(index) + " [m^" + str(index) + "] )" for index in range(2, 250)) + " )"
+        self.assertGreater(len(wide), 7000)
+        self.assertEqual(form_text(read_form(wide)), wide)
+        self.assertEqual(raised(wide.replace("x249 =", "x2 =")), (Twice, "x2"))
+        kind = "( fail w : " + "(" * 4000 + "num -> num" + ")" * 4000 + " )"
+        self.assertEqual(read_form(kind), read_form("( fail w : num -> num )"))
+        arrows = "( fail w : " + "num -> " * 590 + "num )"
+        self.assertEqual(form_text(read_form(arrows)), arrows)
+        left = "( fail w : " + "(" * 500 + "num" + " -> num)" * 500 + " )"
+        self.assertEqual(read_form(form_text(read_form(left))), read_form(left))
+
     def test_twice_and_bad_names(self):
         for text, expected in [
                 ("( group ['a 'a] ( def d : num = ( number 3 ) ) ) ( number 3 )", (Twice, "'a")),

@@ -4,14 +4,14 @@ from widestkind.formshapes import form_folded, put_within
 from widestkind.kinds import fill_all
 from widestkind.kindwalks import first_uses
 from widestkind.measures import fill_measure
-from widestkind.solving import settled
+from widestkind.solving import settled_with_nodes
 from widestkind.views import Naming, View
 from widestkind.wholes import Whole
 
 
 def maker_of(whole, known, groups, use):
     """The FormMaker of a whole that has a kind, and the View of what stands in no e1; None for one without a kind."""
-    joins, measures = settled(whole)
+    joins, measures = settled_with_nodes(whole)
     if measures is None:
         return None, None
     maker = FormMaker(whole, joins, Naming(whole, joins, known), groups)

@@ -53,19 +53,24 @@ def measures_of(joins):
 
 
 def settled(whole):
-    """The tuple of the Joins of all facts of a whole and of the measures of their leaders, or None for these.
-
-    All nodes that a solution or a form needs are there, put in in one order, so that all that comes of the joins is
-    the same whatever was asked first.
-    """
+    """The tuple of the Joins of all facts of a whole and of the measures of their leaders, or None for these."""
     found = whole.kept("settled")
     if found is not None:
         return found
     joins = joined(whole, knots_at(whole, None))
-    measures = measures_of(joins)
-    if measures is not None:
+    return whole.keep("settled", (joins, measures_of(joins)))
+
+
+def settled_with_nodes(whole):
+    """The same, with all nodes that a solution or a form needs.
+
+    They are put in in one order, so that what comes of the joins is the same whatever was asked first.
+    """
+    joins, measures = settled(whole)
+    if measures is not None and whole.kept("nodes") is None:
         put_nodes(whole, joins)
-    return whole.keep("settled", (joins, measures))
+        whole.keep("nodes", True)
+    return joins, measures
 
 
 def fits(whole, places=None):
@@ -80,7 +85,7 @@ def kept_solution(whole):
     found = whole.kept("solution")
     if found is not None:
         return found
-    joins, measures = settled(whole)
+    joins, measures = settled_with_nodes(whole)
     if measures is None:
         raise NoKind()
     return whole.keep("solution", solution_of(whole, joins, measures))

@@ -71,7 +71,7 @@ def inner_values(book, value):
     if shape is None:
         return None
     for item, sort in zip(value[1:], shape):
-        if not is_of_form(book, item, sort):
+        if sort != "tree" and not is_of_form(book, item, sort):
             return None
     if value[0] == "rec" and value[1] == value[2]:
         return None

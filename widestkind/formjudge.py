@@ -2,7 +2,7 @@
 from widestkind.closings import closings
 from widestkind.errors import BadForm
 from widestkind.formrules import Rules, Scope, kind_by_rule
-from widestkind.formshapes import form_parts_in, form_sizes, pattern_parts_in
+from widestkind.formshapes import LEAVES, form_parts_in, form_sizes, pattern_parts_in
 from widestkind.kindnumbers import KindNumbers
 from widestkind.shapes import numbers_within
 
@@ -10,6 +10,8 @@ from widestkind.shapes import numbers_within
 class FormJudge:
     """What is still to be done, as tuples of a word, a part, its number and what words are bound; and the kinds that
     are told of the parts that are done, by their numbers.
+
+    `bound` has for the numbers of the parts `fn` and `rec` the number of the kind that is written in them.
     """
 
     def __init__(self, book, sizes):
@@ -18,6 +20,7 @@ class FormJudge:
         self.rules = Rules(book, KindNumbers())
         self.waiting = []
         self.done = []
+        self.bound = {}
 
     def kind_number(self, kind):
         """The number of a kind."""
@@ -29,7 +32,10 @@ class FormJudge:
         while self.waiting:
             task, part, number, scope = self.waiting.pop()
             if task == "enter":
-                self._enter(part, number, scope)
+                if part[0] in LEAVES:
+                    self._leave(part, number, scope, [])
+                else:
+                    self._enter(part, number, scope)
             elif task == "body":
                 self._enter_body(part, number, scope)
             elif task == "row":
@@ -37,7 +43,10 @@ class FormJudge:
             elif task == "leave row":
                 self._leave_row(part, number)
             else:
-                self._leave(part, number, scope)
+                first = len(self.done) - len(form_parts_in(part))
+                kinds = self.done[first:]
+                del self.done[first:]
+                self._leave(part, number, scope, kinds)
         return self.done.pop()
 
     def _inner(self, part, number):
@@ -50,7 +59,8 @@ class FormJudge:
         self.waiting.append(("leave", part, number, scope))
         numbers = self._inner(part, number)
         if part[0] == "fn":
-            self.waiting.append(("enter", part[3], numbers[0], Scope(part[1], self.kind_number(part[2]), None, scope)))
+            self.bound[number] = self.kind_number(part[2])
+            self.waiting.append(("enter", part[3], numbers[0], Scope(part[1], self.bound[number], None, scope)))
         elif part[0] == "let":
             self.waiting.append(("body", part, number, scope))
             self.waiting.append(("enter", part[3], numbers[0], scope))
@@ -73,6 +83,7 @@ class FormJudge:
         if part[4][0] != "fn":
             raise BadForm(number)
         kind = self.kind_number(part[4])
+        self.bound[number] = kind
         numbers = self._inner(part, number)
         within = Scope(part[1], kind, None, scope)
         given = Scope(part[2], self.rules.form(kind)[1]["from"], None, within)
@@ -118,15 +129,13 @@ class FormJudge:
         if self.done[-1] != self.done[-1 - told[1]]:
             raise BadForm(number)
 
-    def _leave(self, part, number, scope):
+    def _leave(self, part, number, scope, kinds):
         """Tells the kind of a part, of which those of the parts within it are told."""
-        many = len(form_parts_in(part))
-        first = len(self.done) - many
-        kinds = self.done[first:]
-        del self.done[first:]
         if part[0] == "match":
             kind = kinds[1] if self._is_closed(part, kinds[0]) else None
         else:
+            if number in self.bound:
+                kinds = [self.bound[number], *kinds]
             kind = kind_by_rule(self.rules, part, scope, kinds)
         if kind is None or not self.rules.is_right(kind):
             raise BadForm(number)

@@ -102,7 +102,7 @@ def of_number(rules, part, scope, kinds):
     written, measure = part[2], part[3]
     if written is not None and measure != written or written is None and part[1] != 0 and measure != ():
         return None
-    return rules.numbers.number_of(("num", measure))
+    return rules.numbers.number_with(("num", measure), [])
 
 
 def of_name(rules, part, scope, kinds):
@@ -121,8 +121,8 @@ def of_fail(rules, part, scope, kinds):
 
 
 def of_function(rules, part, scope, kinds):
-    one = rules.numbers.number_of(part[2])
-    return rules.numbers.number_with(("fn", part[2], rules.numbers.whole[kinds[0]]), [one, kinds[0]])
+    """Of an `fn`, as of a `rec`, the kind that is written in it comes ahead of those of the parts within it."""
+    return rules.numbers.number_with(("fn", part[2], rules.numbers.whole[kinds[1]]), kinds)
 
 
 def of_call(rules, part, scope, kinds):
@@ -135,8 +135,8 @@ def of_let(rules, part, scope, kinds):
 
 
 def of_rec(rules, part, scope, kinds):
-    steps = rules.form(rules.numbers.number_of(part[4]))[1]
-    return kinds[1] if steps["to"] == kinds[0] and rules.are_free(part[3], scope) else None
+    steps = rules.form(kinds[0])[1]
+    return kinds[2] if steps["to"] == kinds[1] and rules.are_free(part[3], scope) else None
 
 
 def record_number(rules, entries, rest):
@@ -173,9 +173,9 @@ def of_op(rules, part, scope, kinds):
     if one[0] != "num" or other[0] != "num":
         return None
     if part[1] == "*":
-        return rules.numbers.number_of(("num", times(one[2], other[2])))
+        return rules.numbers.number_with(("num", times(one[2], other[2])), [])
     if part[1] == "/":
-        return rules.numbers.number_of(("num", times(one[2], power(other[2], -1))))
+        return rules.numbers.number_with(("num", times(one[2], power(other[2], -1))), [])
     if kinds[0] != kinds[1]:
         return None
     return rules.numbers.number_of(ANSWER) if part[1] == "<" else kinds[0]

@@ -34,6 +34,9 @@ SPANS = {
     "told": (1, 2),
 }
 
+# The form trees without form trees within them.
+LEAVES = {"number": True, "name": True, "fail": True}
+
 # What is left out of a form tree.
 LEFT_OUT = ("measure", "table", "names")
 
@@ -76,7 +79,8 @@ def form_parts(tree):
     while waiting:
         part = waiting.pop()
         found.append(part)
-        waiting.extend(form_parts_in(part)[::-1])
+        if part[0] not in LEAVES:
+            waiting.extend(form_parts_in(part)[::-1])
     return found
 
 
@@ -128,8 +132,9 @@ def form_sizes(tree):
     done = []
     for part in form_parts(tree)[::-1]:
         size = 1
-        for _ in form_parts_in(part):
-            size += done.pop()
+        if part[0] not in LEAVES:
+            for _ in form_parts_in(part):
+                size += done.pop()
         if isinstance(part[0], tuple):
             inner = sizes_of(parts_of(part[0]))
             size += inner[0]

@@ -1,5 +1,5 @@
 """Kinds as numbers, so that kinds that may be deep are compared by their numbers."""
-from widestkind.kindwalks import folded
+from widestkind.kindwalks import LEAVES, folded
 
 
 class KindNumbers:
@@ -16,6 +16,8 @@ class KindNumbers:
 
     def number_of(self, kind):
         """The number of a kind."""
+        if kind[0] in LEAVES:
+            return self.number_with(kind, [])
         return folded(kind, self.number_with)
 
     def number_with(self, kind, inner):

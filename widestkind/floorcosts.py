@@ -148,7 +148,7 @@ class Costs:
 
     def _values(self, direct):
         """The numbers of the forms, of which one may be found by another one that is a row of it but for no tokens."""
-        values = [min([direct[state - 1] + cost for state, cost in starts]) for starts in self.plan.starts]
+        values = [min([direct[state - 1] + more for state, more in starts]) for starts in self.plan.starts]
         changed = True
         while changed:
             changed = False

@@ -97,7 +97,7 @@ def both(whole):
 def in_order(trials, lots):
     """The list of lots as lists of places, those with fewer places first, then in ascending order."""
     rows = [trials.places_of(lot) for lot in lots]
-    return [row for _, row in sorted([(len(row), row) for row in rows])]
+    return [row for _, row in sorted([(len(one), one) for one in rows])]
 
 
 def refuters(whole):

@@ -154,7 +154,7 @@ class Shelf:
             lots.append(left)
             hits = met_too(hits, sum([1 << there.index(name) for name in left]))
             at = 0
-        cures = [[name for index, name in enumerate(there) if hit >> index & 1] for hit in hits]
+        cures = [[one for index, one in enumerate(there) if hit >> index & 1] for hit in hits]
         return lots, cures
 
     def lots(self):
@@ -168,4 +168,4 @@ class Shelf:
 
 def in_order(rows):
     """Ascending lists of names, those with fewer names first, then in ascending order."""
-    return [row for _, row in sorted([(len(row), row) for row in rows])]
+    return [row for _, row in sorted([(len(one), one) for one in rows])]

@@ -1,3 +1,5 @@
+import os
+import sys
 import unittest
 
 from widestkind.books import Book
@@ -6,10 +8,15 @@ from widestkind.fillings import common, told, told_all
 from widestkind.kinds import are_kinds, fill, kind_text, names_in, read_kind
 from widestkind.names import free
 from widestkind.reading import read
+from widestkind.shapes import is_row, parts_in, parts_of
 from widestkind.solving import fits, solution
+from widestkind.trees import show
 from widestkind.wanted import loose_places, may_stand, put_in, wanted
 from widestkind.wholes import Whole
 from widestkind.widest import widest
+
+sys.path.insert(0, os.path.dirname(os.path.abspath(__file__)))
+from plain_runs import BOOK as PLAIN, Draws  # noqa: E402
 
 BOOK = Book("kind tree 'a = Leaf | Node({left : tree('a), here : 'a})\nmacro both(e) = {a = e, b = e(1)}\n"
             "macro hide($x, e) = let $x = 1 in e\nmacro take($x, e) = fn $x -> fn y -> {p = e, q = $x}\n"
@@ -32,6 +39,32 @@ def with_own_names(kind, mark):
             new = "'" + mark + sort + str(index + 1)
             table[name] = {"k": ("name", new), "m": ((new, 1),)}.get(sort, ((), new))
     return fill(kind, table)
+
+
+def plain_scopes(tree):
+    """For each part the dict from the words bound there to whether they have one kind; None for rows and patterns."""
+    found = []
+
+    def go(part, scope):
+        found.append(scope)
+        if is_row(part):
+            found[-1] = None
+            found.extend([None for _ in parts_of(part[0])])
+            go(part[1], {**scope, **{one[1]: True for one in parts_of(part[0]) if one[0] == "bind"}})
+        elif part[0] == "fn":
+            go(part[2], {**scope, part[1]: True})
+        elif part[0] == "let":
+            go(part[2], scope)
+            go(part[3], {**scope, part[1]: False})
+        elif part[0] == "rec":
+            go(part[3], {**scope, part[1]: True, part[2]: True})
+            go(part[4], {**scope, part[1]: False})
+        else:
+            for one in parts_in(part):
+                go(one, scope)
+
+    go(tree, {})
+    return found
 
 
 def functions_of(names, tree):
@@ -148,6 +181,60 @@ class Wanted(unittest.TestCase):
             with self.assertRaises(BadName):
                 wanted(template, place, names=[word])
         self.assertEqual(texts(template, place), ["'a1 -> 'a2", "'a2"])
+
+    def test_names_of_a_rec_in_copies_within_it(self):
+        whole = Whole(BOOK, "rec g x = let w = fn y -> y in w(A) in g(1[m])")
+        due = ["'a1", "('a2 -> 'a3) -> 'a2 -> 'a4", "('a2 -> 'a3) -> 'a2 -> <A : {} | 'r1> -> 'a3",
+               "(num[m] -> 'a1) -> num[m] -> 'a5", "(num[m] -> 'a1) -> num[m] -> <A : {} | 'r2> -> 'a1"]
+        self.assertEqual(texts(whole, ("", 2), ["g", "x"]), due)
+        self.assertEqual(len(texts(whole, ("", 2), ["g"])), 5)
+        inner = Whole(BOOK, "rec g x = rec h y = let w = {p = g, q = h} in w.q in h in g")
+        number = [place[1] for place in inner.places() if inner.where(place) == "{p = g, q = h}"][0]
+        self.assertEqual(len(texts(inner, ("", number), ["g", "h", "x", "y"])), 1 + 8)
+        passed = Whole(BOOK, "rec g x = let w = @both(g(x)) in w.a in {p = g(1), q = g(A)}")
+        self.assertEqual(texts(passed, ("", 3), ["x", "g"])[0], "{p : 'a1, q : 'a2}")
+        ahead = Whole(BOOK, "rec g x = let w = x in w(w) in let v = g in v")
+        for place, names, wrong in [(("", 4), ["g", "w"], "w"), (("", 7), ["g"], "g"), (("", 4), ["x", "w", "g"], "w"), (("", 8), ["v"], "v")]:
+            with self.assertRaises(BadName) as caught:
+                wanted(ahead, place, names=names)
+            self.assertEqual(caught.exception.name, wrong)
+        with self.assertRaises(BadName) as caught:
+            wanted(Whole(BOOK, "rec g x = let w = @hide(g, x) in w in g"), ("", 4), names=["g"])
+        self.assertEqual(caught.exception.name, "g")
+        shadowing = Whole(Book("macro loop($x, e) = rec $x y = 1 in e"), "rec g x = let w = @loop(g, x) in w in g")
+        with self.assertRaises(BadName) as caught:
+            wanted(shadowing, ("", 4), names=["x", "g"])
+        self.assertEqual(caught.exception.name, "g")
+
+    def test_names_of_drawn_texts(self):
+        """Without macros, a name is refused just where its innermost binder around the place gives it many kinds."""
+        seen = {True: 0, False: 0}
+        draws = Draws(58)
+        for _ in range(80):
+            inner = draws.tree(3, ["f", "x"])
+            tree = ("rec", "f", "x", ("let", "w", inner, ("name", "w")), draws.tree(1, ["f"]))
+            self.check_names(Whole(Book(PLAIN), show(tree)), tree, seen)
+        self.assertGreater(min(seen.values()), 150)
+
+    def check_names(self, whole, tree, seen):
+        steps = parts_of(tree)
+        scopes = plain_scopes(tree)
+        for place in whole.places():
+            if place[0] != "" or any(part[0] == "macro" for part in steps) or scopes[place[1]] is None:
+                continue
+            for word in ["x", "f", "g"]:
+                may = scopes[place[1]].get(word, False)
+                try:
+                    found = wanted(whole, place, names=[word])
+                    seen[True] += 1
+                    self.assertTrue(may, (whole.text, place, word))
+                    self.assertTrue(all(kind[0] == "fn" for kind in found[1:]))
+                except BadName:
+                    seen[False] += 1
+                    self.assertFalse(may, (whole.text, place, word))
+                except NoKind:
+                    seen[True] += 1
+                    self.assertTrue(may, (whole.text, place, word))
 
     def test_order_of_exceptions(self):
         whole = Whole(BOOK, "{a = 1(2), b = fn x -> x}")

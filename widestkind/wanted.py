@@ -47,16 +47,14 @@ def is_fixed(tree, number, word):
 
 
 def is_fixed_at(whole, knot):
-    """Whether the binder of the name of a knot gives it one kind there."""
+    """Whether the binder of the name of a knot gives it one kind there.
+
+    A name that means a copy which was made for this very knot has a kind of its own.
+    """
     bound, what, _ = whole.target_of(knot)
     if what == "kind":
         return whole.part_of(bound)[0] == "bind"
-    if what == "bound":
-        return True
-    above = knot
-    while above is not None and above != bound:
-        above = whole.knot_above(above)
-    return above == bound
+    return whole.use_of(bound) != knot
 
 
 def asking_tree(names):

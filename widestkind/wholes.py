@@ -91,6 +91,10 @@ class Whole:
         """The part of a knot."""
         return self._knots[knot][2]
 
+    def use_of(self, knot):
+        """The knot of the use for which the copy with a knot was made, or None."""
+        return self._knots[knot][1]
+
     def is_in_pattern(self, knot):
         """Whether the part of a knot is a pattern."""
         return self._patterns[knot]

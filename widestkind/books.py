@@ -1,43 +1,57 @@
 """Books of own kinds, macros and definitions."""
+from widestkind.copies import Source
 from widestkind.errors import BadMacro, NoSuch, Unknown
-from widestkind.expanding import expand
+from widestkind.expanding import expand, has_calls
 from widestkind.groups import grouped
 from widestkind.kindwalks import folded, own_kinds_in
 from widestkind.lines import check_contents, check_template, check_unlike, read_line
-from widestkind.names import binder_marks, free_words
-from widestkind.shapes import parts_of
+from widestkind.reading import read
 
 
 class Book:
-    """The book with the lines of a text. It never changes."""
+    """The book with the lines of a text. It never changes.
+
+    The expansions of its definitions are worked out once, and kept with it; so is the tree of a text.
+    """
 
     def __init__(self, text=""):
         self._kinds = {}
         self._macros = {}
         self._definitions = {}
         self._tags = {}
-        given = text.split("\n") if text != "" else []
-        lines = []
-        for index, line in enumerate(given):
-            lines.append(self._take(read_line(line, index + 1)))
-        self._text = "\n".join(lines)
+        self._lines = []
+        self._text = ""
+        self._sources = {}
+        self._known_text = None
+        self._known_tree = None
+        if text != "":
+            for index, line in enumerate(text.split("\n")):
+                self._check(read_line(line, index + 1))
 
-    def _take(self, line):
-        """Takes in a line behind all others; returns its text."""
+    def _check(self, line):
+        """Takes in a line behind all others; raises what is wrong with it."""
         if line.head == "kind":
             check_unlike(line, self._kinds, self._tags)
             check_contents(line, {name: words for name, (words, _) in self._kinds.items()})
+        elif line.head == "macro":
+            check_unlike(line, self._macros, {})
+            check_template(line, self._macros)
+        else:
+            check_unlike(line, self._definitions, {})
+        self._put(line)
+
+    def _put(self, line):
+        """Takes in a line with which nothing is wrong."""
+        if line.head == "kind":
             self._kinds[line.name] = (line.words, line.made)
             for tag, kind in line.made:
                 self._tags[tag] = (line.name, line.words, kind)
         elif line.head == "macro":
-            check_unlike(line, self._macros, {})
-            check_template(line, self._macros)
             self._macros[line.name] = (line.words, line.made)
         else:
-            check_unlike(line, self._definitions, {})
             self._definitions[line.name] = line.made
-        return line.written()
+        self._text = self._text + "\n" + line.shown if self._lines else line.shown
+        self._lines.append(line)
 
     def __eq__(self, other):
         return isinstance(other, Book) and self._text == other._text
@@ -85,25 +99,83 @@ class Book:
             raise NoSuch(name)
         return self._definitions[name]
 
+    def defines(self, name):
+        """Whether there is a definition with a name."""
+        return name in self._definitions
+
+    def lines_read(self):
+        """The list of the Lines."""
+        return list(self._lines)
+
     def expanded_tree(self, tree, owner):
         """The expansion of a tree: the tree and the list of origins."""
         return expand(self._macros, tree, owner)
 
+    def source_of(self, name):
+        """The Source of the expansion of a definition."""
+        if name not in self._sources:
+            tree, origins = expand(self._macros, self.tree_of(name), name)
+            self._sources[name] = Source(tree, origins)
+        return self._sources[name]
+
     def expansion_of(self, name):
         """The expansion of a definition: the tree and the list of origins."""
-        return expand(self._macros, self.tree_of(name), name)
+        source = self.source_of(name)
+        return source.steps[0], list(source.origins)
 
     def uses(self, name):
         """The ascending list of the definitions that a definition uses."""
-        return sorted(self.used_in(self.expansion_of(name)[0]))
-
-    def used_in(self, tree):
-        """The list of the definitions that are free names in a tree."""
-        return [word for word in free_words(parts_of(tree), binder_marks(tree)) if word in self._definitions]
+        return sorted([word for word in self.source_of(name).strays if word in self._definitions])
 
     def groups(self):
         """The list of the groups of definitions, in ascending order."""
         return grouped({name: uses_or_none(self, name) for name in self._definitions})
+
+    def read_text(self, text):
+        """The tree of a text."""
+        if isinstance(text, str) and text == self._known_text:
+            return self._known_tree
+        return read(text)
+
+    def know_text(self, text, tree):
+        """Keeps the tree of a text, which is known where the text is written by `show`."""
+        self._known_text = text
+        self._known_tree = tree
+
+    def texts_of(self, sort):
+        """The list of the texts of the lines of a sort."""
+        return [line.shown for line in self._lines if line.head == sort]
+
+    def take_over(self, other):
+        """Keeps the expansions of definitions that are the same in another book."""
+        same = self.texts_of("macro") == other.texts_of("macro")
+        before = {line.name: line for line in other._lines if line.head == "def"}
+        for line in self._lines:
+            if line.head == "def" and line.name in other._sources and before[line.name].shown == line.shown:
+                if same or not has_calls(line.made):
+                    self._sources[line.name] = other._sources[line.name]
+
+    def with_trees(self, trees):
+        """The book with other trees in definitions and templates, as a dict from owners tells."""
+        found = Book()
+        for line in self._lines:
+            if line.home() not in trees:
+                found._put(line)
+            else:
+                found._check(line.with_tree(trees[line.home()]))
+        found.take_over(self)
+        return found
+
+
+def book_of(lines, first):
+    """The book of some lines, each a Line or a text that is still to be read; those ahead of `first` are right."""
+    book = Book()
+    for index, line in enumerate(lines):
+        if index < first:
+            book._put(line)
+        else:
+            book._check(read_line(line, index + 1) if isinstance(line, str) else line)
+    return book
 
 
 def uses_or_none(book, name):

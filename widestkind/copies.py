@@ -7,7 +7,7 @@ class Source:
     """An expanded tree, with the places that its parts come from, their sizes, and what binds the names in it.
 
     `inner` has the numbers of the parts within each part, `strays` the words that are not bound, and `tells` is whether
-    kinds are told.
+    kinds are told. `patterns` has True for the numbers of patterns, `matches` the matches of rows. It never changes.
     """
 
     def __init__(self, tree, origins):
@@ -18,6 +18,19 @@ class Source:
         self.marks = marks_in(self.steps, self.inner)
         self.strays = list(free_words(self.steps, self.marks))
         self.tells = any([part[0] == "told" for part in self.steps])
+        self.patterns = {}
+        self.matches = {}
+        for number, part in enumerate(self.steps):
+            if part[0] == "match":
+                self._note_rows(number)
+
+    def _note_rows(self, match):
+        """Notes the rows of a match, and their patterns."""
+        for row in self.inner[match][1:]:
+            self.matches[row] = match
+            pattern, tree = self.inner[row]
+            for number in range(pattern, tree):
+                self.patterns[number] = True
 
 
 class Copy:
@@ -57,18 +70,20 @@ class Copies:
     """All knots. For each one: its tuple, and the name of its source, the number of its part there, and its copy.
 
     `targets` has for the knot of each name the point of the same kind, and None for other knots. `rows` has the
-    stretches of sources, with their first knots, in their order.
+    stretches of sources, with their first knots, in their order. The sources named in `first` are put first, in one
+    copy; definitions that `groups` does not have are not copied, and their names have no target.
     """
 
-    def __init__(self, sources, groups):
+    def __init__(self, sources, groups, first):
         self.sources = sources
         self.grouping = groups
         self.found = []
         self.rows = []
         self.seats = []
         self.targets = []
-        text = Copy(None)
-        self._put(text, "", 0, len(sources[""].steps), None)
+        start = Copy(None)
+        for name in first:
+            self._put(start, name, 0, len(sources[name].steps), None)
         while len(self.targets) < len(self.found):
             knot = len(self.targets)
             self.targets.append(self._target(knot) if self.found[knot][2][0] == "name" else None)
@@ -107,9 +122,11 @@ class Copies:
         return (len(self.found) - source.sizes[binder + 1] - 1, "self", ())
 
     def _definition_target(self, knot, word, copy):
-        """The point of the tree of a definition, in the copy of its own group or in a new copy."""
+        """The point of the tree of a definition, in the copy of its own group or in a new copy; or None."""
         group = outermost(copy)
         if group.knot(word, 0) is None:
+            if word not in self.grouping:
+                return None
             group = Copy(None)
             for name in self.grouping[word]:
                 self._put(group, name, 0, len(self.sources[name].steps), knot)
@@ -121,5 +138,23 @@ class Copies:
         for name, begin, end, first in self.rows:
             offset = first - begin
             for numbers in self.sources[name].inner[begin:end]:
-                found.append(tuple([number + offset for number in numbers if number < end]))
+                found.append(tuple([number + offset for number in numbers if number < end]) if numbers else ())
+        return found
+
+    def pattern_knots(self):
+        """The dict of True for the knots of patterns."""
+        found = {}
+        for name, begin, end, first in self.rows:
+            for number in self.sources[name].patterns:
+                if begin <= number < end:
+                    found[number + first - begin] = True
+        return found
+
+    def match_knots(self):
+        """The dict from the knots of rows to those of their matches."""
+        found = {}
+        for name, begin, end, first in self.rows:
+            for row, match in self.sources[name].matches.items():
+                if begin <= row < end:
+                    found[row + first - begin] = match + first - begin
         return found

@@ -1,20 +1,8 @@
 """Wholes in which other trees stand at places of the text, of the definitions and of the templates."""
-from widestkind.books import Book
 from widestkind.errors import BadPlace
-from widestkind.lines import Line
-from widestkind.reading import read
 from widestkind.shapes import folded, is_row, numbers_within, parts_in, parts_of, rebuilt, sizes_of
 from widestkind.trees import text_of
 from widestkind.wholes import Whole, is_place_of
-
-
-def owner_tree(whole, owner):
-    """The tree of the text, of a definition or of a template, as it is written."""
-    if owner == "":
-        return read(whole.text)
-    if owner[0] == "@":
-        return whole.book.template_of(owner[1:])[1]
-    return whole.book.tree_of(owner)
 
 
 def pattern_numbers(tree):
@@ -32,14 +20,9 @@ def pattern_numbers(tree):
     return found
 
 
-def is_tree_place(whole, place):
-    """Whether a tree stands at a place of a whole, and no row or pattern."""
-    return place[1] not in pattern_numbers(owner_tree(whole, place[0]))
-
-
 def check_tree_place(whole, place):
     """Raises BadPlace unless any value is a place of a whole at which a tree stands."""
-    if not is_place_of(whole, place) or not is_tree_place(whole, place):
+    if not is_place_of(whole, place) or not whole.has_tree_at(place):
         raise BadPlace(place)
 
 
@@ -58,35 +41,12 @@ def tree_with_all(tree, table):
     return folded(tree, changed)
 
 
-def owner_of_line(line):
-    """The owner of the parts in a line of a book, or None for a line of an own kind."""
-    sort, name = line.split(" ")[:2]
-    if sort == "def":
-        return name
-    if sort == "macro":
-        return "@" + name.split("(")[0]
-    return None
-
-
-def changed_book(book, trees):
-    """The book with other trees in definitions and templates, as a dict from owners tells."""
-    lines = []
-    for line in str(book).split("\n"):
-        owner = owner_of_line(line) if line != "" else None
-        if owner is None or owner not in trees:
-            lines.append(line)
-        elif owner[0] == "@":
-            words, _ = book.template_of(owner[1:])
-            lines.append(Line("macro", owner[1:], words, trees[owner]).written())
-        else:
-            lines.append(Line("def", owner, (), trees[owner]).written())
-    return Book("\n".join(lines))
-
-
 def changed_whole(whole, trees):
     """The whole with other trees in the text, in definitions and in templates, as a dict from owners tells."""
     book = whole.book
     if [owner for owner in trees if owner != ""]:
-        book = changed_book(book, trees)
-    text = text_of(trees[""]) if "" in trees else whole.text
+        book = book.with_trees(trees)
+    tree = trees.get("", whole.tree_read())
+    text = text_of(tree) if "" in trees else whole.text
+    book.know_text(text, tree)
     return Whole(book, text)

@@ -24,6 +24,11 @@ def first_bad_call(tree, macros):
     return None
 
 
+def has_calls(tree):
+    """Whether a tree calls macros."""
+    return any([part[0] == "macro" for part in parts_of(tree)])
+
+
 class Writer:
     """The text, or one call of a macro: what it writes, and what was passed to it.
 

@@ -48,7 +48,7 @@ def groups_in_order(whole):
     while waiting:
         ready = []
         for group in waiting:
-            needed = [other for name in group for other in whole.book.used_in(whole.steps_of(name)[0])]
+            needed = [other for name in group for other in whole.book.uses(name)]
             if not any([other not in placed and other not in group for other in needed]):
                 ready.append(group)
         for group in ready:

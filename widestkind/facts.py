@@ -167,9 +167,9 @@ OF_TREES = {
 }
 
 
-def of_tag(whole, part, point, inner):
+def of_tag(knots, part, point, inner):
     """The facts of a tag or of a tag pattern."""
-    ours = whole.book.kind_of(part[1])
+    ours = knots.book.kind_of(part[1])
     if ours is None:
         return [("head", point, "variant"), ("in", point, part[1]), ("same", behind(point, part[1]), inner[0])]
     name, words, content = ours
@@ -177,41 +177,52 @@ def of_tag(whole, part, point, inner):
     return [("head", point, name)] + is_as(inner[0], content, names)
 
 
-def of_row(whole, knot, inner):
+def of_row(knots, knot, inner):
     """The facts of a row: what is matched is as the pattern, and the match as the tree."""
-    match = whole.knot_above(knot)
-    matched = whole.knots_within(match)[0]
+    match = knots.match_of(knot)
+    matched = knots.knots_within(match)[0]
     return [("same", kind_point(matched), inner[0]), ("same", kind_point(match), inner[1])]
 
 
-def of_match(whole, part, knot):
+def of_match(knots, part, knot):
     """The closings of a match, each at the first pattern that has a tag there."""
-    rows = whole.knots_within(knot)[1:]
+    rows = knots.knots_within(knot)[1:]
     found = []
-    for _, tags, index, number in closings(whole.book, part[2]):
+    for _, tags, index, number in closings(knots.book, part[2]):
         point = kind_point(rows[index] + 1 + number)
         found.extend([("head", point, "variant"), ("only", point, tags)])
     return found
 
 
-def facts_of(whole, knot):
-    """The list of the facts of a knot that is there."""
-    part = whole.part_of(knot)
+def of_name(knots, point):
+    """The facts of a name; one that means a definition that is not copied is as its kind."""
+    target = knots.target_of(point[0])
+    if target is not None:
+        return [("same", point, target)]
+    kind = knots.kind_used(point[0])
+    if kind is None:
+        return []
+    return is_as(point, kind, {name: (point[0], name, ()) for name in first_uses([kind])})
+
+
+def facts_of(knots, knot):
+    """The list of the facts of a knot of some Knots."""
+    part = knots.part_of(knot)
     head = part[0]
-    if head == "name":
-        return [("same", (knot, "kind", ()), whole.target_of(knot))]
     point = (knot, "kind", ())
-    inner = whole.points_within(knot)
+    if head == "name":
+        return of_name(knots, point)
+    inner = knots.points_within(knot)
     if head == "tag":
-        return of_tag(whole, part, point, inner)
-    if head == "record" and whole.is_in_pattern(knot):
+        return of_tag(knots, part, point, inner)
+    if head == "record" and knots.is_in_pattern(knot):
         return of_record_pattern(part, point, inner)
     if head in OF_TREES:
         tell = OF_TREES[head]
         return tell(part, point, inner)
     if head == "match":
-        return of_match(whole, part, knot)
-    return of_row(whole, knot, inner) if is_row(part) else []
+        return of_match(knots, part, knot)
+    return of_row(knots, knot, inner) if is_row(part) else []
 
 
 def is_knot_of(whole, value):
@@ -223,4 +234,4 @@ def facts(whole, knot):
     """The list of the facts of a knot, in the order in which they are told."""
     if not is_knot_of(whole, knot):
         raise BadKnot(knot)
-    return facts_of(whole, knot)
+    return facts_of(whole.laid(), knot)

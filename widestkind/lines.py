@@ -12,9 +12,9 @@ MOST = {"kind": 3, "macro": 4, "def": 0}
 
 
 class Line:
-    """A line: its sort, its name, its parameters, and its constructors or its tree.
+    """A line: its sort, its name, its parameters, and its constructors or its tree. It never changes.
 
-    `made` is a tuple of tuples of a tag and a content for an own kind, and a tree otherwise.
+    `made` is a tuple of tuples of a tag and a content for an own kind, and a tree otherwise. `shown` is its text.
     """
 
     def __init__(self, sort, name, words, made):
@@ -22,6 +22,17 @@ class Line:
         self.name = name
         self.words = words
         self.made = made
+        self.shown = self.written()
+
+    def home(self):
+        """The owner of the parts of the line, or None for an own kind."""
+        if self.head == "kind":
+            return None
+        return self.name if self.head == "def" else "@" + self.name
+
+    def with_tree(self, tree):
+        """The line with another tree."""
+        return Line(self.head, self.name, self.words, tree)
 
     def written(self):
         """The text of the line, with single spaces."""

@@ -82,7 +82,7 @@ class Facts:
         if not is_knot_of(self.whole, knot):
             return None
         if knot not in self.known:
-            self.known[knot] = facts_of(self.whole, knot)
+            self.known[knot] = facts_of(self.whole.laid(), knot)
         if index >= len(self.known[knot]) or self.known[knot][index][0] != head:
             return None
         return self.known[knot][index]

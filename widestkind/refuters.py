@@ -1,6 +1,6 @@
 """The least lots of places that do not fit together, and the least lots that have to be changed."""
 from widestkind.errors import BadPlace, BadWeight, TooMany
-from widestkind.exchanges import changed_whole, check_tree_place, owner_tree, tree_with_all
+from widestkind.exchanges import changed_whole, check_tree_place, tree_with_all
 from widestkind.hittings import cheapest_hit, met_too
 from widestkind.paperjudge import is_paper
 from widestkind.papers import clash, paper_places
@@ -245,5 +245,5 @@ def failed(whole, lot, *, word="cut"):
     for place in lot:
         check_tree_place(whole, place)
         tables.setdefault(place[0], {})[place[1]] = ("fail", word)
-    trees = {owner: tree_with_all(owner_tree(whole, owner), table) for owner, table in tables.items()}
+    trees = {owner: tree_with_all(whole.tree_at(owner), table) for owner, table in tables.items()}
     return changed_whole(whole, trees)

@@ -1,6 +1,6 @@
 """Runs of texts, and texts in other units."""
 from widestkind.errors import BadBudget, BadUnits, TooMany
-from widestkind.exchanges import changed_whole, owner_of_line, owner_tree, tree_with_all
+from widestkind.exchanges import changed_whole, tree_with_all
 from widestkind.machine import Machine
 from widestkind.names import plain_text
 from widestkind.numberforms import form_of, is_number_form, number_of
@@ -105,7 +105,7 @@ def forms_in(tree):
 
 def owners_of(book):
     """The list of `""`, for the text, and of the owners of the parts in the lines of a book, in their order."""
-    owners = [owner_of_line(line) for line in str(book).split("\n") if line != ""]
+    owners = [line.home() for line in book.lines_read()]
     return ["", *[owner for owner in owners if owner is not None]]
 
 
@@ -115,7 +115,7 @@ def in_units(whole, units):
     trees = {}
     count = 0
     for owner in owners_of(whole.book):
-        tree = owner_tree(whole, owner)
+        tree = whole.tree_at(owner)
         table = {}
         for number, form in forms_in(tree):
             changed = changed_form(form, units)

@@ -156,7 +156,7 @@ def is_solution_of(whole, value):
         return False
     judge = Judge(whole, value, keys)
     for knot in range(whole.many()):
-        for fact in facts_of(whole, knot):
+        for fact in facts_of(whole.laid(), knot):
             if not judge.is_true(fact):
                 return False
     return True

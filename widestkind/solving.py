@@ -28,7 +28,7 @@ def joined(whole, knots):
     """The Joins of the facts of knots, up to the first fact that cannot be true with those ahead of it."""
     joins = Joins()
     for knot in knots:
-        joins.tell(knot, facts_of(whole, knot))
+        joins.tell(knot, facts_of(whole.laid(), knot))
         if joins.wrong is not None:
             return joins
     return joins

@@ -17,7 +17,7 @@ class Trials:
         self.facts = []
         for knot, (place, use, _) in enumerate(whole.knots()):
             self.needs.append(self.bits[place] | (0 if use is None else self.needs[use]))
-            self.facts.append(facts_of(whole, knot))
+            self.facts.append(facts_of(whole.laid(), knot))
         self.asked = {}
 
     def all_bits(self):

@@ -1,6 +1,6 @@
 """What may stand at the places of a whole."""
 from widestkind.errors import BadName, BadTree, NoKind
-from widestkind.exchanges import changed_whole, check_tree_place, is_tree_place, owner_tree, tree_with
+from widestkind.exchanges import changed_whole, check_tree_place, tree_with
 from widestkind.facts import kind_point
 from widestkind.fillings import told_all
 from widestkind.names import scopes_in
@@ -14,7 +14,7 @@ HOLE = ("fail", "hole")
 def whole_with(whole, place, tree):
     """The whole in which a tree stands at a place."""
     owner, number = place
-    return changed_whole(whole, {owner: tree_with(owner_tree(whole, owner), number, tree)})
+    return changed_whole(whole, {owner: tree_with(whole.tree_at(owner), number, tree)})
 
 
 def put_in(whole, place, tree):
@@ -76,7 +76,7 @@ def name_knots(whole, spot):
 
 def asking_whole(whole, place, names):
     """The whole with a hole at a place, beside which names stand; raises BadName with the first name that may not."""
-    tree = owner_tree(whole, place[0])
+    tree = whole.tree_at(place[0])
     fixed = []
     for name in names:
         if not is_fixed(tree, place[1], name):
@@ -123,4 +123,4 @@ def loose_places(whole):
     """The ascending list of the places at which any tree may stand that has a kind and no free names."""
     if not fits(whole):
         raise NoKind()
-    return [place for place in whole.places() if is_tree_place(whole, place) and is_loose(whole, place)]
+    return [place for place in whole.places() if whole.has_tree_at(place) and is_loose(whole, place)]

@@ -24,7 +24,7 @@ def clash(whole, places=None):
     if places is None:
         joins, measures = settled(whole)
     else:
-        joins = joined(whole, knots_at(whole, places))
+        joins = joined(whole.laid(), knots_at(whole, places))
         measures = measures_of(joins)
     if measures is not None:
         return None

@@ -1,13 +1,12 @@
 """What hangs on what in a book: the verdicts of definitions, and the readings by which they can change."""
-from widestkind.books import first_unknown
-from widestkind.errors import NoKind
-from widestkind.expanding import first_bad_call
+from widestkind.errors import BadMacro
+from widestkind.expanding import has_calls
+from widestkind.groundkinds import group_kinds
 from widestkind.kinds import kind_text
 from widestkind.kindwalks import kinds_of, own_kinds_in
-from widestkind.names import binder_numbers, plain_text
+from widestkind.names import plain_text
 from widestkind.shapes import parts_of
-from widestkind.widest import widest
-from widestkind.wholes import Whole
+from widestkind.wholes import first_wrong_name
 
 PARTS = ("tree", "group", "tags", "kinds", "uses")
 
@@ -45,89 +44,101 @@ def own_kind_texts(book, names):
     return found
 
 
-class Group:
-    """A group of definitions of a book: its trees, and its macro that cannot be expanded or None."""
+class Entry:
+    """What the line of a definition and the macros tell of it.
 
-    def __init__(self, book, names):
-        self.book = book
-        self.members = names
-        macros = {name: book.template_of(name) for name in book.macros()}
-        bad = [first_bad_call(book.tree_of(name), macros) for name in names]
-        self.macro = ([name for name in bad if name is not None] + [None])[0]
-        if self.macro is None:
-            self.trees = [book.expansion_of(name)[0] for name in names]
-        else:
-            self.trees = [book.tree_of(name) for name in names]
+    `macro` is that of the first call that cannot be expanded, or None; `source` is then None.
+    """
 
-    def parts_with_binders(self):
-        """The list of the tuples of each part of the trees, in their order, and of what binds it."""
-        found = []
-        for tree in self.trees:
-            found.extend(list(zip(parts_of(tree), binder_numbers(tree))))
-        return found
+    def __init__(self, book, line):
+        self.line = line
+        self.macro = None
+        self.source = None
+        try:
+            self.source = book.source_of(line.name)
+        except BadMacro as refused:
+            self.macro = refused.name
+        self._plain = None
+
+    def plain_tree(self):
+        """The text of the expanded tree with plain names, or of the tree as it is if it cannot be expanded."""
+        if self._plain is None:
+            self._plain = plain_text(self.line.made if self.source is None else self.source.steps[0])
+        return self._plain
+
+    def parts_told(self):
+        """The parts of this tree."""
+        return parts_of(self.line.made) if self.source is None else self.source.steps
 
     def free_names(self):
-        """The list of the names that are not bound in the trees, each once, in their order."""
-        found = {}
-        for part, binder in self.parts_with_binders():
-            if part[0] == "name" and binder is None:
-                found[part[1]] = True
-        return list(found)
+        """The list of the names that are not bound, each once, in order; none if it cannot be expanded."""
+        return [] if self.source is None else self.source.strays
 
-    def first_unknown_name(self):
-        """The first name that stands for nothing, or own kind that is not told, or None."""
-        defined = self.book.definitions()
-        for part, binder in self.parts_with_binders():
-            wrong = None
-            if part[0] == "name" and binder is None and part[1] not in defined:
-                wrong = part[1]
-            elif part[0] == "told":
-                wrong = first_unknown(self.book, part[2])
-            if wrong is not None:
-                return wrong
-        return None
+    def unknown_name(self, book):
+        """The first name that stands for nothing in a book, or own kind that it does not tell; or None."""
+        return None if self.source is None else first_wrong_name(self.source, book)
 
-    def used_outside(self):
-        """The list of the names that are used and are no definition of the group; none if it cannot be expanded."""
-        if self.macro is not None:
+
+class Group:
+    """A group of definitions of a book: their names and Entries. `outside` are the names that it uses outside of it."""
+
+    def __init__(self, book, names, entries):
+        self.book = book
+        self.members = names
+        self.entries = entries
+        self.macro = ([entry.macro for entry in entries if entry.macro is not None] + [None])[0]
+        words = {}
+        for entry in entries:
+            for word in entry.free_names():
+                words[word] = True
+        self.outside = [word for word in words if word not in names]
+        self._tags = None
+        self._owns = None
+
+    def plain_texts(self):
+        """The texts of the trees, with plain names, and the macro that cannot be expanded or None."""
+        return self.macro, [entry.plain_tree() for entry in self.entries]
+
+    def tags(self):
+        """The dict from the tags in the trees to their own kinds, or None for those that have none."""
+        if self._tags is None:
+            self._tags = {}
+            for tag in [tag for entry in self.entries for part in entry.parts_told() for tag in tags_of(part)]:
+                ours = self.book.kind_of(tag)
+                self._tags[tag] = None if ours is None else ours[0]
+        return self._tags
+
+    def own_kinds(self):
+        """What is told of the own kinds that the trees name, or of which they have tags, and of those in these."""
+        if self._owns is None:
+            named = [name for entry in self.entries for part in entry.parts_told() for name in told_kinds(part)]
+            named.extend([name for name in self.tags().values() if name is not None])
+            self._owns = own_kind_texts(self.book, named)
+        return self._owns
+
+    def changes(self, other):
+        """The list of what is another thing than in another group, but for what is used."""
+        if self == other:
             return []
-        return [name for name in self.free_names() if name not in self.members]
+        mine = (self.plain_texts(), self.members, self.tags(), self.own_kinds())
+        theirs = (other.plain_texts(), other.members, other.tags(), other.own_kinds())
+        return [word for word, one, two in zip(PARTS, mine, theirs) if one != two]
 
-    def reading(self, verdicts):
-        """The tuple of the five things of the reading, where the verdicts of the definitions that are used are told."""
-        parts = [part for tree in self.trees for part in parts_of(tree)]
-        tags = {}
-        named = [name for part in parts for name in told_kinds(part)]
-        for tag in [tag for part in parts for tag in tags_of(part)]:
-            ours = self.book.kind_of(tag)
-            tags[tag] = None if ours is None else ours[0]
-            if ours is not None:
-                named.append(ours[0])
-        texts = (self.macro, [plain_text(tree) for tree in self.trees])
-        uses = {name: verdict_text(verdicts.get(name)) for name in self.used_outside()}
-        return texts, self.members, tags, own_kind_texts(self.book, named), uses
-
-    def verdict(self, name, verdicts):
-        """The verdict of a definition of the group, where those of the definitions that are used are told."""
+    def verdicts(self, book, told):
+        """The dict from the definitions of the group to their verdicts in a book, where those of others are told."""
         if self.macro is not None:
-            return ("macro", self.macro)
-        unknown = self.first_unknown_name()
-        if unknown is not None:
-            return ("unknown", unknown)
-        for used in self.used_outside():
-            if verdicts[used][0] != "kind":
-                return ("leans", used)
-        try:
-            return ("kind", widest(Whole(self.book, name)))
-        except NoKind:
-            return ("clash",)
-
-
-def verdict_text(verdict):
-    """What a reading tells of a definition with a verdict: whether it is there, and the text of its kind."""
-    if verdict is None:
-        return "gone"
-    return "there" if verdict[0] != "kind" else "kind " + kind_text(verdict[1])
+            return {name: ("macro", self.macro) for name in self.members}
+        for entry in self.entries:
+            unknown = entry.unknown_name(book)
+            if unknown is not None:
+                return {name: ("unknown", unknown) for name in self.members}
+        for used in self.outside:
+            if told[used][0] != "kind":
+                return {name: ("leans", used) for name in self.members}
+        kinds = group_kinds(book, self.members, {used: told[used][1] for used in self.outside})
+        if kinds is None:
+            return {name: ("clash",) for name in self.members}
+        return {name: ("kind", kinds[name]) for name in self.members}
 
 
 def in_turn(groups):
@@ -139,7 +150,7 @@ def in_turn(groups):
     while left:
         waiting = []
         for group in left:
-            if [name for name in group.used_outside() if name in homes and name not in done]:
+            if [name for name in group.outside if name in homes and name not in done]:
                 waiting.append(group)
                 continue
             found.append(group)
@@ -152,39 +163,83 @@ def in_turn(groups):
 class State:
     """The lines of a shelf with their book, and the readings and the verdicts of all definitions.
 
-    Where a reading is the one of an earlier state, the verdict is the one that it had there.
+    Where a reading is the one of an earlier state, the verdict is the one that it had there. By definitions: `entries`,
+    `group_of`; `told`, the verdicts, and `shown`, what readings tell of those; and `used`, this of all that is used.
     """
 
     def __init__(self, book, lines, earlier=None):
         self.book = book
         self.rows = lines
-        self.readings = {}
+        self.entries = {}
+        self.group_of = {}
         self.told = {}
-        for group in in_turn([Group(book, names) for names in book.groups()]):
-            reading = group.reading(self.told)
-            for name in group.members:
-                self.readings[name] = reading
-            for name in group.members:
-                if earlier is not None and earlier.readings.get(name) == reading:
-                    self.told[name] = earlier.told[name]
-                else:
-                    self.told[name] = group.verdict(name, self.told)
+        self.shown = {}
+        self.used = {}
+        self.lots_kept = None
+        if earlier is not None:
+            book.take_over(earlier.book)
+        self._put_entries(earlier)
+        self._put_groups(earlier)
+        for group in in_turn([group for name, group in self.group_of.items() if group.members[0] == name]):
+            self._settle(group, earlier)
+
+    def _put_entries(self, earlier):
+        """Puts in the Entries; one that tells the same as an earlier one is that one."""
+        same = earlier is not None and self.book.texts_of("macro") == earlier.book.texts_of("macro")
+        for line in self.book.lines_read():
+            if line.head != "def":
+                continue
+            before = None if earlier is None else earlier.entries.get(line.name)
+            if before is not None and before.line.shown == line.shown and (same or not has_calls(line.made)):
+                self.entries[line.name] = before
+            else:
+                self.entries[line.name] = Entry(self.book, line)
+
+    def _put_groups(self, earlier):
+        """Puts in the Groups; one of the same Entries and own kinds as an earlier one is that one."""
+        same = earlier is not None and self.book.texts_of("kind") == earlier.book.texts_of("kind")
+        for names in self.book.groups():
+            entries = [self.entries[name] for name in names]
+            group = earlier.group_of.get(names[0]) if same else None
+            if group is None or group.entries != entries:
+                group = Group(self.book, names, entries)
+            for name in names:
+                self.group_of[name] = group
+
+    def _settle(self, group, earlier):
+        """Tells the verdicts of a group, behind those of all that it uses."""
+        uses = {word: self.shown.get(word, "gone") for word in group.outside}
+        for name in group.members:
+            self.used[name] = uses
+        new = []
+        for name in group.members:
+            if earlier is not None and name in earlier.told and not self.changes_since(earlier, name):
+                self.told[name] = earlier.told[name]
+                self.shown[name] = earlier.shown[name]
+            else:
+                new.append(name)
+        if new:
+            found = group.verdicts(self.book, self.told)
+            for name in new:
+                self.told[name] = found[name]
+                self.shown[name] = verdict_text(found[name])
+
+    def changes_since(self, earlier, name):
+        """The list of what is another thing in the reading of a definition than in an earlier state."""
+        found = self.group_of[name].changes(earlier.group_of[name])
+        if self.used[name] != earlier.used[name]:
+            found.append("uses")
+        return found
 
     def has_kind(self, name):
-        """Whether a definition has a kind."""
+        """Whether a definition is there and has a kind."""
         return name in self.told and self.told[name][0] == "kind"
 
     def looked_since(self, earlier):
-        """The dict from the definitions that a deed looks at, ascending, to what is another thing in their readings."""
+        """The dict from the definitions that are looked at to what was another thing in their readings."""
         found = {}
-        for name in sorted(self.readings):
-            if name not in earlier.readings:
-                found[name] = ["new"]
-                continue
-            changed = []
-            for word, one, other in zip(PARTS, self.readings[name], earlier.readings[name]):
-                if one != other:
-                    changed.append(word)
+        for name in sorted(self.told):
+            changed = self.changes_since(earlier, name) if name in earlier.told else ["new"]
             if changed:
                 found[name] = changed
         return found
@@ -197,3 +252,8 @@ class State:
         """The ascending list of the definitions that were there without a kind, and have one."""
         there = [name for name in sorted(self.told) if name in earlier.told]
         return [name for name in there if self.has_kind(name) and not earlier.has_kind(name)]
+
+
+def verdict_text(verdict):
+    """What a reading tells of a definition with a verdict: whether it has a kind, and the text of this."""
+    return "there" if verdict[0] != "kind" else "kind " + kind_text(verdict[1])

@@ -1,12 +1,11 @@
 """A shelf keeps the lines of a book, and looks anew only at what leans on a change."""
-from widestkind.books import Book
-from widestkind.demands import copies_of, demanded, failing, stand_together
+from widestkind.books import Book, book_of
+from widestkind.demands import Demands, is_enough
 from widestkind.errors import BadKind, BadName, NoSuch, NothingToRedo, NothingToUndo, TooMany
-from widestkind.fillings import common
-from widestkind.hittings import met_too
 from widestkind.kinds import is_kind
+from widestkind.lots import Lots
 from widestkind.readings import State
-from widestkind.shelflines import lines_of, lines_with, place_of
+from widestkind.shelflines import place_for, place_of, sorted_rows
 from widestkind.words import is_plain_word
 
 MOST_DEFINITIONS = 8
@@ -16,9 +15,12 @@ class Shelf:
     """The lines of a book, with all deeds that can be taken back or done again."""
 
     def __init__(self, text=""):
-        Book(text)
-        lines = lines_of(text)
-        self._states = [State(Book("\n".join(lines)), lines)]
+        book = Book(text)
+        texts = text.split("\n") if text != "" else []
+        rows, lines = sorted_rows(texts, book.lines_read())
+        if rows != texts:
+            book = book_of(lines, len(lines))
+        self._states = [State(book, rows)]
         self._at = 0
         self._before = self._states[0]
 
@@ -37,9 +39,20 @@ class Shelf:
         """The ascending list of the names of the definitions."""
         return sorted(self.as_book().definitions())
 
-    def _state_with(self, lines):
-        """The state with other lines; raises what the book of these lines raises."""
-        return State(Book("\n".join(lines)), lines, self._now())
+    def _state_with(self, first, behind, texts):
+        """The state with other texts in the place of the lines from one index up to another one.
+
+        It raises what the book of the lines as they are then raises.
+        """
+        rows = self._now().rows
+        lines = self.as_book().lines_read()
+        book = book_of([*lines[:first], *texts, *lines[behind:]], first)
+        return State(book, [*rows[:first], *texts, *rows[behind:]], self._now())
+
+    def _state_put(self, line):
+        """The state behind putting in a line."""
+        first, behind = place_for(self.as_book().lines_read(), line)
+        return self._state_with(first, behind, [line])
 
     def _do(self, state):
         """Does a deed that leads to a state."""
@@ -49,15 +62,14 @@ class Shelf:
 
     def put(self, line):
         """Puts in a line, in the place of the one of the same sort and name if there is one."""
-        self._do(self._state_with(lines_with(self.lines(), line)))
+        self._do(self._state_put(line))
 
     def take(self, sort, name):
         """Takes out the line of a sort with a name."""
-        lines = self.lines()
-        index = place_of(lines, sort, name)
+        index = place_of(self.as_book().lines_read(), sort, name)
         if index is None:
             raise NoSuch(name)
-        self._do(self._state_with([*lines[:index], *lines[index + 1:]]))
+        self._do(self._state_with(index, index + 1, []))
 
     def verdict(self, name):
         """What is told of a definition: its kind, or why it has none."""
@@ -98,16 +110,16 @@ class Shelf:
     def trial(self, line):
         """What `looked`, `broke` and `healed` would tell behind putting in a line."""
         before = self._now()
-        state = self._state_with(lines_with(self.lines(), line))
+        state = self._state_put(line)
         return state.looked_since(before), state.broken_since(before), state.healed_since(before)
 
     def demand(self, user, name):
         """The list of the kind of a definition and of those that it asks of a name, or None if it has no kind."""
-        if user == name or user not in self.as_book().definitions():
+        if user == name or not self.as_book().defines(user):
             raise NoSuch(user)
         if not is_plain_word(name):
             raise BadName(name)
-        return demanded(Book("\n".join(failing(self.lines(), [name]))), user, name)
+        return Demands(self._now(), name).demand(user)
 
     def would_fit(self, name, kind):
         """The ascending list of the other definitions for which it is enough that a name has a kind."""
@@ -115,57 +127,33 @@ class Shelf:
             raise BadName(name)
         if not is_kind(kind):
             raise BadKind(kind)
-        found = []
-        for user in self.names():
-            asked = self.demand(user, name) if user != name else None
-            if asked is not None and common(asked[1:], copies_of(kind, len(asked) - 1)) is not None:
-                found.append(user)
-        return found
+        demands = Demands(self._now(), name)
+        return [user for user in self.names() if user != name and is_enough(demands.demand(user), kind)]
+
+    def _lots(self):
+        """The Lots of the definitions."""
+        state = self._now()
+        if state.lots_kept is None:
+            state.lots_kept = Lots(state)
+        return state.lots_kept
 
     def stands(self, names):
         """Whether all definitions of a list have kinds where all others are faults."""
-        there = self.names()
         for name in names:
-            if name not in there:
+            if not self.as_book().defines(name):
                 raise NoSuch(name)
-        return stand_together(self.lines(), there, names)
+        return self._lots().clash_in(self._lots().lot(names)) is None
 
     def _lots_and_cures(self):
-        """The lists of all lots and of all cures.
-
-        The least sets that meet the lots that are known are the cures if all others stand in each case; otherwise a
-        further lot lies among these.
-        """
-        there = self.names()
-        if len(there) > MOST_DEFINITIONS:
-            raise TooMany(len(there))
-        lots = []
-        hits = [0]
-        at = 0
-        while at < len(hits):
-            left = [name for index, name in enumerate(there) if not hits[at] >> index & 1]
-            if self.stands(left):
-                at += 1
-                continue
-            for name in there:
-                less = [one for one in left if one != name]
-                if len(less) < len(left) and not self.stands(less):
-                    left = less
-            lots.append(left)
-            hits = met_too(hits, sum([1 << there.index(name) for name in left]))
-            at = 0
-        cures = [[one for index, one in enumerate(there) if hit >> index & 1] for hit in hits]
-        return lots, cures
+        """The lists of all lots and of all cures."""
+        if len(self.names()) > MOST_DEFINITIONS:
+            raise TooMany(len(self.names()))
+        return self._lots().lots_and_cures()
 
     def lots(self):
         """The list of all lots: the least sets of definitions that do not stand."""
-        return in_order(self._lots_and_cures()[0])
+        return [list(lot) for lot in self._lots_and_cures()[0]]
 
     def cures(self):
         """The list of all cures: the least sets of definitions without which the others stand."""
-        return in_order(self._lots_and_cures()[1])
-
-
-def in_order(rows):
-    """Ascending lists of names, those with fewer names first, then in ascending order."""
-    return [row for _, row in sorted([(len(one), one) for one in rows])]
+        return [list(cure) for cure in self._lots_and_cures()[1]]

@@ -24,11 +24,11 @@ def knots_at(whole, places):
     return [knot for knot in range(whole.many()) if told[knot]]
 
 
-def joined(whole, knots):
-    """The Joins of the facts of knots, up to the first fact that cannot be true with those ahead of it."""
+def joined(knots, chosen):
+    """The Joins of the facts of some of Knots, up to the first fact that cannot be true with those ahead of it."""
     joins = Joins()
-    for knot in knots:
-        joins.tell(knot, facts_of(whole.laid(), knot))
+    for knot in chosen:
+        joins.tell(knot, facts_of(knots, knot))
         if joins.wrong is not None:
             return joins
     return joins
@@ -57,7 +57,7 @@ def settled(whole):
     found = whole.kept("settled")
     if found is not None:
         return found
-    joins = joined(whole, knots_at(whole, None))
+    joins = joined(whole.laid(), knots_at(whole, None))
     return whole.keep("settled", (joins, measures_of(joins)))
 
 
@@ -77,7 +77,7 @@ def fits(whole, places=None):
     """Whether places fit together, all of them for None."""
     if places is None:
         return settled(whole)[1] is not None
-    return measures_of(joined(whole, knots_at(whole, places))) is not None
+    return measures_of(joined(whole.laid(), knots_at(whole, places))) is not None
 
 
 def kept_solution(whole):

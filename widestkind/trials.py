@@ -1,10 +1,10 @@
 """Whether lots of places of a whole fit together, asked many times. A lot is an integer with a bit for each place."""
 from widestkind.facts import facts_of
+from widestkind.facttables import FactTable
 from widestkind.joins import Joins
 from widestkind.paperjudge import told_facts
 from widestkind.papers import paper_end
 from widestkind.proofs import Proof
-from widestkind.solving import measures_of
 
 
 class Trials:
@@ -15,10 +15,13 @@ class Trials:
         self.bits = {place: 1 << index for index, place in enumerate(self.spots)}
         self.needs = []
         self.facts = []
-        for knot, (place, use, _) in enumerate(whole.knots()):
+        knots = whole.laid()
+        for knot, (place, use, _) in enumerate(knots.rows):
             self.needs.append(self.bits[place] | (0 if use is None else self.needs[use]))
-            self.facts.append(facts_of(whole.laid(), knot))
+            self.facts.append(facts_of(knots, knot))
+        self.table = FactTable(self.facts)
         self.asked = {}
+        self.clashes = {}
 
     def all_bits(self):
         """The lot of all places."""
@@ -35,32 +38,31 @@ class Trials:
         """The ascending list of the places of a lot."""
         return [place for place in self.spots if lot & self.bits[place]]
 
-    def _joins(self, lot):
-        joins = Joins()
-        for knot, needs in enumerate(self.needs):
-            if needs & lot == needs:
-                joins.tell(knot, self.facts[knot])
-                if joins.wrong is not None:
-                    return joins
-        return joins
-
-    def clash_in(self, lot):
-        """The lot of the places of a clash within a lot, or None if the lot fits."""
-        if lot not in self.asked:
-            joins = self._joins(lot)
-            self.asked[lot] = None
-            if measures_of(joins) is None:
-                proof = Proof(joins)
-                end = paper_end(proof)
-                told = 0
-                for knot, _ in told_facts((proof.found, end)):
-                    told |= self.needs[knot]
-                self.asked[lot] = told
-        return self.asked[lot]
+    def _knots(self, lot):
+        """The list of the knots whose facts a lot tells."""
+        return [knot for knot, needs in enumerate(self.needs) if needs & lot == needs]
 
     def fits(self, lot):
         """Whether a lot fits."""
-        return self.clash_in(lot) is None
+        if lot not in self.asked:
+            self.asked[lot] = self.table.fits(self._knots(lot))
+        return self.asked[lot]
+
+    def clash_in(self, lot):
+        """The lot of the places of a clash within a lot that does not fit."""
+        if lot not in self.clashes:
+            joins = Joins()
+            for knot in self._knots(lot):
+                joins.tell(knot, self.facts[knot])
+                if joins.wrong is not None:
+                    break
+            proof = Proof(joins)
+            end = paper_end(proof)
+            told = 0
+            for knot, _ in told_facts((proof.found, end)):
+                told |= self.needs[knot]
+            self.clashes[lot] = told
+        return self.clashes[lot]
 
     def refuter_in(self, lot):
         """What is left of a lot that does not fit if places are left out that are not needed, the greatest first."""
@@ -69,7 +71,7 @@ class Trials:
             bit = self.bits[place]
             if lot & bit and not clash & bit:
                 lot -= bit
-            elif lot & bit and self.clash_in(lot - bit) is not None:
+            elif lot & bit and not self.fits(lot - bit):
                 lot -= bit
                 clash = self.clash_in(lot)
         return lot

@@ -3,11 +3,9 @@
 Names that are bound in a state have numbers, and definitions have none: so values, which have only definitions as
 free names, are put in the place of names without being caught.
 """
-from widestkind.exchanges import pattern_numbers
-from widestkind.names import bound_words, with_plain_names
-from widestkind.numberforms import is_number_form
-from widestkind.shapes import is_row, numbers_within, parts_in, parts_of, rebuilt, sizes_of
-from widestkind.words import is_plain_word
+from widestkind.names import words_for_binders
+from widestkind.numberforms import ZERO, is_number_form
+from widestkind.shapes import is_row, parts_of, rebuilt
 
 # The indexes of the parts that are worked out ahead of a part.
 WORKED = {
@@ -23,18 +21,22 @@ WORKED = {
 
 
 class Cell:
-    """A tree or a row of a state; of a row only its tree is a cell.
+    """A tree or a row of a state; of a row only its tree is a cell. It never changes.
 
-    `shell` is a part with the same words, `source` its place, and `inner` are the cells directly within it. `ready`
-    tells whether it is a value. `loose` has the words with numbers that stand in it, but are not bound in it.
+    `shell` is a part with the same words, `source` its place, and `inner` are the cells directly within it. `bound` has
+    for each of these the words that the part binds in it, and is empty if it binds none. `ready` tells whether it is
+    a value. `loose` has the words with numbers that stand in it, but are not bound in it. `texts` has texts of it
+    that are known, or is None.
     """
 
-    def __init__(self, shell, source, inner):
+    def __init__(self, shell, source, inner, bound, loose):
         self.shell = shell
         self.source = source
         self.inner = inner
+        self.bound = bound
+        self.loose = loose
         self.ready = is_ready(shell, inner)
-        self.loose = loose_words(shell, inner)
+        self.texts = None
 
 
 def number_tree(cell):
@@ -46,64 +48,83 @@ def number_tree(cell):
     return (cell.shell[0], cell.shell[1], *[number_tree(one) for one in cell.inner])
 
 
+def is_ready_op(sign, inner):
+    """Whether an operation on cells is the form of a number."""
+    if sign == "-" and inner[0].shell != ZERO or sign not in ("-", "/"):
+        return False
+    trees = [number_tree(one) for one in inner]
+    return trees[0] is not None and trees[1] is not None and is_number_form(("op", sign, trees[0], trees[1]))
+
+
 def is_ready(shell, inner):
     """Whether a part with cells within it is a value."""
-    if is_row(shell):
-        return False
     head = shell[0]
+    if head == "fn":
+        return True
     if head == "number":
         return is_number_form(shell)
     if head == "op":
-        trees = [number_tree(one) for one in inner]
-        return None not in trees and is_number_form((shell[0], shell[1], trees[0], trees[1]))
+        return is_ready_op(shell[1], inner)
     if head == "rec":
         return inner[1].shell == ("name", shell[1])
-    return head == "fn" or head in ("record", "tag") and all([one.ready for one in inner])
+    if head not in ("record", "tag"):
+        return False
+    for one in inner:
+        if not one.ready:
+            return False
+    return True
 
 
-def words_of_row(row):
-    """The words that the pattern of a row binds."""
-    return [part[1] for part in parts_of(row[0]) if part[0] == "bind"]
-
-
-def caught(shell, at):
-    """The words that a part binds in the part directly within it with an index."""
+def bound_in(shell):
+    """The tuple of the tuples of the words that a part binds in the cells within it; empty if it binds none."""
     if is_row(shell):
-        return words_of_row(shell)
-    if shell[0] == "let" and at == 0:
-        return []
-    if shell[0] == "rec" and at == 1:
-        return [shell[1]]
-    return bound_words(shell)
+        words = tuple([part[1] for part in parts_of(shell[0]) if part[0] == "bind"])
+        return (words,) if words else ()
+    if shell[0] == "fn":
+        return ((shell[1],),)
+    if shell[0] == "let":
+        return ((), (shell[1],))
+    return ((shell[1], shell[2]), (shell[1],)) if shell[0] == "rec" else ()
 
 
-def loose_words(shell, inner):
+def loose_words(shell, inner, bound):
     """The dict of True for the words with numbers that stand in a part and are not bound in it."""
-    if not is_row(shell) and shell[0] == "name":
-        return {} if is_plain_word(shell[1]) else {shell[1]: True}
-    found = {}
+    if not inner:
+        return {shell[1]: True} if shell[0] == "name" and not "a" <= shell[1][-1] <= "z" else {}
+    found = None
     for at, cell in enumerate(inner):
-        if cell.loose:
-            bound = caught(shell, at)
-            for word in cell.loose:
-                if word not in bound:
-                    found[word] = True
-    return found
+        loose = cell.loose
+        if loose and bound and bound[at]:
+            loose = {word: True for word in loose if word not in bound[at]}
+        if loose:
+            found = loose if found is None else {**found, **loose}
+    return {} if found is None else found
 
 
-def cell_of(tree, places):
-    """The cell of a tree of which the places are told, in which names that are bound get numbers."""
-    steps = parts_of(with_plain_names(tree))
-    sizes = sizes_of(steps)
-    patterns = pattern_numbers(tree)
-    cells = {}
-    for number in list(range(len(steps)))[::-1]:
-        part = steps[number]
-        if number not in patterns or is_row(part):
-            within = numbers_within(number, len(parts_in(part)), sizes)
-            inner = [cells[one] for one in within if one in cells]
-            cells[number] = Cell(part, places[number], tuple(inner))
-    return cells[0]
+def cell_of(source):
+    """The cell of the tree of a Source, in which names that are bound get numbers.
+
+    The parts within a shell keep their words, but those of patterns, which are no cells.
+    """
+    words = words_for_binders(source.steps, source.marks)
+    made = {}
+    for number in list(range(len(source.steps)))[::-1]:
+        part = source.steps[number]
+        mark = source.marks[number]
+        if number in words:
+            part = (part[0], *words[number], *part[1 + len(words[number]):])
+        if mark is not None:
+            part = ("name", words[mark[0]][mark[1]])
+        inner = [made.pop(one) for one in source.inner[number]]
+        if number in source.patterns:
+            made[number] = rebuilt(part, inner) if inner else part
+            continue
+        if number in source.matches:
+            part = (inner[0], part[1])
+            inner = inner[1:]
+        bound = bound_in(part)
+        made[number] = Cell(part, source.origins[number], tuple(inner), bound, loose_words(part, inner, bound))
+    return made[0]
 
 
 def folded_cell(cell, combine):
@@ -133,38 +154,74 @@ def tree_of_cell(cell):
     return folded_cell(cell, combined)
 
 
+def has_some(loose, values):
+    """Whether some of the words that stand in a cell are those of values."""
+    for word in loose:
+        if word in values:
+            return True
+    return False
+
+
+def values_left(values, words):
+    """The values whose words are none of those that are bound."""
+    if not has_some(words, values):
+        return values
+    return {word: value for word, value in values.items() if word not in words}
+
+
+def put_within(cell, values, todo):
+    """The cells within a cell, with values in the place of words; and which of them are still to be made.
+
+    These are put into `todo` with their values, and told as tuples of the index among the cells within, and of that
+    in `todo`.
+    """
+    found = []
+    later = []
+    for at, inner in enumerate(cell.inner):
+        if inner.loose:
+            left = values_left(values, cell.bound[at]) if cell.bound else values
+            if inner.shell[0] == "name":
+                inner = left.get(inner.shell[1], inner)
+            elif has_some(inner.loose, left):
+                later.append((at, len(todo)))
+                todo.append((inner, left))
+        found.append(inner)
+    return found, later
+
+
 def put_for(cell, table):
-    """The cell with values in the place of words, as a dict tells."""
-    done = []
-    waiting = [(cell, table, False)]
-    while waiting:
-        one, values, ready = waiting.pop()
-        if not any([word in values for word in one.loose]):
-            done.append(one)
-        elif one.shell[0] == "name":
-            done.append(values[one.shell[1]])
-        elif ready:
-            first = len(done) - len(one.inner)
-            made = Cell(one.shell, one.source, tuple(done[first:]))
-            del done[first:]
-            done.append(made)
-        else:
-            waiting.append((one, values, True))
-            for at in list(range(len(one.inner)))[::-1]:
-                bound = caught(one.shell, at)
-                left = {word: value for word, value in values.items() if word not in bound}
-                waiting.append((one.inner[at], left, False))
-    return done[0]
+    """The cell with values, in which no words are loose, in the place of words, as a dict tells."""
+    if not has_some(cell.loose, table):
+        return cell
+    if cell.shell[0] == "name":
+        return table[cell.shell[1]]
+    todo = [(cell, table)]
+    within = []
+    while len(within) < len(todo):
+        one, values = todo[len(within)]
+        within.append(put_within(one, values, todo))
+    made = [None for _ in todo]
+    number = len(todo)
+    while number > 0:
+        number -= 1
+        one, values = todo[number]
+        inner, later = within[number]
+        for at, index in later:
+            inner[at] = made[index]
+        loose = {word: True for word in one.loose if word not in values}
+        made[number] = Cell(one.shell, one.source, tuple(inner), one.bound, loose)
+    return made[0]
 
 
 def next_worked(cell):
     """The index of the first cell within a cell that is to be worked out ahead of it, or None."""
+    worked = WORKED.get(cell.shell[0], ())
     for at, inner in enumerate(cell.inner):
-        if not inner.ready and (cell.shell[0] == "record" or at in WORKED.get(cell.shell[0], ())):
+        if not inner.ready and (at in worked or cell.shell[0] == "record"):
             return at
     return None
 
 
 def with_inner(cell, at, other):
-    """The cell with another one in the place of the one with an index within it."""
-    return Cell(cell.shell, cell.source, (*cell.inner[:at], other, *cell.inner[at + 1:]))
+    """The cell, in which no words are loose, with another one in the place of the one with an index within it."""
+    return Cell(cell.shell, cell.source, (*cell.inner[:at], other, *cell.inner[at + 1:]), cell.bound, {})

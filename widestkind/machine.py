@@ -1,5 +1,5 @@
 """Runs of texts, step by step."""
-from widestkind.cells import Cell, cell_of, next_worked, number_tree, put_for, tree_of_cell, with_inner
+from widestkind.cells import Cell, cell_of, next_worked, number_tree, put_for, with_inner
 from widestkind.numberforms import ZERO, form_of, number_of, worked_out
 from widestkind.shapes import parts_in
 
@@ -8,7 +8,9 @@ EMPTY = ("record", ())
 
 def whole_cell(tree, source):
     """The cell of a tree all of whose parts come from one place."""
-    return Cell(tree, source, tuple([whole_cell(inner, source) for inner in parts_in(tree)]))
+    if tree[0] == "number":
+        return Cell(tree, source, (), (), {})
+    return Cell(tree, source, tuple([whole_cell(inner, source) for inner in parts_in(tree)]), (), {})
 
 
 def fitting(pattern, cell):
@@ -53,16 +55,15 @@ class Machine:
         self.calls = budget
         self.defined = {}
         self.around = []
-        tree = whole.tree()
-        self.focus = cell_of(tree, [place for place, _, _ in whole.knots()])
+        self.focus = cell_of(whole.source_of_text())
         self.end = None
 
     def state(self):
-        """The tree of the state."""
+        """The cell of the state."""
         cell = self.focus
         for above, at in self.around[::-1]:
             cell = with_inner(above, at, cell)
-        return tree_of_cell(cell)
+        return cell
 
     def go_on(self):
         """Goes to the part that changes next, and changes it, unless the run ends there."""
@@ -97,7 +98,8 @@ class Machine:
             self.focus = put_for(cell.inner[1], {cell.shell[1]: cell.inner[0]})
         elif head == "rec":
             name = ("name", cell.shell[1])
-            value = Cell((*cell.shell[:4], name), cell.source, (cell.inner[0], Cell(name, cell.source, ())))
+            inner = (cell.inner[0], Cell(name, cell.source, (), (), {cell.shell[1]: True}))
+            value = Cell((*cell.shell[:4], name), cell.source, inner, cell.bound, {})
             self.focus = put_for(cell.inner[1], {cell.shell[1]: value})
         elif head == "told":
             self.focus = cell.inner[0]
@@ -119,8 +121,7 @@ class Machine:
     def _definition(self, name):
         """The cell of a definition."""
         if name not in self.defined:
-            tree, places = self.book.expansion_of(name)
-            self.defined[name] = cell_of(tree, places)
+            self.defined[name] = cell_of(self.book.source_of(name))
         return self.defined[name]
 
     def _stick(self, word):
@@ -161,11 +162,11 @@ class Machine:
             self.focus = whole_cell(form, self.focus.source)
 
     def _step_op(self, cell):
-        trees = [number_tree(inner) for inner in cell.inner]
-        if None in trees:
+        first, second = [number_tree(inner) for inner in cell.inner]
+        if first is None or second is None:
             self._stick("stuck")
             return
-        one, other = [number_of(tree) for tree in trees]
+        one, other = number_of(first), number_of(second)
         sign = cell.shell[1]
         if sign == "/" and other[0] == 0:
             self.end = ("fault", "zero")

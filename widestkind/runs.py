@@ -1,4 +1,5 @@
 """Runs of texts, and texts in other units."""
+from widestkind.cells import tree_of_cell
 from widestkind.errors import BadBudget, BadUnits, TooMany
 from widestkind.exchanges import changed_whole, tree_with_all
 from widestkind.machine import Machine
@@ -6,6 +7,7 @@ from widestkind.names import plain_text
 from widestkind.numberforms import form_of, is_number_form, number_of
 from widestkind.ratios import Ratio, terms
 from widestkind.shapes import folded, parts_of, rebuilt, sizes_of
+from widestkind.statetexts import Writer
 from widestkind.words import is_integer, is_word
 
 MOST_CALLS = 100
@@ -49,7 +51,7 @@ def run(whole, budget):
     while machine.end is None:
         machine.go_on()
     if machine.end[0] == "done":
-        return ("done", plain_text(in_order(machine.state())))
+        return ("done", plain_text(in_order(tree_of_cell(machine.state()))))
     return machine.end
 
 
@@ -57,9 +59,10 @@ def states(whole, budget):
     """The list of the texts of all states of a run with so many calls."""
     check_budget(budget)
     machine = Machine(whole, budget)
+    writer = Writer()
     found = []
     while machine.end is None:
-        found.append(plain_text(machine.state()))
+        found.append(writer.write(machine.state()))
         machine.go_on()
     return found
 

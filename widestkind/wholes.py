@@ -42,6 +42,10 @@ class Whole:
         """The text's tree, as it is written."""
         return self._read
 
+    def source_of_text(self):
+        """The Source of the text."""
+        return self._sources[""]
+
     def steps_of(self, name):
         """The parts of the expansion of the text, for `""`, or of a definition that is used."""
         return list(self._sources[name].steps)

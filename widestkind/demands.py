@@ -60,7 +60,7 @@ class Demands:
                 return None
         if user not in sources:
             return [known[user]]
-        groups = grouped({other: [word for word in self.web[other] if word in sources] for other in sources})
+        groups = grouped({one: [word for word in self.web[one] if word in sources] for one in sources})
         first = [group for group in groups if user in group][0]
         knots = Knots(self.now.book, sources, groups, first, known)
         asked = [roots_of(sources, first)[user]]

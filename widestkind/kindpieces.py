@@ -74,20 +74,15 @@ def make_constructor(items, begin, end, notes):
     return Piece((items[0].part, kind), begin, end)
 
 
-MAKERS = {
-    "owner": make_owner,
-    "constructor": make_constructor,
-    "measure": make_measure,
-    "num": make_num,
-    "name": make_name,
-    "fn": make_fn,
-    "own": make_own,
-    "record": make_record,
-    "variant": make_variant,
+# By the symbols of the grammar.
+KIND_MAKERS = {
+    "?owner": make_owner,
+    "?constructor": make_constructor,
+    "?measure": make_measure,
+    "?num": make_num,
+    "?name": make_name,
+    "?fn": make_fn,
+    "?own": make_own,
+    "?record": make_record,
+    "?variant": make_variant,
 }
-
-
-def kind_piece(word, items, begin, end, notes):
-    """The piece with a name in the grammar, made of the pieces in it."""
-    maker = MAKERS[word]
-    return maker(items, begin, end, notes)

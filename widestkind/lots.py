@@ -54,7 +54,7 @@ class Lots:
         for name in names:
             if not self.right[name]:
                 return self.bits[name]
-        uses = {name: [word for word in self.web[name] if lot & self.bits[word]] for name in names}
+        uses = {one: [word for word in self.web[one] if lot & self.bits[word]] for one in names}
         kinds = {}
         for group in behind_uses(grouped(uses), uses):
             within = self.lot(list(reached(uses, group)))

@@ -2,11 +2,11 @@
 from widestkind.errors import BadName, BadText, Twice
 from widestkind.formgrammar import form_row_of
 from widestkind.formpieces import form_piece
-from widestkind.grammar import KEPT, ROWS, default_row, sort_of, takes
-from widestkind.kindpieces import kind_piece
+from widestkind.grammar import KEPT, ROWS, default_row, takes
+from widestkind.kindpieces import KIND_MAKERS
 from widestkind.pieces import Notes, Piece
 from widestkind.signs import cut
-from widestkind.treepieces import tree_piece
+from widestkind.treepieces import TREE_MAKERS
 
 # How many pieces are taken for a part that is known to go on only behind its first pieces.
 TAKEN = {"!op": 3, "!call": 2, "!field": 2, "?fn": 2, "~kind": 1, "~measure": 1, "~row": 1}
@@ -20,12 +20,10 @@ class Reader:
 
     def __init__(self, text):
         self.template = False
-        self.tokens, wrong = cut(text)
-        if wrong is None:
-            self.tokens.append(("", len(text)))
-        else:
-            self.tokens.append(("?", wrong))
-        self.sorts = [sort_of(token) for token, _ in self.tokens]
+        self.tokens, self.sorts, wrong = cut(text)
+        last = ("", len(text)) if wrong is None else ("?", wrong)
+        self.tokens.append(last)
+        self.sorts.append(last[0])
         self.at = 0
         self.pieces = []
         self.marks = []
@@ -33,41 +31,47 @@ class Reader:
 
     def take_in(self, form):
         """Reads a form, and goes behind it."""
+        tokens, sorts, pieces = self.tokens, self.sorts, self.pieces
         at = 0
         end = 0
         waiting = [form]
         while waiting:
             symbol = waiting.pop()
-            token, begin = self.tokens[at]
             if symbol.isupper():
-                row = self._row(symbol, at)
+                row = ROWS.get((symbol, sorts[at]))
+                if row is None:
+                    row = self._row(symbol, at)
                 waiting.extend(row[::-1])
-            elif symbol == token and symbol not in KEPT:
+                continue
+            token, begin = tokens[at]
+            if symbol in KEPT:
+                if symbol != sorts[at] and not takes(symbol, token, self.template):
+                    raise BadText(begin)
+                at += 1
+                end = begin + len(token)
+                pieces.append(Piece(token, begin, end))
+            elif symbol == token:
                 at += 1
                 end = begin + len(token)
             elif symbol == "#":
-                self.marks.append((len(self.pieces), begin))
-            elif symbol[0] in ("!", "?", "~"):
+                self.marks.append((len(pieces), begin))
+            elif symbol[0] in "!?~":
                 self._make(symbol, end)
             else:
                 if symbol[0] == "#":
-                    symbol = self._leaf(symbol, token, begin)
+                    self._leaf(symbol, token, begin)
                 elif not takes(symbol, token, self.template):
                     raise BadText(begin)
                 at += 1
                 end = begin + len(token)
-                if symbol in KEPT:
-                    self.pieces.append(Piece(token, begin, end))
         self.at = at
 
     def _row(self, form, at):
-        """The row with which a form goes on at the token with an index."""
+        """The row with which a form goes on at the token with an index, if it has none of its own for its sort."""
         if form[0] == "&":
             row = self._row_by_token(form[1:], at)
         else:
-            row = ROWS.get((form, self.sorts[at]))
-            if row is None:
-                row = default_row(form)
+            row = default_row(form)
             if row is None:
                 row = form_row_of(form, self.sorts[at])
         if row is None:
@@ -82,26 +86,27 @@ class Reader:
         return form_row_of(form, token if form != "COUNT" or token == "0" else self.sorts[at])
 
     def _leaf(self, symbol, token, begin):
-        """Puts the piece of a part that is but a token; returns the symbol."""
+        """Puts the piece of a part that is but a token."""
         if token[0] == "$" and not self.template:
             raise BadText(begin)
         part = ("any",) if symbol == "#any" else (symbol[1:], token)
         self.pieces.append(Piece(part, begin, begin + len(token)))
-        return symbol
 
     def _make(self, symbol, end):
         """Puts a new piece in the place of those in it."""
+        pieces = self.pieces
         if symbol in TAKEN:
-            first = len(self.pieces) - TAKEN[symbol]
-            begin = self.pieces[first].start
+            first = len(pieces) - TAKEN[symbol]
+            begin = pieces[first].start
         else:
             first, begin = self.marks.pop()
-        items = self.pieces[first:]
-        del self.pieces[first:]
-        make = kind_piece
-        if symbol[0] != "?":
-            make = tree_piece if symbol[0] == "!" else form_piece
-        self.pieces.append(make(symbol[1:], items, begin, end, self.notes))
+        items = pieces[first:]
+        del pieces[first:]
+        if symbol[0] == "~":
+            pieces.append(form_piece(symbol[1:], items, begin, end, self.notes))
+            return
+        make = TREE_MAKERS[symbol] if symbol[0] == "!" else KIND_MAKERS[symbol]
+        pieces.append(make(items, begin, end, self.notes))
 
     def finish(self):
         """Raises what is wrong with the words and names of the text."""

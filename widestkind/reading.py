@@ -7,7 +7,7 @@ from widestkind.signs import cut
 
 def tokens(text):
     """The list of the tuples of the tokens of a text and of the indexes at which they begin."""
-    found, wrong = cut(text)
+    found, _, wrong = cut(text)
     if wrong is not None:
         raise BadText(wrong)
     return found

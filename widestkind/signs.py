@@ -35,8 +35,12 @@ def token_end(text, begin, sort):
 
 
 def cut(text):
-    """The list of the tuples `(token, begin)` of a text up to the first wrong sign; and its index, or None."""
+    """The list of the tuples `(token, begin)` of a text up to the first wrong sign, their sorts, and its index or None.
+
+    The sorts are those by which a row of the grammar is chosen.
+    """
     found = []
+    sorts = []
     close = False
     at = 0
     while at < len(text):
@@ -48,15 +52,18 @@ def cut(text):
             sort = SORTS[sign]
             end = token_end(text, at, sort)
             if end == at or close and sort not in ("'", "$"):
-                return found, at
-            found.append((text[at:end], at))
+                return found, sorts, at
+            token = text[at:end]
+            found.append((token, at))
+            sorts.append(token if token in OWN_WORDS else sort)
             close = True
             at = end
         elif sign in SIGNS:
             token = "->" if sign == "-" and text[at + 1:at + 2] == ">" else sign
             found.append((token, at))
+            sorts.append(token)
             close = False
             at += len(token)
         else:
-            return found, at
-    return found, None
+            return found, sorts, at
+    return found, sorts, None

@@ -9,7 +9,7 @@ from widestkind.trees import part_text
 def pattern_text(pattern, words):
     """The text of a pattern with other words in the place of those that it binds, as a dict tells."""
     def text_in(part, number, texts):
-        return words[part[1]] if part[0] == "bind" else part_text(part, number, texts)
+        return words[part[1]] if part[0] == "bind" else part_text(part, texts)
 
     return folded(pattern, text_in)
 
@@ -37,7 +37,7 @@ def cell_text(cell, new, texts):
     words = words_bound(cell)
     if words:
         part = (part[0], *[new[word] for word in words], *part[1 + len(words):])
-    return part_text(part, 0, texts)
+    return part_text(part, texts)
 
 
 class Writer:
@@ -62,7 +62,7 @@ class Writer:
             if made is not None:
                 self._leave(cell, made)
             elif not cell.inner:
-                self.done.append(names[cell.shell[1]] if cell.loose else part_text(cell.shell, 0, []))
+                self.done.append(names[cell.shell[1]] if cell.loose else part_text(cell.shell, []))
             else:
                 self._enter(cell, names)
         return self.done[0]

@@ -102,30 +102,25 @@ def make_bind(items, begin, end, notes):
     return Piece(("bind", items[0].part), begin, end)
 
 
-MAKERS = {
-    "fn": make_fn,
-    "let": make_let,
-    "rec": make_rec,
-    "op": make_op,
-    "call": make_call,
-    "field": make_field,
-    "name": make_name,
-    "number": make_number,
-    "inner": make_inner,
-    "told": make_told,
-    "record": make_record,
-    "with": make_with,
-    "tag": make_tag,
-    "match": make_match,
-    "row": make_row,
-    "fail": make_fail,
-    "macro": make_macro,
-    "any": make_any,
-    "bind": make_bind,
+# By the symbols of the grammar.
+TREE_MAKERS = {
+    "!fn": make_fn,
+    "!let": make_let,
+    "!rec": make_rec,
+    "!op": make_op,
+    "!call": make_call,
+    "!field": make_field,
+    "!name": make_name,
+    "!number": make_number,
+    "!inner": make_inner,
+    "!told": make_told,
+    "!record": make_record,
+    "!with": make_with,
+    "!tag": make_tag,
+    "!match": make_match,
+    "!row": make_row,
+    "!fail": make_fail,
+    "!macro": make_macro,
+    "!any": make_any,
+    "!bind": make_bind,
 }
-
-
-def tree_piece(word, items, begin, end, notes):
-    """The piece with a name in the grammar, made of the pieces in it."""
-    maker = MAKERS[word]
-    return maker(items, begin, end, notes)

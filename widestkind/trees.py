@@ -3,7 +3,7 @@ from widestkind.errors import BadTree
 from widestkind.kinds import is_kind, kind_text
 from widestkind.measures import is_measure, measure_text
 from widestkind.powers import is_name
-from widestkind.shapes import PATTERNS, TREES, folded, is_row, parts_in, parts_of
+from widestkind.shapes import LEAVES, PATTERNS, TREES, is_row, parts_in, parts_of
 from widestkind.words import is_integer, is_plain_word, is_tag, is_word
 
 SIGNS = ("+", "-", "*", "/", "<")
@@ -137,80 +137,127 @@ def text_at(tree, text, least):
     return text if closeness(tree) >= least else "(" + text + ")"
 
 
-def called_text(tree, text):
-    """The text of what is called: behind a tag that stands alone a bracket would belong to the tag."""
-    if tree[0] == "tag" and tree[2] == EMPTY:
-        return "(" + text + ")"
-    return text_at(tree, text, 4)
-
-
-def entries_text(entries, texts):
-    """The text of the entries of a record or of a record pattern."""
-    return "{" + ", ".join([entry[0] + " = " + text for entry, text in zip(entries, texts)]) + "}"
-
-
-def number_text(number, measure):
+def number_text(part, texts):
     """The text of a number with its measure, if one is written."""
-    return str(number) if measure is None else str(number) + "[" + measure_text(measure) + "]"
+    return str(part[1]) if part[2] is None else str(part[1]) + "[" + measure_text(part[2]) + "]"
 
 
-def op_text(tree, texts):
-    """The text of two trees with a sign between them."""
-    close = closeness(tree)
-    left = text_at(tree[2], texts[0], 2 if tree[1] == "<" else close)
-    return left + " " + tree[1] + " " + text_at(tree[3], texts[1], close + 1)
-
-
-def binder_text(tree, texts):
-    """The text of an `fn`, a `let` or a `rec`."""
-    if tree[0] == "fn":
-        return "fn " + tree[1] + " -> " + texts[0]
-    words = tree[1] if tree[0] == "let" else tree[1] + " " + tree[2]
-    return tree[0] + " " + words + " = " + texts[0] + " in " + texts[1]
-
-
-def short_text(part):
-    """The text of a part that has no parts within it."""
-    if part[0] == "number":
-        return number_text(part[1], part[2])
-    if part[0] == "fail":
-        return "fail " + part[1]
-    if part[0] == "any":
-        return "_"
+def word_text(part, texts):
+    """The text of a name or of a pattern that is one."""
     return part[1]
 
 
-def part_text(part, number, texts):
+def any_text(part, texts):
+    """The text of the pattern that fits everything."""
+    return "_"
+
+
+def fail_text(part, texts):
+    """The text of a fault."""
+    return "fail " + part[1]
+
+
+def fn_text(part, texts):
+    """The text of a function."""
+    return "fn " + part[1] + " -> " + texts[0]
+
+
+def let_text(part, texts):
+    """The text of a `let`."""
+    return "let " + part[1] + " = " + texts[0] + " in " + texts[1]
+
+
+def rec_text(part, texts):
+    """The text of a `rec`."""
+    return "rec " + part[1] + " " + part[2] + " = " + texts[0] + " in " + texts[1]
+
+
+def op_text(part, texts):
+    """The text of two trees with a sign between them."""
+    close = OP_CLOSENESS[part[1]]
+    left = text_at(part[2], texts[0], 2 if part[1] == "<" else close)
+    return left + " " + part[1] + " " + text_at(part[3], texts[1], close + 1)
+
+
+def call_text(part, texts):
+    """The text of a call: behind a tag that stands alone a bracket would belong to the tag."""
+    called = part[1]
+    if called[0] == "tag" and called[2] == EMPTY:
+        return "(" + texts[0] + ")(" + texts[1] + ")"
+    return text_at(called, texts[0], 4) + "(" + texts[1] + ")"
+
+
+def field_text(part, texts):
+    """The text of an entry of a record."""
+    return text_at(part[1], texts[0], 4) + "." + part[2]
+
+
+def record_text(part, texts):
+    """The text of a record or of a record pattern."""
+    return "{" + ", ".join([entry[0] + " = " + text for entry, text in zip(part[1], texts)]) + "}"
+
+
+def with_text(part, texts):
+    """The text of a record with another entry."""
+    return "{" + texts[0] + " with " + part[2] + " = " + texts[1] + "}"
+
+
+def tag_text(part, texts):
+    """The text of a tag or of a tag pattern."""
+    return part[1] if part[2] == EMPTY else part[1] + "(" + texts[0] + ")"
+
+
+def match_text(part, texts):
+    """The text of a match."""
+    return "match " + texts[0] + " {" + "; ".join(texts[1:]) + "}"
+
+
+def told_text(part, texts):
+    """The text of a tree whose kind is told."""
+    return "(" + texts[0] + " : " + kind_text(part[2]) + ")"
+
+
+def macro_text(part, texts):
+    """The text of a call of a macro."""
+    return "@" + part[1] + "(" + ", ".join(texts) + ")"
+
+
+TEXTS = {
+    "number": number_text,
+    "name": word_text,
+    "fail": fail_text,
+    "fn": fn_text,
+    "call": call_text,
+    "let": let_text,
+    "rec": rec_text,
+    "record": record_text,
+    "with": with_text,
+    "field": field_text,
+    "tag": tag_text,
+    "match": match_text,
+    "op": op_text,
+    "told": told_text,
+    "macro": macro_text,
+    "any": any_text,
+    "bind": word_text,
+}
+
+
+def part_text(part, texts):
     """The text of a part, of which the texts of the parts directly within it are told."""
     if is_row(part):
         return texts[0] + " -> " + texts[1]
-    head = part[0]
-    if head in ("fn", "let", "rec"):
-        return binder_text(part, texts)
-    if head == "op":
-        return op_text(part, texts)
-    if head == "call":
-        return called_text(part[1], texts[0]) + "(" + texts[1] + ")"
-    if head == "field":
-        return text_at(part[1], texts[0], 4) + "." + part[2]
-    if head == "record":
-        return entries_text(part[1], texts)
-    if head == "with":
-        return "{" + texts[0] + " with " + part[2] + " = " + texts[1] + "}"
-    if head == "tag":
-        return part[1] if part[2] == EMPTY else part[1] + "(" + texts[0] + ")"
-    if head == "match":
-        return "match " + texts[0] + " {" + "; ".join(texts[1:]) + "}"
-    if head == "told":
-        return "(" + texts[0] + " : " + kind_text(part[2]) + ")"
-    if head == "macro":
-        return "@" + part[1] + "(" + ", ".join(texts) + ")"
-    return short_text(part)
+    write = TEXTS[part[0]]
+    return write(part, texts)
 
 
 def text_of(part):
     """The text of a tree, of a row, of a pattern or of a template."""
-    return folded(part, part_text)
+    done = []
+    for one in parts_of(part)[::-1]:
+        texts = [] if one[0] in LEAVES else [done.pop() for _ in parts_in(one)]
+        done.append(part_text(one, texts))
+    return done[0]
 
 
 def show(tree):

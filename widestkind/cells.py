@@ -162,49 +162,42 @@ def has_some(loose, values):
     return False
 
 
-def values_left(values, words):
-    """The values whose words are none of those that are bound."""
-    if not has_some(words, values):
-        return values
-    return {word: value for word, value in values.items() if word not in words}
-
-
 def put_within(cell, values, todo):
     """The cells within a cell, with values in the place of words; and which of them are still to be made.
 
-    These are put into `todo` with their values, and told as tuples of the index among the cells within, and of that
-    in `todo`.
+    These are put into `todo`, and told as tuples of the index among the cells within, and of that in `todo`.
     """
     found = []
     later = []
     for at, inner in enumerate(cell.inner):
         if inner.loose:
-            left = values_left(values, cell.bound[at]) if cell.bound else values
             if inner.shell[0] == "name":
-                inner = left.get(inner.shell[1], inner)
-            elif has_some(inner.loose, left):
+                inner = values.get(inner.shell[1], inner)
+            elif has_some(inner.loose, values):
                 later.append((at, len(todo)))
-                todo.append((inner, left))
+                todo.append(inner)
         found.append(inner)
     return found, later
 
 
-def put_for(cell, table):
-    """The cell with values, in which no words are loose, in the place of words, as a dict tells."""
-    if not has_some(cell.loose, table):
+def put_for(cell, values):
+    """The cell with values, in which no words are loose, in the place of words, as a dict tells.
+
+    No word of these is bound anew where it is loose, as what binds words in one tree binds all unlike ones.
+    """
+    if not has_some(cell.loose, values):
         return cell
     if cell.shell[0] == "name":
-        return table[cell.shell[1]]
-    todo = [(cell, table)]
+        return values[cell.shell[1]]
+    todo = [cell]
     within = []
     while len(within) < len(todo):
-        one, values = todo[len(within)]
-        within.append(put_within(one, values, todo))
+        within.append(put_within(todo[len(within)], values, todo))
     made = [None for _ in todo]
     number = len(todo)
     while number > 0:
         number -= 1
-        one, values = todo[number]
+        one = todo[number]
         inner, later = within[number]
         for at, index in later:
             inner[at] = made[index]

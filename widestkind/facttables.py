@@ -25,49 +25,55 @@ class FactTable:
             self._put(told)
 
     def _node(self, point):
-        """The node of a point, new ones on the way to it included."""
-        found = self.nodes.get(point)
-        if found is None:
-            knot, what, way = point
-            seat = None if way == () else (self._node((knot, what, way[:-1])), way[-1])
-            found = len(self.above)
-            self.nodes[point] = found
-            self.above.append(seat)
+        """The node of a new point, those on the way to it included."""
+        knot, what, way = point
+        seat = None
+        if way:
+            above = (knot, what, way[:-1])
+            seat = (self.nodes[above] if above in self.nodes else self._node(above), way[-1])
+        found = len(self.above)
+        self.nodes[point] = found
+        self.above.append(seat)
         return found
 
     def _put(self, told):
         """Puts in the facts of the next knot."""
         pairs, heads, onlys, links, powers = [], [], [], [], []
-        named = {}
+        seats = {}
         for what in told:
-            if what[0] == "same":
-                pairs.append((self._named(what[1], named), self._named(what[2], named)))
-            elif what[0] == "head":
-                heads.append((self._named(what[1], named), what[2]))
-            elif what[0] == "in":
-                self._named((what[1][0], what[1][1], (*what[1][2], label_step(what[2]))), named)
-            elif what[0] == "only":
-                onlys.append((self._named(what[1], named), {label_step(label): True for label in what[2]}))
-            elif what[0] == "power":
-                powers.append(([(self._named(point, named), number) for point, number in what[1]], what[2]))
+            head = what[0]
+            if head == "same":
+                pairs.append((self._seated(what[1], seats), self._seated(what[2], seats)))
+            elif head == "head":
+                heads.append((self._seated(what[1], seats), what[2]))
+            elif head == "in":
+                knot, root, way = what[1]
+                self._seated((knot, root, (*way, label_step(what[2]))), seats)
+            elif head == "only":
+                onlys.append((self._seated(what[1], seats), {label_step(label): True for label in what[2]}))
+            elif head == "power":
+                powers.append(([(self._seated(point, seats), number) for point, number in what[1]], what[2]))
             else:
-                one, other, labels = (what[1], what[2], (what[3],)) if what[0] == "but" else (what[1], what[3], what[2])
+                one, other, labels = (what[1], what[2], (what[3],)) if head == "but" else (what[1], what[3], what[2])
                 steps = {label_step(label): True for label in labels}
-                links.append((self._named(one, named), self._named(other, named), steps))
-        self.seats.append(list(named.values()))
+                links.append((self._seated(one, seats), self._seated(other, seats), steps))
+        self.seats.append(list(seats.values()))
         self.pairs.append(pairs)
         self.heads.append(heads)
         self.onlys.append(onlys)
         self.links.append(links)
         self.powers.append(powers)
 
-    def _named(self, point, named):
+    def _seated(self, point, seats):
         """The node of a point; notes the seats on the way to it by their nodes."""
-        found = self._node(point)
+        found = self.nodes.get(point)
+        if found is None:
+            found = self._node(point)
         node = found
-        while self.above[node] is not None and node not in named:
-            named[node] = (*self.above[node], node)
-            node = self.above[node][0]
+        while self.above[node] is not None and node not in seats:
+            above, step = self.above[node]
+            seats[node] = (above, step, node)
+            node = above
         return found
 
     def fits(self, knots):

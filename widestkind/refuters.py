@@ -4,7 +4,7 @@ from widestkind.exchanges import changed_whole, check_tree_place, tree_with_all
 from widestkind.hittings import cheapest_hit, met_too
 from widestkind.paperjudge import is_paper
 from widestkind.papers import clash, paper_places
-from widestkind.trials import Trials
+from widestkind.trials import trials_of
 from widestkind.wholes import is_place_of
 from widestkind.words import is_integer
 
@@ -18,7 +18,7 @@ def refuter(whole, places=None):
         for place in places:
             if not is_place_of(whole, place):
                 raise BadPlace(place)
-    trials = Trials(whole)
+    trials = trials_of(whole)
     lot = trials.all_bits() if places is None else trials.lot(places)
     if trials.fits(lot):
         return None
@@ -48,7 +48,7 @@ def members(trials, lot):
 
 def is_refuter(whole, value):
     """Whether any value is a refuter of a whole."""
-    trials = Trials(whole)
+    trials = trials_of(whole)
     lot = lot_of(trials, value)
     if lot is None or trials.fits(lot):
         return False
@@ -57,7 +57,7 @@ def is_refuter(whole, value):
 
 def is_mend(whole, value):
     """Whether any value is a mend of a whole."""
-    trials = Trials(whole)
+    trials = trials_of(whole)
     lot = lot_of(trials, value)
     if lot is None:
         return False
@@ -72,13 +72,21 @@ def check_many(trials, most):
 
 
 def both(whole):
-    """The Trials of a whole, the list of all refuters and that of all mends, as lots.
+    """The Trials of a whole, the list of all refuters and that of all mends, as lots."""
+    trials = trials_of(whole)
+    check_many(trials, MOST_PLACES)
+    lots = whole.kept("lots")
+    if lots is None:
+        lots = whole.keep("lots", all_lots(trials))
+    return trials, lots[0], lots[1]
+
+
+def all_lots(trials):
+    """The tuple of the lists of all refuters and of all mends.
 
     The least lots that meet the refuters that are known are the mends if all other places fit in each case; otherwise
     a further refuter lies among these.
     """
-    trials = Trials(whole)
-    check_many(trials, MOST_PLACES)
     found = []
     hits = [0]
     at = 0
@@ -91,7 +99,7 @@ def both(whole):
         found.append(lot)
         hits = met_too(hits, lot)
         at = 0
-    return trials, found, hits
+    return found, hits
 
 
 def in_order(trials, lots):
@@ -143,7 +151,7 @@ def cheapest(whole, weights):
     The cheapest lot that meets some refuters is a mend if all other places fit; otherwise these have further ones.
     """
     check_weights(whole, weights)
-    trials = Trials(whole)
+    trials = trials_of(whole)
     check_many(trials, MOST_WEIGHED)
     table = {trials.bits[place]: weight_of(weights, place) for place in trials.spots}
     found = []

@@ -5,23 +5,33 @@ from widestkind.joins import Joins
 from widestkind.paperjudge import told_facts
 from widestkind.papers import paper_end
 from widestkind.proofs import Proof
+from widestkind.solving import settled
 
 
 class Trials:
-    """The places of a whole, the facts of its knots, and the places that must be in a lot that tells them."""
+    """The places of a whole, and the places that must be in a lot that tells the facts of a knot.
+
+    The facts of its knots are looked at when a lot is asked for that has not all places.
+    """
 
     def __init__(self, whole):
+        self.whole = whole
         self.spots = whole.places()
         self.bits = {place: 1 << index for index, place in enumerate(self.spots)}
         self.needs = []
-        self.facts = []
-        knots = whole.laid()
-        for knot, (place, use, _) in enumerate(knots.rows):
+        for place, use, _ in whole.laid().rows:
             self.needs.append(self.bits[place] | (0 if use is None else self.needs[use]))
-            self.facts.append(facts_of(knots, knot))
-        self.table = FactTable(self.facts)
+        self.facts = None
+        self.table = None
         self.asked = {}
         self.clashes = {}
+
+    def _look_at_facts(self):
+        """Puts in the facts of all knots."""
+        if self.facts is None:
+            knots = self.whole.laid()
+            self.facts = [facts_of(knots, knot) for knot in range(knots.many())]
+            self.table = FactTable(self.facts)
 
     def all_bits(self):
         """The lot of all places."""
@@ -45,18 +55,29 @@ class Trials:
     def fits(self, lot):
         """Whether a lot fits."""
         if lot not in self.asked:
-            self.asked[lot] = self.table.fits(self._knots(lot))
+            if lot == self.all_bits():
+                self.asked[lot] = settled(self.whole)[1] is not None
+            else:
+                self._look_at_facts()
+                self.asked[lot] = self.table.fits(self._knots(lot))
         return self.asked[lot]
+
+    def _joins(self, lot):
+        """The Joins of the facts that a lot tells, up to the first one that cannot be true with those ahead of it."""
+        if lot == self.all_bits():
+            return settled(self.whole)[0]
+        self._look_at_facts()
+        joins = Joins()
+        for knot in self._knots(lot):
+            joins.tell(knot, self.facts[knot])
+            if joins.wrong is not None:
+                break
+        return joins
 
     def clash_in(self, lot):
         """The lot of the places of a clash within a lot that does not fit."""
         if lot not in self.clashes:
-            joins = Joins()
-            for knot in self._knots(lot):
-                joins.tell(knot, self.facts[knot])
-                if joins.wrong is not None:
-                    break
-            proof = Proof(joins)
+            proof = Proof(self._joins(lot))
             end = paper_end(proof)
             told = 0
             for knot, _ in told_facts((proof.found, end)):
@@ -75,3 +96,9 @@ class Trials:
                 lot -= bit
                 clash = self.clash_in(lot)
         return lot
+
+
+def trials_of(whole):
+    """The Trials of a whole, which are kept with it."""
+    found = whole.kept("trials")
+    return whole.keep("trials", Trials(whole)) if found is None else found

@@ -105,7 +105,10 @@ class Reader:
         if symbol[0] == "~":
             pieces.append(form_piece(symbol[1:], items, begin, end, self.notes))
             return
-        make = TREE_MAKERS[symbol] if symbol[0] == "!" else KIND_MAKERS[symbol]
+        if symbol[0] == "!":
+            make = TREE_MAKERS[symbol]
+        else:
+            make = KIND_MAKERS[symbol]
         pieces.append(make(items, begin, end, self.notes))
 
     def finish(self):

@@ -28,3 +28,21 @@ def grouped(uses):
                 done.add(other)
             found.append(sorted(group))
     return found
+
+
+def in_turn(groups, uses):
+    """The groups, each behind those that it uses; what is in no group does not count."""
+    left = {name: True for group in groups for name in group}
+    found = []
+    waiting = groups
+    while waiting:
+        later = []
+        for group in waiting:
+            if any([word in left and word not in group for name in group for word in uses[name]]):
+                later.append(group)
+                continue
+            found.append(group)
+            for name in group:
+                del left[name]
+        waiting = later
+    return found

@@ -25,6 +25,26 @@ def met_too(hits, lot):
     return found
 
 
+def least_and_hits(everything, least_in):
+    """The tuple of the lists of all least lots of a sort within a lot, and of all least lots that meet all of them.
+
+    `least_in` tells one of the sort within a lot, or None. The least lots that meet those that are known are all of
+    them if none of the sort lies among all others in each case; otherwise a further one lies there.
+    """
+    found = []
+    hits = [0]
+    at = 0
+    while at < len(hits):
+        lot = least_in(everything - hits[at])
+        if lot is None:
+            at += 1
+        else:
+            found.append(lot)
+            hits = met_too(hits, lot)
+            at = 0
+    return found, hits
+
+
 class Cheapest:
     """The search for the lot of the least weight that meets all of some lots.
 

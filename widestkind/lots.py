@@ -4,8 +4,8 @@ A lot is an integer with a bit for each of its definitions.
 """
 from widestkind.demands import is_right
 from widestkind.groundkinds import group_kinds
-from widestkind.groups import grouped, reached
-from widestkind.hittings import met_too
+from widestkind.groups import grouped, in_turn, reached
+from widestkind.hittings import least_and_hits
 
 
 class Lots:
@@ -56,7 +56,7 @@ class Lots:
                 return self.bits[name]
         uses = {one: [word for word in self.web[one] if lot & self.bits[word]] for one in names}
         kinds = {}
-        for group in behind_uses(grouped(uses), uses):
+        for group in in_turn(grouped(uses), uses):
             within = self.lot(list(reached(uses, group)))
             found = self._solved(group, within, kinds)
             if found is None:
@@ -71,57 +71,25 @@ class Lots:
             self.solved[(group[0], within)] = group_kinds(self.book, group, known)
         return self.solved[(group[0], within)]
 
-    def _least_in(self, lot):
-        """A least lot that does not stand within one that does not."""
-        for name in self.names_in(lot):
-            if lot & self.bits[name]:
-                clash = self.clash_in(lot - self.bits[name])
-                lot = lot if clash is None else clash
-        return lot
+    def least_in(self, lot):
+        """A least lot that does not stand within a lot, or None if the lot stands."""
+        clash = self.clash_in(lot)
+        if clash is None:
+            return None
+        for name in self.names_in(clash):
+            if clash & self.bits[name]:
+                less = self.clash_in(clash - self.bits[name])
+                clash = clash if less is None else less
+        return clash
 
     def lots_and_cures(self):
-        """The lists of all least lots that do not stand, and of all least lots without which the others stand.
-
-        The least lots that meet those that are known are the cures if all others stand in each case; otherwise a
-        further one that does not stand lies among these.
-        """
-        if self.known is not None:
-            return self.known
-        everything = self.lot(self.order)
-        found = []
-        hits = [0]
-        at = 0
-        while at < len(hits):
-            clash = self.clash_in(everything - hits[at])
-            if clash is None:
-                at += 1
-                continue
-            lot = self._least_in(clash)
-            found.append(lot)
-            hits = met_too(hits, lot)
-            at = 0
-        self.known = (self._in_order(found), self._in_order(hits))
+        """The lists of all least lots that do not stand, and of all least lots without which the others stand."""
+        if self.known is None:
+            found, hits = least_and_hits(self.lot(self.order), self.least_in)
+            self.known = (self._in_order(found), self._in_order(hits))
         return self.known
 
     def _in_order(self, lots):
         """Lots as tuples of names, those with fewer names first, then in ascending order."""
         rows = [tuple(self.names_in(lot)) for lot in lots]
         return [row for _, row in sorted([(len(one), one) for one in rows])]
-
-
-def behind_uses(groups, uses):
-    """The groups, each behind those that it uses."""
-    found = []
-    done = {}
-    left = groups
-    while left:
-        waiting = []
-        for group in left:
-            if any([word not in done and word not in group for name in group for word in uses[name]]):
-                waiting.append(group)
-                continue
-            found.append(group)
-            for name in group:
-                done[name] = True
-        left = waiting
-    return found

@@ -2,6 +2,7 @@
 from widestkind.errors import BadMacro
 from widestkind.expanding import has_calls
 from widestkind.groundkinds import group_kinds
+from widestkind.groups import in_turn
 from widestkind.kinds import kind_text
 from widestkind.kindwalks import kinds_of, own_kinds_in
 from widestkind.names import plain_text
@@ -141,25 +142,6 @@ class Group:
         return {name: ("kind", kinds[name]) for name in self.members}
 
 
-def in_turn(groups):
-    """The groups, each behind those that it uses."""
-    homes = {name: True for group in groups for name in group.members}
-    found = []
-    done = {}
-    left = list(groups)
-    while left:
-        waiting = []
-        for group in left:
-            if [name for name in group.outside if name in homes and name not in done]:
-                waiting.append(group)
-                continue
-            found.append(group)
-            for name in group.members:
-                done[name] = True
-        left = waiting
-    return found
-
-
 class State:
     """The lines of a shelf with their book, and the readings and the verdicts of all definitions.
 
@@ -179,9 +161,10 @@ class State:
         if earlier is not None:
             book.take_over(earlier.book)
         self._put_entries(earlier)
-        self._put_groups(earlier)
-        for group in in_turn([group for name, group in self.group_of.items() if group.members[0] == name]):
-            self._settle(group, earlier)
+        groups = book.groups()
+        self._put_groups(groups, earlier)
+        for names in in_turn(groups, {name: group.outside for name, group in self.group_of.items()}):
+            self._settle(self.group_of[names[0]], earlier)
 
     def _put_entries(self, earlier):
         """Puts in the Entries; one that tells the same as an earlier one is that one."""
@@ -195,10 +178,10 @@ class State:
             else:
                 self.entries[line.name] = Entry(self.book, line)
 
-    def _put_groups(self, earlier):
+    def _put_groups(self, groups, earlier):
         """Puts in the Groups; one of the same Entries and own kinds as an earlier one is that one."""
         same = earlier is not None and self.book.texts_of("kind") == earlier.book.texts_of("kind")
-        for names in self.book.groups():
+        for names in groups:
             entries = [self.entries[name] for name in names]
             group = earlier.group_of.get(names[0]) if same else None
             if group is None or group.entries != entries:

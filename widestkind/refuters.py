@@ -1,7 +1,7 @@
 """The least lots of places that do not fit together, and the least lots that have to be changed."""
 from widestkind.errors import BadPlace, BadWeight, TooMany
 from widestkind.exchanges import changed_whole, check_tree_place, tree_with_all
-from widestkind.hittings import cheapest_hit, met_too
+from widestkind.hittings import cheapest_hit, least_and_hits
 from widestkind.paperjudge import is_paper
 from widestkind.papers import clash, paper_places
 from widestkind.trials import trials_of
@@ -19,10 +19,8 @@ def refuter(whole, places=None):
             if not is_place_of(whole, place):
                 raise BadPlace(place)
     trials = trials_of(whole)
-    lot = trials.all_bits() if places is None else trials.lot(places)
-    if trials.fits(lot):
-        return None
-    return trials.places_of(trials.refuter_in(lot))
+    found = trials.some_refuter(trials.all_bits() if places is None else trials.lot(places))
+    return None if found is None else trials.places_of(found)
 
 
 def lot_of(trials, value):
@@ -77,29 +75,8 @@ def both(whole):
     check_many(trials, MOST_PLACES)
     lots = whole.kept("lots")
     if lots is None:
-        lots = whole.keep("lots", all_lots(trials))
+        lots = whole.keep("lots", least_and_hits(trials.all_bits(), trials.some_refuter))
     return trials, lots[0], lots[1]
-
-
-def all_lots(trials):
-    """The tuple of the lists of all refuters and of all mends.
-
-    The least lots that meet the refuters that are known are the mends if all other places fit in each case; otherwise
-    a further refuter lies among these.
-    """
-    found = []
-    hits = [0]
-    at = 0
-    while at < len(hits):
-        others = trials.all_bits() - hits[at]
-        if trials.fits(others):
-            at += 1
-            continue
-        lot = trials.refuter_in(others)
-        found.append(lot)
-        hits = met_too(hits, lot)
-        at = 0
-    return found, hits
 
 
 def in_order(trials, lots):

@@ -97,6 +97,10 @@ class Trials:
                 clash = self.clash_in(lot)
         return lot
 
+    def some_refuter(self, lot):
+        """A refuter within a lot, or None if the lot fits."""
+        return None if self.fits(lot) else self.refuter_in(lot)
+
 
 def trials_of(whole):
     """The Trials of a whole, which are kept with it."""

@@ -11,26 +11,27 @@ from widestkind.solving import settled
 class Trials:
     """The places of a whole, and the places that must be in a lot that tells the facts of a knot.
 
-    The facts of its knots are looked at when a lot is asked for that has not all places.
+    `joined` are the Joins of all facts. The facts by themselves are looked at when a lot is asked for that has not all
+    places.
     """
 
     def __init__(self, whole):
-        self.whole = whole
+        self.ground = whole.laid()
+        self.joined, measures = settled(whole)
         self.spots = whole.places()
         self.bits = {place: 1 << index for index, place in enumerate(self.spots)}
         self.needs = []
-        for place, use, _ in whole.laid().rows:
+        for place, use, _ in self.ground.rows:
             self.needs.append(self.bits[place] | (0 if use is None else self.needs[use]))
         self.facts = None
         self.table = None
-        self.asked = {}
+        self.asked = {self.all_bits(): measures is not None}
         self.clashes = {}
 
     def _look_at_facts(self):
         """Puts in the facts of all knots."""
         if self.facts is None:
-            knots = self.whole.laid()
-            self.facts = [facts_of(knots, knot) for knot in range(knots.many())]
+            self.facts = [facts_of(self.ground, knot) for knot in range(self.ground.many())]
             self.table = FactTable(self.facts)
 
     def all_bits(self):
@@ -48,27 +49,24 @@ class Trials:
         """The ascending list of the places of a lot."""
         return [place for place in self.spots if lot & self.bits[place]]
 
-    def _knots(self, lot):
+    def _knots_told(self, lot):
         """The list of the knots whose facts a lot tells."""
         return [knot for knot, needs in enumerate(self.needs) if needs & lot == needs]
 
     def fits(self, lot):
         """Whether a lot fits."""
         if lot not in self.asked:
-            if lot == self.all_bits():
-                self.asked[lot] = settled(self.whole)[1] is not None
-            else:
-                self._look_at_facts()
-                self.asked[lot] = self.table.fits(self._knots(lot))
+            self._look_at_facts()
+            self.asked[lot] = self.table.fits(self._knots_told(lot))
         return self.asked[lot]
 
     def _joins(self, lot):
         """The Joins of the facts that a lot tells, up to the first one that cannot be true with those ahead of it."""
         if lot == self.all_bits():
-            return settled(self.whole)[0]
+            return self.joined
         self._look_at_facts()
         joins = Joins()
-        for knot in self._knots(lot):
+        for knot in self._knots_told(lot):
             joins.tell(knot, self.facts[knot])
             if joins.wrong is not None:
                 break
